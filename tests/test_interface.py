@@ -1,0 +1,99 @@
+"""[1] and the interface: each name stands in its module, is defined there, and takes its arguments as written."""
+
+import inspect
+import unittest
+from importlib import import_module
+
+ERRORS = [
+    "RowError", "InvalidList", "InvalidItem", "InvalidHistory", "InvalidState", "InvalidNumber", "InvalidText",
+    "InvalidTree", "InvalidLine", "InvalidMark", "InvalidChange", "InvalidKeys", "InvalidPattern", "InvalidTable",
+    "InvalidRules", "InvalidLayout", "UnknownDeed", "UnknownSign", "InvalidName", "TakenName", "UnknownName",
+    "NothingToUndo",
+]
+FUNCTIONS = {
+    "everrow.history": {
+        "deed_names": "history", "deed_named": "history name", "rests": "history name", "bears": "history name",
+        "ever_row": "history", "sign_of": "history sign", "is_state": "history value", "whole": "history",
+        "closure": "history listed", "heart": "history listed", "seen": "history state", "text_of": "history state",
+        "ahead_of": "history state sign",
+    },
+    "everrow.states": {
+        "out": "history state name", "into": "history state name", "meet": "history one other",
+        "join": "history one other", "way": "history one other", "is_way": "history one other value",
+        "how_many": "history low high", "state_at": "history low high number", "number_of": "history low high state",
+        "texts": "history", "showing": "history text", "parted": "history one other",
+    },
+    "everrow.hands": {"clashes": "history one other"},
+    "everrow.trees": {
+        "span": "history one other", "state_of": "tree name", "text_at": "tree name", "way_of": "tree one other",
+        "cost": "tree one other", "bent": "tree", "kept": "tree number", "unserved": "tree number",
+        "doors": "tree one text", "graft": "history base tip onto",
+    },
+    "everrow.blends": {
+        "sign_span": "history one other", "sign_cost": "tree one other", "kept_by_signs": "tree number",
+        "unserved_by_signs": "tree number", "blend": "history base one other", "unblended": "history base one other",
+        "common": "tree one other", "blended": "tree one other", "turns": "tree name", "holding": "tree name",
+    },
+    "everrow.seen": {
+        "stands": "history state line", "best": "history line", "only": "history line", "read": "history word",
+        "whenever": "history one other", "trimmed": "history states",
+    },
+    "everrow.lines": {
+        "best_between": "history low high line", "best_both": "history one other", "fewest_for": "history line",
+        "words_shown": "history size",
+    },
+    "everrow.marks": {
+        "place_of": "history state mark", "is_lost": "history state mark", "marks_in_order": "history marks",
+        "moves": "history one other marks", "meeting": "history one other", "apart": "history one other",
+        "strays": "history states mark", "picked": "history state selection", "crossing": "history folds",
+        "folded": "history state folds",
+    },
+}
+CLASSES = {
+    ("everrow.history", "History"): {"__init__": "deeds", "deeds": "", "__eq__": None},
+    ("everrow.hands", "Net"): {
+        "__init__": "hands", "put": "hand anchor text", "drop": "hand signs", "send": "hand other listed",
+        "heard": "hand", "waiting": "hand", "history": "hand", "text": "hand", "lacks": "hand other", "rounds": "",
+    },
+    ("everrow.trees", "Tree"): {"__init__": "history rows", "history": "", "rows": "", "__eq__": None},
+}
+
+
+class InterfaceTest(unittest.TestCase):
+
+    def test_errors(self):
+        module = import_module("everrow.errors")
+        for word in ERRORS:
+            self.assertEqual(getattr(module, word).__module__, "everrow.errors")
+
+    def test_functions(self):
+        for place, rows in FUNCTIONS.items():
+            module = import_module(place)
+            for word, names in rows.items():
+                with self.subTest(f"{place}.{word}"):
+                    made = getattr(module, word)
+                    self.assertTrue(inspect.isfunction(made))
+                    self.assertEqual(made.__module__, place)
+                    self.assertEqual(made.__name__, word)
+                    self.check_parameters(made, names.split())
+
+    def test_classes(self):
+        for (place, word), rows in CLASSES.items():
+            made = getattr(import_module(place), word)
+            self.assertEqual(made.__module__, place)
+            for method, names in rows.items():
+                with self.subTest(f"{place}.{word}.{method}"):
+                    self.assertIn(method, vars(made))
+                    if names is not None:
+                        self.check_parameters(vars(made)[method], ["self"] + names.split())
+
+    def check_parameters(self, made, names):
+        told = inspect.signature(made).parameters.values()
+        self.assertEqual([one.name for one in told], names)
+        for one in told:
+            self.assertEqual(one.kind, inspect.Parameter.POSITIONAL_OR_KEYWORD)
+            self.assertIs(one.default, inspect.Parameter.empty)
+
+
+if __name__ == "__main__":
+    unittest.main()

@@ -1,0 +1,169 @@
+"""[3]: at the limits that the document names, each answer comes within seconds."""
+
+import unittest
+from itertools import combinations
+from random import Random
+from time import monotonic
+
+from everrow import blends, hands, lines, marks, seen, states, trees
+from everrow.history import History, closure, deed_names, ever_row, heart, rests, text_of, whole
+from tests.makers import chain, heap, mixed
+
+SECONDS = 10
+
+
+def bushy(seed, many=24, drops=2, longest=6):
+    """A history of so many deeds, about one of `drops` of them drops of up to six signs."""
+    chance = Random(seed)
+    deeds, signs = [], []
+    for number in range(1, many + 1):
+        if signs and chance.randrange(drops) == 0:
+            named = sorted(chance.sample(signs, min(len(signs), chance.randint(1, 6))))
+            deeds.append(("drop", (number, "a"), named))
+        else:
+            text = "".join(chance.choice("ab") for _ in range(chance.randint(1, longest)))
+            deeds.append(("put", (number, "a"), chance.choice([None] + signs), text))
+            signs += [(number, "a", at) for at in range(len(text))]
+    return deeds
+
+
+def crowded(seed):
+    """24 deeds with 36 signs, most of them alike."""
+    chance = Random(seed)
+    deeds = [("put", (k, "a"), (k - 1, "a", chance.randrange(3)) if k > 1 else None, "aaa" if k % 4 else "aab")
+             for k in range(1, 13)]
+    signs = [(k, "a", at) for k in range(1, 13) for at in range(3)]
+    return deeds + [("drop", (20 + k, "b"), sorted(chance.sample(signs, 1 + k % 6))) for k in range(12)]
+
+
+class LimitsTest(unittest.TestCase):
+
+    def setUp(self):
+        self.start = monotonic()
+
+    def tearDown(self):
+        self.assertLess(monotonic() - self.start, SECONDS)
+
+    def all_large(self):
+        return [History(deeds) for deeds in (heap(24, "abcdef"), chain(24, "abcdef"), mixed(12, 12), mixed(1, 23))
+                ] + [History(bushy(seed)) for seed in range(6)]
+
+    def test_histories(self):
+        for given in self.all_large():
+            top = whole(given)
+            for name in deed_names(given):
+                rests(given, name)
+                self.assertLessEqual(set(heart(given, [name])), set(closure(given, [name])))
+                closure(given, top[::-1])
+            self.assertEqual(len(ever_row(given)), len(set(ever_row(given))))
+            self.assertLessEqual(len(text_of(given, top)), 144)
+
+    def test_states(self):
+        for given in self.all_large():
+            top = whole(given)
+            for name in top:
+                less = states.out(given, top, name)
+                self.assertTrue(states.is_way(given, less, top, states.way(given, less, top)))
+        for deeds in [heap(14), chain(14, "abcdef"), mixed(7, 7)] + [bushy(seed, 14, 3) for seed in range(6)]:
+            given = History(deeds)
+            top = whole(given)
+            many = states.how_many(given, [], top)
+            for number in (0, many // 3, many - 1):
+                state = states.state_at(given, [], top, number)
+                self.assertEqual(states.number_of(given, [], top, state), number)
+            found = states.texts(given)
+            self.assertLessEqual(len(found), many)
+            self.assertEqual(text_of(given, states.showing(given, found[-1])), found[-1])
+
+    def test_parted(self):
+        for seed in range(10):
+            given = History(bushy(seed, 23))
+            top = whole(given)
+            for name in top:
+                states.parted(given, states.out(given, top, name), top)
+
+    def test_hands(self):
+        net = hands.Net(["a", "b", "c", "d"])
+        for k in range(24):
+            hand = "abcd"[k % 4]
+            net.put(hand, None, "abcdef")
+            net.send(hand, "abcd"[k // 4 % 4], net.heard(hand)[-2:])
+        found = net.rounds()
+        for one, other in found:
+            net.send(one, other, net.heard(one) + net.waiting(one))
+        self.assertEqual([len(net.text(hand)) for hand in "abcd"], [144] * 4)
+        given = History(heap(24))
+        self.assertEqual(len(hands.clashes(given, whole(given)[:12], whole(given)[12:])), 144)
+
+    def test_trees(self):
+        for seed, given in enumerate(self.all_large()):
+            chance = Random(seed)
+            names = deed_names(given)
+            rows = [("a", None, [])]
+            for letter in "bcdefghij":
+                state = closure(given, chance.sample(names, chance.randint(0, 24)))
+                rows.append((letter, chance.choice(rows)[0], state))
+            tree = trees.Tree(given, rows)
+            trees.bent(tree)
+            for number in (0, 5, 12, 100):
+                self.assertEqual(len(trees.kept(tree, number)), len(trees.unserved(tree, number)))
+                self.assertEqual(len(blends.kept_by_signs(tree, number)), len(blends.unserved_by_signs(tree, number)))
+            for one, other in combinations("abcdefghij", 2):
+                self.assertLessEqual(trees.doors(tree, one, trees.text_at(tree, other))[0], trees.cost(tree, one, other))
+                blends.blended(tree, one, other)
+            for name in names:
+                blends.turns(tree, name)
+
+    def test_seen(self):
+        for given in self.all_large():
+            row = ever_row(given)
+            for line in (row, row[::2], row[:1] + row[-1:]):
+                state = seen.best(given, line)
+                self.assertTrue(state is None or seen.stands(given, state, line))
+                seen.only(given, line)
+                lines.best_both(given, line, row[-1:])
+                lines.best_between(given, [], whole(given), line)
+            for one in row[::5]:
+                for other in row[::7]:
+                    seen.whenever(given, one, other)
+            seen.trimmed(given, [whole(given)] * 20)
+
+    def test_words(self):
+        for seed in range(6):
+            given = History(crowded(seed))
+            self.assertEqual(len(ever_row(given)), 36)
+            for word in ("aaaa", "aaab", "abab", "bbbb", "baab", "aaac"):
+                seen.read(given, word)
+            for size in (1, 2, 3):
+                lines.words_shown(given, size)
+
+    def test_fewest_for(self):
+        for seed in range(20):
+            given = History(bushy(seed, 14))
+            row = ever_row(given)
+            for line in combinations(row[::3], 2):
+                found = lines.fewest_for(given, list(line))
+                self.assertTrue(found is None or seen.stands(given, found, list(line)))
+
+    def test_marks(self):
+        for seed, given in enumerate(self.all_large()):
+            chance = Random(seed)
+            every = [("first",), ("last",)] + [(word, sign) for word in ("ahead", "behind") for sign in ever_row(given)]
+            chance.shuffle(every)
+            half = min(60, len(every) // 2)
+            pairs = list(zip(every[:half], every[half:]))
+            rows = [closure(given, chance.sample(whole(given), 9)) for _ in range(20)]
+            marks.marks_in_order(given, every)
+            marks.moves(given, rows[0], rows[1], every)
+            for one, other in pairs:
+                marks.strays(given, rows, one)
+                marks.meeting(given, one, other)
+                marks.apart(given, one, other)
+            folds = [tuple(marks.marks_in_order(given, list(pair))) for pair in pairs]
+            marks.crossing(given, folds)
+            marks.folded(given, whole(given), folds[:1] * 60)
+            marks.picked(given, whole(given), folds[0])
+
+
+if __name__ == "__main__":
+    unittest.main()

@@ -1,0 +1,265 @@
+"""[2]: what holds for each function and method: the order of errors, arguments that stay, lists that are new."""
+
+import unittest
+from copy import deepcopy
+from importlib import import_module
+
+from everrow import errors
+from everrow.hands import Net
+from everrow.history import History
+from everrow.trees import Tree
+from tests.makers import PLAIN
+
+ANN, BOB, DROP = (1, "ann"), (2, "bob"), (3, "ann")
+A, B, X = (1, "ann", 0), (1, "ann", 1), (2, "bob", 0)
+TOP = [ANN, BOB, DROP]
+ROWS = [("top", None, []), ("one", "top", [ANN]), ("two", "one", [ANN, BOB]), ("three", "one", [ANN, DROP])]
+BEHIND, AHEAD, FIRST, LAST = ("behind", A), ("ahead", B), ("first",), ("last",)
+
+
+def net():
+    made = Net(["ann", "bob", "cy"])
+    made.put("ann", None, "ab")
+    made.put("ann", A, "c")
+    made.drop("ann", [A, B])
+    made.send("ann", "bob", [(2, "ann")])
+    return made
+
+
+def history():
+    return History(PLAIN)
+
+
+def tree():
+    return Tree(history(), ROWS)
+
+
+# For each argument: its name, a way to make it, and the error for what it cannot be (None if it may be any value).
+HISTORY = ("history", history, "InvalidHistory")
+TREE = ("tree", tree, "InvalidTree")
+
+
+def state(name, *worth):
+    return (name, lambda: list(worth), "InvalidState")
+
+
+def plain(name, worth, error):
+    return (name, lambda: deepcopy(worth), error)
+
+
+DEED, SIGN = plain("name", ANN, "UnknownDeed"), plain("sign", B, "UnknownSign")
+ONE, OTHER = state("one", ANN), state("other", ANN, BOB)
+LOW, HIGH = state("low"), state("high", *TOP)
+NODES = [plain("one", "two", "UnknownName"), plain("other", "three", "UnknownName")]
+LINE = plain("line", [A, X], "InvalidLine")
+MARK = plain("mark", BEHIND, "InvalidMark")
+NUMBER = plain("number", 1, "InvalidNumber")
+HAND = plain("hand", "ann", "UnknownName")
+FOLDS = plain("folds", [(BEHIND, AHEAD), (FIRST, LAST)], "InvalidList")
+CALLS = [
+    ("history", "History", [plain("deeds", PLAIN, "InvalidList")]),
+    ("history", "deed_names", [HISTORY]),
+    ("history", "deed_named", [HISTORY, plain("name", DROP, "UnknownDeed")]),
+    ("history", "rests", [HISTORY, plain("name", DROP, "UnknownDeed")]),
+    ("history", "bears", [HISTORY, DEED]),
+    ("history", "ever_row", [HISTORY]),
+    ("history", "sign_of", [HISTORY, SIGN]),
+    ("history", "is_state", [HISTORY, plain("value", [ANN], None)]),
+    ("history", "whole", [HISTORY]),
+    ("history", "closure", [HISTORY, plain("listed", [DROP, BOB], "InvalidList")]),
+    ("history", "heart", [HISTORY, plain("listed", [DROP, ANN], "InvalidList")]),
+    ("history", "seen", [HISTORY, state("state", *TOP)]),
+    ("history", "text_of", [HISTORY, state("state", *TOP)]),
+    ("history", "ahead_of", [HISTORY, state("state", *TOP), SIGN]),
+    ("states", "out", [HISTORY, state("state", *TOP), plain("name", BOB, "UnknownDeed")]),
+    ("states", "into", [HISTORY, state("state", ANN), plain("name", BOB, "UnknownDeed")]),
+    ("states", "meet", [HISTORY, ONE, OTHER]),
+    ("states", "join", [HISTORY, ONE, OTHER]),
+    ("states", "way", [HISTORY, ONE, OTHER]),
+    ("states", "is_way", [HISTORY, ONE, OTHER, plain("value", [("in", BOB)], None)]),
+    ("states", "how_many", [HISTORY, LOW, HIGH]),
+    ("states", "state_at", [HISTORY, LOW, HIGH, NUMBER]),
+    ("states", "number_of", [HISTORY, LOW, HIGH, state("state", ANN)]),
+    ("states", "texts", [HISTORY]),
+    ("states", "showing", [HISTORY, plain("text", "ab", "InvalidText")]),
+    ("states", "parted", [HISTORY, ONE, OTHER]),
+    ("states", "parted", [HISTORY, ONE, state("other", ANN)]),
+    ("hands", "Net", [plain("hands", ["ann", "bob"], "InvalidList")]),
+    ("hands", "clashes", [HISTORY, state("one", ANN, BOB), state("other", ANN, DROP)]),
+    ("trees", "Tree", [HISTORY, plain("rows", ROWS, "InvalidList")]),
+    ("trees", "span", [HISTORY, ONE, OTHER]),
+    ("trees", "state_of", [TREE, plain("name", "two", "UnknownName")]),
+    ("trees", "text_at", [TREE, plain("name", "two", "UnknownName")]),
+    ("trees", "way_of", [TREE] + NODES),
+    ("trees", "cost", [TREE] + NODES),
+    ("trees", "bent", [TREE]),
+    ("trees", "kept", [TREE, NUMBER]),
+    ("trees", "unserved", [TREE, NUMBER]),
+    ("trees", "doors", [TREE, plain("one", "top", "UnknownName"), plain("text", "a", "InvalidText")]),
+    ("trees", "graft", [HISTORY, state("base", ANN), state("tip", ANN, BOB), state("onto", ANN, DROP)]),
+    ("blends", "sign_span", [HISTORY, ONE, OTHER]),
+    ("blends", "sign_cost", [TREE] + NODES),
+    ("blends", "kept_by_signs", [TREE, NUMBER]),
+    ("blends", "unserved_by_signs", [TREE, NUMBER]),
+    ("blends", "blend", [HISTORY, state("base", ANN), state("one", ANN, BOB), state("other", ANN, DROP)]),
+    ("blends", "unblended", [HISTORY, state("base", ANN), state("one"), state("other", ANN, DROP)]),
+    ("blends", "common", [TREE] + NODES),
+    ("blends", "blended", [TREE] + NODES),
+    ("blends", "turns", [TREE, DEED]),
+    ("blends", "holding", [TREE, DEED]),
+    ("seen", "stands", [HISTORY, state("state", *TOP), LINE]),
+    ("seen", "best", [HISTORY, LINE]),
+    ("seen", "only", [HISTORY, LINE]),
+    ("seen", "read", [HISTORY, plain("word", "ax", "InvalidText")]),
+    ("seen", "whenever", [HISTORY, plain("one", A, "UnknownSign"), plain("other", B, "UnknownSign")]),
+    ("seen", "trimmed", [HISTORY, plain("states", [TOP, [ANN]], "InvalidList")]),
+    ("lines", "best_between", [HISTORY, LOW, HIGH, LINE]),
+    ("lines", "best_both", [HISTORY, plain("one", [A], "InvalidLine"), plain("other", [X], "InvalidLine")]),
+    ("lines", "fewest_for", [HISTORY, LINE]),
+    ("lines", "words_shown", [HISTORY, plain("size", 2, "InvalidNumber")]),
+    ("marks", "place_of", [HISTORY, state("state", *TOP), MARK]),
+    ("marks", "is_lost", [HISTORY, state("state", *TOP), MARK]),
+    ("marks", "marks_in_order", [HISTORY, plain("marks", [LAST, BEHIND, FIRST, BEHIND], "InvalidList")]),
+    ("marks", "moves", [HISTORY, ONE, OTHER, plain("marks", [LAST, BEHIND], "InvalidList")]),
+    ("marks", "meeting", [HISTORY, plain("one", BEHIND, "InvalidMark"), plain("other", LAST, "InvalidMark")]),
+    ("marks", "apart", [HISTORY, plain("one", BEHIND, "InvalidMark"), plain("other", LAST, "InvalidMark")]),
+    ("marks", "strays", [HISTORY, plain("states", [[ANN], TOP, [ANN]], "InvalidList"), MARK]),
+    ("marks", "picked", [HISTORY, state("state", *TOP), plain("selection", (BEHIND, AHEAD), "InvalidMark")]),
+    ("marks", "crossing", [HISTORY, FOLDS]),
+    ("marks", "folded", [HISTORY, state("state", *TOP), FOLDS]),
+]
+METHODS = [
+    (history, "deeds", []),
+    (net, "put", [HAND, plain("anchor", B, "UnknownSign"), plain("text", "x", "InvalidText")]),
+    (net, "drop", [HAND, plain("signs", [A, (2, "ann", 0)], "InvalidList")]),
+    (net, "send", [HAND, plain("other", "bob", "UnknownName"), plain("listed", [(3, "ann"), ANN], "InvalidList")]),
+    (net, "heard", [HAND]),
+    (net, "waiting", [plain("hand", "bob", "UnknownName")]),
+    (net, "history", [HAND]),
+    (net, "text", [HAND]),
+    (net, "lacks", [HAND, plain("other", "bob", "UnknownName")]),
+    (net, "lacks", [plain("hand", "cy", "UnknownName"), plain("other", "ann", "UnknownName")]),
+    (net, "rounds", []),
+    (tree, "history", []),
+    (tree, "rows", []),
+]
+
+
+def shown(value):
+    """A value with its objects taken apart, so that two of them can be held against each other."""
+    if isinstance(value, History):
+        return ("History", value.deeds())
+    if isinstance(value, Tree):
+        return ("Tree", value.history().deeds(), value.rows())
+    if isinstance(value, Net):
+        return ("Net", [(value.heard(hand), value.waiting(hand)) for hand in ("ann", "bob")])
+    if isinstance(value, (list, tuple)):
+        return type(value)(shown(item) for item in value)
+    return value
+
+
+def lists_in(value):
+    """All list objects within a value."""
+    found = [value] if isinstance(value, list) else []
+    if isinstance(value, (list, tuple)):
+        for item in value:
+            found += lists_in(item)
+    return found
+
+
+def kinds_in(value):
+    """The kinds of all values within a value."""
+    found = {type(value)}
+    if isinstance(value, (list, tuple)):
+        for item in value:
+            found |= kinds_in(item)
+    return found
+
+
+class RulesTest(unittest.TestCase):
+
+    def all_calls(self):
+        """For each call: a name to show, a way to get what is called, and the arguments."""
+        for module, word, arguments in CALLS:
+            made = getattr(import_module(f"everrow.{module}"), word)
+            yield f"{module}.{word}", (lambda made=made: made), arguments
+        for owner, word, arguments in METHODS:
+            yield word, (lambda owner=owner, word=word: getattr(owner(), word)), arguments
+
+    def test_arguments_stay_and_results_are_new(self):
+        for name, find, arguments in self.all_calls():
+            with self.subTest(name):
+                told = [make() for _, make, _ in arguments]
+                before = shown(told)
+                result = find()(*told)
+                self.assertEqual(shown(told), before)
+                found = lists_in(result)
+                self.assertEqual(len({id(one) for one in found}), len(found))
+                self.assertFalse({id(one) for one in found} & {id(one) for one in lists_in(told)})
+                allowed = {type(None), bool, str, int, tuple, list, History, Tree, Net}
+                self.assertTrue(kinds_in(result) <= allowed)
+
+    def test_by_name_and_again(self):
+        for name, find, arguments in self.all_calls():
+            with self.subTest(name):
+                result = find()(*[make() for _, make, _ in arguments])
+                named = find()(**{word: make() for word, make, _ in arguments})
+                self.assertEqual(shown(named), shown(result))
+                self.assertEqual(kinds_in(named), kinds_in(result))
+
+    def test_results_belong_to_the_caller(self):
+        for name, find, arguments in self.all_calls():
+            with self.subTest(name):
+                told = [make() for _, make, _ in arguments]
+                call = find()
+                result = call(*told)
+                if isinstance(getattr(call, "__self__", None), Net) and call.__name__ in ("put", "drop"):
+                    continue
+                before = deepcopy(shown(result))
+                for one in lists_in(result):
+                    one.append("changed")
+                self.assertEqual(shown(call(*told)), before)
+
+    def test_the_earliest_error_comes_first(self):
+        for name, find, arguments in self.all_calls():
+            wrong = [at for at, (_, _, error) in enumerate(arguments) if error]
+            for mask in range(1, 1 << len(wrong)):
+                chosen = [at for k, at in enumerate(wrong) if mask >> k & 1]
+                told = [make() for _, make, _ in arguments]
+                for at in chosen:
+                    told[at] = {"wrong": at}
+                error = getattr(errors, arguments[chosen[0]][2])
+                with self.subTest(name, chosen=chosen):
+                    with self.assertRaises(error) as caught:
+                        find()(*told)
+                    self.assertIs(type(caught.exception), error)
+                    field = "name" if error is errors.UnknownName else "value"
+                    self.assertIs(getattr(caught.exception, field), told[chosen[0]])
+
+    def test_any_value_is_taken_or_refused_with_an_own_error(self):
+        deep = []
+        for _ in range(29):
+            deep = [deep]
+        values = [None, True, 0, "a", (), [], {}, {"a": [1]}, deep, history(), tree(), net(), [history()], (tree(),)]
+        for name, find, arguments in self.all_calls():
+            for at, (_, _, error) in enumerate(arguments):
+                for value in values:
+                    told = [make() for _, make, _ in arguments]
+                    told[at] = value
+                    with self.subTest(name, value=value):
+                        try:
+                            result = find()(*told)
+                            self.assertTrue(error is not None or result in (True, False))
+                        except errors.RowError:
+                            self.assertIsNotNone(error)
+
+    def test_objects_equal_nothing_else(self):
+        for one in (history(), tree()):
+            for value in (None, True, 1, "a", [], (), {}, PLAIN, ROWS, net(), errors.RowError()):
+                self.assertFalse(one == value)
+                self.assertTrue(one != value)
+        self.assertFalse(history() == tree())
+
+
+if __name__ == "__main__":
+    unittest.main()
