@@ -99,6 +99,19 @@ def names_in(chart, mask):
     return [chart.names[number] for number in numbers_in(mask)]
 
 
+def names_or_none(chart, mask):
+    """The same, or None for None."""
+    return None if mask is None else names_in(chart, mask)
+
+
+def least_of(masks):
+    """The first of some masks with as few numbers as possible, or None if there are none."""
+    if not masks:
+        return None
+    sizes = [size_of(mask) for mask in masks]
+    return masks[sizes.index(min(sizes))]
+
+
 def whole_mask(chart):
     """The mask of all deeds."""
     return (1 << len(chart.names)) - 1

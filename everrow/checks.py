@@ -63,17 +63,22 @@ def known_state(chart, state):
     return mask
 
 
+def known_items(chart, listed, find):
+    """What a function finds for each item of a list; it finds None for what does not fit."""
+    if not isinstance(listed, list):
+        raise InvalidList(listed)
+    found = []
+    for item in listed:
+        known = find(chart, item)
+        if known is None:
+            raise InvalidItem(item)
+        found.append(known)
+    return found
+
+
 def known_states(chart, states):
     """The masks of a list of states."""
-    if not isinstance(states, list):
-        raise InvalidList(states)
-    masks = []
-    for state in states:
-        mask = mask_if_state(chart, state)
-        if mask is None:
-            raise InvalidItem(state)
-        masks.append(mask)
-    return masks
+    return known_items(chart, states, mask_if_state)
 
 
 def known_line(chart, line):

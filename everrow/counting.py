@@ -48,7 +48,10 @@ def how_many_between(chart, low, high):
 
 
 def how_many_from(chart, low, high, begun, number, known):
-    """How many states between two have, up to a deed, just this one and those begun with, which all stand ahead."""
+    """How many states between two have, of the deeds up to one, just this one and those begun with.
+
+    The deeds begun with have to be of such a state and all stand ahead, and none of `low` may be passed over.
+    """
     if not high >> number & 1 or chart.below[number] & ~begun:
         return 0
     passed = (1 << (number + 1)) - 1
@@ -57,8 +60,6 @@ def how_many_from(chart, low, high, begun, number, known):
     for later in numbers_in(high & ~passed):
         if not chart.below[later] & passed & ~begun:
             free |= 1 << later
-    if low & ~(begun | free):
-        return 0
     return how_many_within(chart, free & ~low, known)
 
 

@@ -75,7 +75,7 @@ class Net:
 
     def rounds(self):
         """As few givings of all that a hand has as possible behind which each hand has all deeds."""
-        return shortest_rounds([(hand, sorted(held)) for hand, held in self._held.items()])
+        return shortest_rounds([(hand, list(held)) for hand, held in self._held.items()])
 
     def _held_by(self, hand):
         """The deeds that a hand has."""

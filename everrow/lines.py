@@ -2,7 +2,7 @@
 
 from heapq import heappop, heappush
 
-from everrow.chart import closed_up, is_seen, names_in, numbers_in, size_of, whole_mask
+from everrow.chart import closed_up, is_seen, names_in, names_or_none, numbers_in, size_of, whole_mask
 from everrow.checks import known_line, known_state
 from everrow.errors import InvalidNumber
 from everrow.hiding import greatest_showing, greatest_standing, places_amid
@@ -28,8 +28,8 @@ def best_both(history, one, other):
     chart = chart_of(history)
     first = known_line(chart, one)
     second = known_line(chart, other)
-    mask = greatest_showing(chart, whole_mask(chart), first + second, places_amid(first) + places_amid(second))
-    return None if mask is None else names_in(chart, mask)
+    hidden = places_amid(first) + places_amid(second)
+    return names_or_none(chart, greatest_showing(chart, whole_mask(chart), first + second, hidden))
 
 
 def fewest_for(history, line):

@@ -1,7 +1,7 @@
 """Marks: their places in all states, where they meet and part, selections and folds of them ([60] to [64])."""
 
-from everrow.chart import closed_up, is_seen, names_in, seen_places, size_of, whole_mask
-from everrow.checks import known_state, known_states, place_if_sign
+from everrow.chart import closed_up, is_seen, least_of, names_in, names_or_none, seen_places, whole_mask
+from everrow.checks import known_items, known_state, known_states, place_if_sign
 from everrow.errors import InvalidItem, InvalidList, InvalidMark
 from everrow.hiding import greatest_hiding
 from everrow.history import chart_of
@@ -34,15 +34,7 @@ def known_mark(chart, mark):
 
 def known_marks(chart, marks):
     """The numbers of the marks of a list in the one order."""
-    if not isinstance(marks, list):
-        raise InvalidList(marks)
-    ranks = []
-    for mark in marks:
-        rank = rank_if_mark(chart, mark)
-        if rank is None:
-            raise InvalidItem(mark)
-        ranks.append(rank)
-    return ranks
+    return known_items(chart, marks, rank_if_mark)
 
 
 def gap_of(rank):
@@ -104,10 +96,7 @@ def apart(history, one, other):
     chart = chart_of(history)
     # A put with what it rests on is a state without drops, so all of its signs are seen there.
     masks = [closed_up(chart, 1 << chart.owners[place]) for place in places_between_marks(chart, one, other)]
-    if not masks:
-        return None
-    fewest = min([size_of(mask) for mask in masks])
-    return names_in(chart, [mask for mask in masks if size_of(mask) == fewest][0])
+    return names_or_none(chart, least_of(masks))
 
 
 def strays(history, states, mark):
@@ -130,7 +119,7 @@ def strays(history, states, mark):
 def carried_places(chart, one, other, place):
     """The ascending list of the places in the other state ahead of just as many of the signs seen in both.
 
-    It is counted how many of these come ahead of a place, since the others are those that it is ahead of.
+    Counted are those that come ahead of a place: the others are those that it is ahead of.
     """
     before = seen_places(chart, one)
     after = seen_places(chart, other)
@@ -167,15 +156,7 @@ def picked(history, state, selection):
 
 def known_folds(chart, folds):
     """For each selection of a list how many signs of the ever-row come ahead of its two marks."""
-    if not isinstance(folds, list):
-        raise InvalidList(folds)
-    found = []
-    for fold in folds:
-        gaps = gaps_if_selection(chart, fold)
-        if gaps is None:
-            raise InvalidItem(fold)
-        found.append(gaps)
-    return found
+    return known_items(chart, folds, gaps_if_selection)
 
 
 def do_cross(one, other):

@@ -1,6 +1,6 @@
 """What all states show: lines of signs that stand, signs seen with others, what can go unseen ([50] to [54])."""
 
-from everrow.chart import closed_up, is_seen, names_in, numbers_in, size_of, whole_mask
+from everrow.chart import closed_up, is_seen, least_of, names_in, names_or_none, numbers_in, whole_mask
 from everrow.checks import known_line, known_sign, known_state, known_states, places_if_line
 from everrow.errors import InvalidLine, InvalidText
 from everrow.hiding import greatest_showing, greatest_standing, places_amid
@@ -23,8 +23,7 @@ def stands(history, state, line):
 def best(history, line):
     """The state with all deeds of each other one in which a line of signs stands, or None."""
     chart = chart_of(history)
-    mask = greatest_standing(chart, whole_mask(chart), known_line(chart, line))
-    return None if mask is None else names_in(chart, mask)
+    return names_or_none(chart, greatest_standing(chart, whole_mask(chart), known_line(chart, line)))
 
 
 def only(history, line):
@@ -34,8 +33,7 @@ def only(history, line):
     if places is None:
         raise InvalidLine(line)
     others = [place for place in range(len(chart.row)) if place not in places]
-    mask = greatest_showing(chart, whole_mask(chart), places, others)
-    return None if mask is None else names_in(chart, mask)
+    return names_or_none(chart, greatest_showing(chart, whole_mask(chart), places, others))
 
 
 def read(history, word):
@@ -72,11 +70,7 @@ def whenever(history, one, other):
     if not is_seen(chart, least, second):
         return names_in(chart, least)
     drops = numbers_in(chart.foes[second] & ~chart.foes[first])
-    masks = [least | closed_up(chart, 1 << number) for number in drops]
-    if not masks:
-        return None
-    fewest = min([size_of(mask) for mask in masks])
-    return names_in(chart, [mask for mask in masks if size_of(mask) == fewest][0])
+    return names_or_none(chart, least_of([least | closed_up(chart, 1 << number) for number in drops]))
 
 
 def trimmed(history, states):

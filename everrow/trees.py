@@ -50,9 +50,7 @@ def is_row(chart, row, names):
     name, parent, state = row
     if not is_name(name) or name in names or mask_if_state(chart, state) is None:
         return False
-    if not names:
-        return parent is None
-    return isinstance(parent, str) and parent in names
+    return parent in names if names else parent is None
 
 
 def check_tree(tree):
@@ -69,7 +67,7 @@ def names_of(tree):
 def known_node(tree, name):
     """The number of a node."""
     names = names_of(tree)
-    if not isinstance(name, str) or name not in names:
+    if name not in names:
         raise UnknownName(name)
     return names.index(name)
 

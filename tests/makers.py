@@ -15,8 +15,8 @@ NO_NUMBERS = [None, True, False, "1", [1], (1,), {1: 1}]
 NO_HISTORIES = [None, True, 3, "ann", [], PLAIN, (PLAIN,), {}]
 NO_TEXTS = [None, True, 7, ["a"], ("a",), "A", "a.", "\t", "\u00e9", "a1", "~", {}]
 NO_DEED_NAMES = [
-    None, True, 1, "ann", [], (), (1,), [1, "ann"], (True, "ann"), ("1", "ann"), (1, "ann", 0), (1, ["ann"]), (9, "ann"),
-    (1, "bob"), (0, "ann"), (1, None), ({}, "ann"), {},
+    None, True, 1, "ann", [], (), (1,), [1, "ann"], (True, "ann"), ("1", "ann"), (1, "ann", 0), (1, ["ann"]),
+    (9, "ann"), (1, "bob"), (0, "ann"), (1, None), ({}, "ann"), {},
 ]
 NO_SIGN_NAMES = [
     None, True, 1, "a", [], (), (1, "ann"), [1, "ann", 0], (True, "ann", 0), (1, "ann", False), (1, "ann", 2),

@@ -12,6 +12,7 @@ from everrow.errors import (
 from everrow.history import History, deed_names, whole
 from everrow.trees import Tree, bent, state_of
 from tests import naive
+from tests.cases import Case
 from tests.growing import (
     ANN, BOB, DROP, NAMES, NO_NODES, NO_TREES, check_serving, near_tree, plain_tree, random_tree, walk, walk_cost,
 )
@@ -26,7 +27,7 @@ def sign_spans(deeds):
     return lambda one, other: len(shown[tuple(one)] ^ shown[tuple(other)])
 
 
-class SignSpanTest(unittest.TestCase):
+class SignSpanTest(Case):
     """[45]"""
 
     def test_spans(self):
@@ -64,42 +65,25 @@ class SignSpanTest(unittest.TestCase):
             check_serving(self, rows, number, sign_spans(deeds), *found)
 
     def test_errors(self):
-        for value in NO_HISTORIES:
-            with self.assertRaises(InvalidHistory):
-                sign_span(value, None, None)
-        for value in no_states():
-            for told in ((value, None), ([], value)):
-                with self.assertRaises(InvalidState) as caught:
-                    sign_span(plain(), *told)
-                self.assertIs(caught.exception.value, value)
+        self.refuse_each(InvalidHistory, NO_HISTORIES, lambda value: sign_span(value, None, None))
+        self.refuse_each(InvalidState, no_states(), lambda value: sign_span(plain(), value, None))
+        self.refuse_each(InvalidState, no_states(), lambda value: sign_span(plain(), [], value))
         for call in (kept_by_signs, unserved_by_signs):
-            for value in NO_TREES:
-                with self.assertRaises(InvalidTree) as caught:
-                    call(value, None)
-                self.assertIs(caught.exception.value, value)
-            for value in NO_NUMBERS + [-1]:
-                with self.assertRaises(InvalidNumber) as caught:
-                    call(plain_tree(), value)
-                self.assertIs(caught.exception.value, value)
+            self.refuse_each(InvalidTree, NO_TREES, lambda value: call(value, None))
+            self.refuse_each(InvalidNumber, NO_NUMBERS + [-1], lambda value: call(plain_tree(), value))
 
 
-class TreeErrorsTest(unittest.TestCase):
+class TreeErrorsTest(Case):
     """The errors of those that take a tree and two nodes."""
 
     def test_errors(self):
         for call in (sign_cost, common, blended):
-            for value in NO_TREES:
-                with self.assertRaises(InvalidTree) as caught:
-                    call(value, None, None)
-                self.assertIs(caught.exception.value, value)
-            for value in NO_NODES:
-                for told in ((value, None), ("top", value)):
-                    with self.assertRaises(UnknownName) as caught:
-                        call(plain_tree(), *told)
-                    self.assertIs(caught.exception.name, value)
+            self.refuse_each(InvalidTree, NO_TREES, lambda value: call(value, None, None))
+            self.refuse_each(UnknownName, NO_NODES, lambda value: call(plain_tree(), value, None))
+            self.refuse_each(UnknownName, NO_NODES, lambda value: call(plain_tree(), "top", value))
 
 
-class BlendTest(unittest.TestCase):
+class BlendTest(Case):
     """[46]"""
 
     def test_all(self):
@@ -132,14 +116,10 @@ class BlendTest(unittest.TestCase):
 
     def test_errors(self):
         for call in (blend, unblended):
-            for value in NO_HISTORIES:
-                with self.assertRaises(InvalidHistory):
-                    call(value, None, None, None)
-            for value in no_states():
-                for told in ((value, None, None), ([], value, None), ([], [], value)):
-                    with self.assertRaises(InvalidState) as caught:
-                        call(plain(), *told)
-                    self.assertIs(caught.exception.value, value)
+            self.refuse_each(InvalidHistory, NO_HISTORIES, lambda value: call(value, None, None, None))
+            self.refuse_each(InvalidState, no_states(), lambda value: call(plain(), value, None, None))
+            self.refuse_each(InvalidState, no_states(), lambda value: call(plain(), [], value, None))
+            self.refuse_each(InvalidState, no_states(), lambda value: call(plain(), [], [], value))
 
     def test_arguments_stay(self):
         base, one, other = [ANN], [ANN, BOB], [ANN, DROP]
@@ -148,7 +128,7 @@ class BlendTest(unittest.TestCase):
         self.assertEqual((base, one, other), ([ANN], [ANN, BOB], [ANN, DROP]))
 
 
-class CommonTest(unittest.TestCase):
+class CommonTest(Case):
     """[47]"""
 
     def test_common_and_blended(self):
@@ -192,14 +172,8 @@ class CommonTest(unittest.TestCase):
 
     def test_errors(self):
         for call in (turns, holding):
-            for value in NO_TREES:
-                with self.assertRaises(InvalidTree) as caught:
-                    call(value, None)
-                self.assertIs(caught.exception.value, value)
-            for value in NO_DEED_NAMES:
-                with self.assertRaises(UnknownDeed) as caught:
-                    call(plain_tree(), value)
-                self.assertIs(caught.exception.value, value)
+            self.refuse_each(InvalidTree, NO_TREES, lambda value: call(value, None))
+            self.refuse_each(UnknownDeed, NO_DEED_NAMES, lambda value: call(plain_tree(), value))
 
     def test_large(self):
         given = History(mixed(12, 12))

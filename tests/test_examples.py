@@ -9,7 +9,9 @@ from everrow.seen import best, read, trimmed, whenever
 from everrow.states import how_many, into, out, parted, showing, state_at, texts, way
 from everrow.trees import Tree, bent, cost, doors, graft, kept, unserved
 
-DEEDS = [("put", (1, "ann"), None, "ab"), ("put", (2, "bob"), (1, "ann", 0), "x"), ("drop", (3, "ann"), [(1, "ann", 1)])]
+DEEDS = [
+    ("put", (1, "ann"), None, "ab"), ("put", (2, "bob"), (1, "ann", 0), "x"), ("drop", (3, "ann"), [(1, "ann", 1)]),
+]
 
 
 class ExamplesTest(unittest.TestCase):
@@ -59,7 +61,8 @@ class ExamplesTest(unittest.TestCase):
              read(history, "xb"), read(history, "ba"), whenever(history, (2, "bob", 0), (1, "ann", 1)),
              trimmed(history, [[]])[0].deeds()],
             [[(1, "ann")], [(1, "ann"), (2, "bob"), (3, "ann")],
-             ([(2, "bob", 0), (1, "ann", 1)], [(1, "ann"), (2, "bob")]), None, [(1, "ann"), (2, "bob"), (3, "ann")], []],
+             ([(2, "bob", 0), (1, "ann", 1)], [(1, "ann"), (2, "bob")]), None,
+             [(1, "ann"), (2, "bob"), (3, "ann")], []],
         )
 
     def test_marks(self):

@@ -10,6 +10,7 @@ from everrow.errors import (
 from everrow.hands import Net, clashes
 from everrow.history import History, deed_names, text_of, whole
 from tests import naive
+from tests.cases import Case
 from tests.makers import NO_HISTORIES, NO_LISTS, NO_NAMES, NO_TEXTS, heap, no_states, plain, random_deeds
 
 HANDS = ["ann", "bob", "cy", "dee"]
@@ -29,7 +30,7 @@ def give_all(net, hand, other):
     net.send(hand, other, net.heard(hand) + net.waiting(hand))
 
 
-class MakingTest(unittest.TestCase):
+class MakingTest(Case):
     """[30]"""
 
     def test_sizes(self):
@@ -37,20 +38,12 @@ class MakingTest(unittest.TestCase):
             net = Net(HANDS[:many])
             for hand in HANDS[:many]:
                 self.assertEqual((net.heard(hand), net.waiting(hand), net.text(hand)), ([], [], ""))
-        for value in NO_LISTS + [[], HANDS + ["eve"], tuple(HANDS), [None] * 5]:
-            with self.assertRaises(InvalidList) as caught:
-                Net(value)
-            self.assertIs(caught.exception.value, value)
+        self.refuse_each(InvalidList, NO_LISTS + [[], HANDS + ["eve"], tuple(HANDS), [None] * 5], Net)
 
     def test_items(self):
-        for value in NO_NAMES:
-            with self.assertRaises(InvalidItem) as caught:
-                Net(["ann", value, None])
-            self.assertIs(caught.exception.value, value)
+        self.refuse_each(InvalidItem, NO_NAMES, lambda value: Net(["ann", value, None]))
         again = "".join(["an", "n"])
-        with self.assertRaises(InvalidItem) as caught:
-            Net(["ann", "bob", again, None])
-        self.assertIs(caught.exception.value, again)
+        self.refuse(InvalidItem, again, lambda: Net(["ann", "bob", again, None]))
 
     def test_the_list_of_hands_may_change(self):
         hands = ["ann", "bob"]
@@ -58,8 +51,7 @@ class MakingTest(unittest.TestCase):
         hands.append("cy")
         hands[0] = "zoe"
         self.assertEqual(net.put("ann", None, "x"), (1, "ann"))
-        with self.assertRaises(UnknownName):
-            net.heard("cy")
+        self.refuse(UnknownName, "cy", lambda: net.heard("cy"))
 
     def test_numbers(self):
         net = Net(HANDS)
@@ -73,7 +65,8 @@ class MakingTest(unittest.TestCase):
         self.assertEqual(net.waiting("bob"), [(3, "ann")])
         self.assertEqual(net.put("bob", (1, "bob", 0), "z"), (4, "bob"))
         self.assertEqual(net.heard("bob"), [(1, "bob"), (4, "bob")])
-        self.assertEqual(net.history("bob").deeds(), [("put", (1, "bob"), None, "x"), ("put", (4, "bob"), (1, "bob", 0), "z")])
+        known = [("put", (1, "bob"), None, "x"), ("put", (4, "bob"), (1, "bob", 0), "z")]
+        self.assertEqual(net.history("bob").deeds(), known)
 
     def net(self):
         net = Net(["ann", "bob"])
@@ -82,39 +75,37 @@ class MakingTest(unittest.TestCase):
         net.send("ann", "bob", [(2, "ann")])
         return net
 
-    def refused(self, error, field, value, call):
+    def refused(self, error, value, call):
         net = self.net()
         before = told(net, ["ann", "bob"])
-        with self.assertRaises(error) as caught:
-            call(net)
-        self.assertIs(getattr(caught.exception, field), value)
+        self.refuse(error, value, call, net)
         self.assertEqual(told(net, ["ann", "bob"]), before)
 
     def test_errors_of_put(self):
         for value in NO_HANDS:
-            self.refused(UnknownName, "name", value, lambda net: net.put(value, 1, None))
+            self.refused(UnknownName, value, lambda net: net.put(value, 1, None))
         for value in [True, 0, "a", (), (1, "ann"), [1, "ann", 0], (1, "ann", 2), (1, "ann", False), (True, "ann", 0),
                       (3, "ann", 0), (1, "bob", 0), {}, [None]]:
-            self.refused(UnknownSign, "value", value, lambda net: net.put("ann", value, None))
+            self.refused(UnknownSign, value, lambda net: net.put("ann", value, None))
         for value in ((2, "ann", 0), (1, "ann", 0)):
-            self.refused(UnknownSign, "value", value, lambda net: net.put("bob", value, "x"))
+            self.refused(UnknownSign, value, lambda net: net.put("bob", value, "x"))
         for value in NO_TEXTS + ["", "abcdefg"]:
-            self.refused(InvalidText, "value", value, lambda net: net.put("ann", None, value))
+            self.refused(InvalidText, value, lambda net: net.put("ann", None, value))
 
     def test_errors_of_drop(self):
         for value in NO_HANDS:
-            self.refused(UnknownName, "name", value, lambda net: net.drop(value, None))
+            self.refused(UnknownName, value, lambda net: net.drop(value, None))
         first = (1, "ann", 0)
         for value in NO_LISTS + [[], [first] * 7, (first,)]:
-            self.refused(InvalidList, "value", value, lambda net: net.drop("ann", value))
+            self.refused(InvalidList, value, lambda net: net.drop("ann", value))
         for value in [None, True, "a", (1, "ann"), (1, "ann", 2), (1, "ann", True), (9, "ann", 0), [1, "ann", 0]]:
             # What is unknown is told ahead of what is out of order.
-            self.refused(UnknownSign, "value", value, lambda net: net.drop("ann", [first, first, value]))
-        self.refused(UnknownSign, "value", first, lambda net: net.drop("bob", [first]))
+            self.refused(UnknownSign, value, lambda net: net.drop("ann", [first, first, value]))
+        self.refused(UnknownSign, first, lambda net: net.drop("bob", [first]))
         again = tuple(list(first))
-        self.refused(InvalidItem, "value", again, lambda net: net.drop("ann", [first, again]))
-        self.refused(InvalidItem, "value", first, lambda net: net.drop("ann", [(1, "ann", 1), first]))
-        self.refused(InvalidItem, "value", first, lambda net: net.drop("ann", [(1, "ann", 1), (2, "ann", 0), first]))
+        self.refused(InvalidItem, again, lambda net: net.drop("ann", [first, again]))
+        self.refused(InvalidItem, first, lambda net: net.drop("ann", [(1, "ann", 1), first]))
+        self.refused(InvalidItem, first, lambda net: net.drop("ann", [(1, "ann", 1), (2, "ann", 0), first]))
 
     def test_lists_changed_behind_a_call(self):
         net = self.net()
@@ -141,7 +132,7 @@ class MakingTest(unittest.TestCase):
         self.assertEqual(len(net.text("ann")), 144)
 
 
-class SendingTest(unittest.TestCase):
+class SendingTest(Case):
     """[31]"""
 
     def test_errors(self):
@@ -151,20 +142,12 @@ class SendingTest(unittest.TestCase):
             for call in (lambda: net.send(value, None, None), lambda: net.send("ann", value, None),
                          lambda: net.heard(value), lambda: net.waiting(value), lambda: net.history(value),
                          lambda: net.text(value), lambda: net.lacks(value, None), lambda: net.lacks("ann", value)):
-                with self.assertRaises(UnknownName) as caught:
-                    call()
-                self.assertIs(caught.exception.name, value)
-        for value in NO_LISTS + [(name,)]:
-            with self.assertRaises(InvalidList) as caught:
-                net.send("ann", "bob", value)
-            self.assertIs(caught.exception.value, value)
+                self.refuse(UnknownName, value, lambda: call())
+        self.refuse_each(InvalidList, NO_LISTS + [(name,)], lambda value: net.send("ann", "bob", value))
         for value in [None, True, "a", [1, "ann"], (True, "ann"), (2, "ann"), (1, "bob"), (1, "ann", 0), (), {}]:
-            with self.assertRaises(UnknownDeed) as caught:
-                net.send("ann", "bob", [name, value, None])
-            self.assertIs(caught.exception.value, value)
+            self.refuse(UnknownDeed, value, lambda: net.send("ann", "bob", [name, value, None]))
             self.assertEqual(net.heard("bob"), [])
-        with self.assertRaises(UnknownDeed):
-            net.send("bob", "ann", [name])
+        self.refuse(UnknownDeed, name, lambda: net.send("bob", "ann", [name]))
 
     def test_waiting_and_heard(self):
         net = Net(["ann", "bob", "cy"])
@@ -243,7 +226,7 @@ class SendingTest(unittest.TestCase):
                 self.assertEqual(net.lacks(hand, other), sorted(theirs - names))
 
 
-class RoundsTest(unittest.TestCase):
+class RoundsTest(Case):
     """[32]"""
 
     def knowing(self, net, hands):
@@ -265,7 +248,8 @@ class RoundsTest(unittest.TestCase):
         reached = {tuple(frozenset(names) for names in owned)}
         for _ in found:
             self.assertNotIn(tuple(goal), reached)
-            reached = {tuple(map(frozenset, self.play(held, hands, [giving]))) for held in reached for giving in givings}
+            reached = {tuple(frozenset(names) for names in self.play(held, hands, [giving]))
+                       for held in reached for giving in givings}
         return found
 
     def test_each_with_a_deed(self):
@@ -308,7 +292,7 @@ class RoundsTest(unittest.TestCase):
         self.assertEqual(len(self.check(net, ["ann", "bob", "cy"])), 2)
 
 
-class ClashesTest(unittest.TestCase):
+class ClashesTest(Case):
     """[33]"""
 
     def test_all(self):
@@ -334,17 +318,12 @@ class ClashesTest(unittest.TestCase):
         self.assertEqual(clashes(History([]), [], []), [])
 
     def test_errors(self):
-        for value in NO_HISTORIES:
-            with self.assertRaises(InvalidHistory):
-                clashes(value, None, None)
-        for value in no_states():
-            for args in ((value, None), ([], value)):
-                with self.assertRaises(InvalidState) as caught:
-                    clashes(plain(), *args)
-                self.assertIs(caught.exception.value, value)
+        self.refuse_each(InvalidHistory, NO_HISTORIES, lambda value: clashes(value, None, None))
+        self.refuse_each(InvalidState, no_states(), lambda value: clashes(plain(), value, None))
+        self.refuse_each(InvalidState, no_states(), lambda value: clashes(plain(), [], value))
 
 
-class ConvergenceTest(unittest.TestCase):
+class ConvergenceTest(Case):
     """The remark of [31]."""
 
     def test_same_deeds_same_text(self):

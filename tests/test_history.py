@@ -10,6 +10,7 @@ from everrow.history import (
     whole,
 )
 from tests import naive
+from tests.cases import Case
 from tests.makers import (
     NO_DEED_NAMES, NO_HISTORIES, NO_LISTS, NO_SIGN_NAMES, PLAIN, chain, heap, mixed, no_states, plain, random_deeds,
 )
@@ -17,36 +18,34 @@ from tests.makers import (
 BIG = 10 ** 18
 
 
-class DeedsTest(unittest.TestCase):
+class DeedsTest(Case):
     """[10]: what a deed is, as a history takes it or refuses it."""
 
     def accept(self, *deeds):
         self.assertEqual(len(History(list(deeds)).deeds()), len(deeds))
 
-    def refuse(self, deed, *others):
-        with self.assertRaises(InvalidItem) as caught:
-            History(list(others) + [deed])
-        self.assertIs(caught.exception.value, deed)
+    def no_deed(self, deed, *others):
+        self.refuse(InvalidItem, deed, lambda: History(list(others) + [deed]))
 
     def test_numbers(self):
         self.accept(("put", (1, "a"), None, "x"), ("put", (BIG, "a"), None, "x"))
         for number in (0, -1, BIG + 1, True, False, "1", None, (1,), 1.0):
-            self.refuse(("put", (number, "a"), None, "x"))
+            self.no_deed(("put", (number, "a"), None, "x"))
 
     def test_hands(self):
         self.accept(("put", (1, "a"), None, "x"), ("put", (1, "abcdefgz"), None, "x"))
         for hand in ("", "abcdefghi", "A", "a1", "a b", "a_", "\u00e4", "a\n", None, True, 1, ["a"], ("a",)):
-            self.refuse(("put", (1, hand), None, "x"))
+            self.no_deed(("put", (1, hand), None, "x"))
 
     def test_deed_names(self):
         for name in (None, 1, "a", [1, "a"], (1,), (1, "a", 0), ("a", 1), ()):
-            self.refuse(("put", name, None, "x"))
-            self.refuse(("drop", name, [(1, "a", 0)]), ("put", (1, "a"), None, "x"))
+            self.no_deed(("put", name, None, "x"))
+            self.no_deed(("drop", name, [(1, "a", 0)]), ("put", (1, "a"), None, "x"))
 
     def test_texts(self):
         self.accept(("put", (1, "a"), None, "x"), ("put", (2, "a"), None, "a z\n b"))
         for text in ("", "abcdefg", "A", "a.", "\t", "\r", "~", "\u00e9", "1", None, True, 1, ["a"], ("a",), b"a"):
-            self.refuse(("put", (1, "a"), None, text))
+            self.no_deed(("put", (1, "a"), None, text))
 
     def test_anchors(self):
         first = ("put", (1, "a"), None, "abcdef")
@@ -54,48 +53,46 @@ class DeedsTest(unittest.TestCase):
             self.accept(first, ("put", (2, "a"), (1, "a", at), "x"))
         for anchor in (0, True, "a", (), (1, "a"), [1, "a", 0], (1, "a", True), (1, "a", 6), (1, "a", -1),
                        (True, "a", 0), (1, "A", 0), ((1, "a"), 0), (1, "a", 0, 0)):
-            self.refuse(("put", (2, "a"), anchor, "x"), first)
+            self.no_deed(("put", (2, "a"), anchor, "x"), first)
 
     def test_signs_of_drops(self):
         first = ("put", (1, "a"), None, "abcdef")
         whole_put = [(1, "a", at) for at in range(6)]
         self.accept(first, ("drop", (2, "a"), whole_put))
+        self.no_deed(("drop", (3, "a"), [(1, "a", 0), None]), first)
+        self.no_deed(("drop", (3, "a"), [True, (1, "a", 0)]), first)
         self.accept(first, ("drop", (2, "a"), whole_put[5:]))
         second = ("put", (2, "a"), None, "x")
         for signs in ([], whole_put + [(2, "a", 0)], tuple(whole_put), None, True, {}, "a", [None], [(1, "a")],
                       [[1, "a", 0]], [(1, "a", True)], [(1, "a", 6)], [(1, "a", 1), (1, "a", 0)],
                       [(1, "a", 0), (1, "a", 0)], [(2, "a", 0), (1, "a", 0)]):
-            self.refuse(("drop", (3, "a"), signs), first, second)
+            self.no_deed(("drop", (3, "a"), signs), first, second)
 
     def test_forms(self):
+        first = ("put", (1, "a"), None, "x")
+        for word in ("Drop", "put", "", None, True, ["drop"]):
+            self.no_deed((word, (2, "a"), [(1, "a", 0)]), first)
         for deed in (None, True, 0, "put", [], {}, (), ("put",), ["put", (1, "a"), None, "x"],
                      ("put", (1, "a"), None), ("put", (1, "a"), None, "x", 1), ("Put", (1, "a"), None, "x"),
                      ("drop", (1, "a"), None, "x"), (None, (1, "a"), None, "x"), (["put"], (1, "a"), None, "x"),
                      ("drop", (1, "a")), plain()):
-            self.refuse(deed)
+            self.no_deed(deed)
 
 
-class MakingTest(unittest.TestCase):
+class MakingTest(Case):
     """[11]: which lists a history is made of."""
 
     def test_no_list(self):
-        for value in NO_LISTS + [tuple(PLAIN), plain(), {"deeds": PLAIN}]:
-            with self.assertRaises(InvalidList) as caught:
-                History(value)
-            self.assertIs(caught.exception.value, value)
+        self.refuse_each(InvalidList, NO_LISTS + [tuple(PLAIN), plain(), {"deeds": PLAIN}], History)
 
     def test_sizes(self):
         self.assertEqual(History([]).deeds(), [])
         self.assertEqual(len(History(heap(24)).deeds()), 24)
         for deeds in (heap(25), [None] * 25):
-            with self.assertRaises(InvalidList) as caught:
-                History(deeds)
-            self.assertIs(caught.exception.value, deeds)
+            self.refuse(InvalidList, deeds, lambda: History(deeds))
 
     def assert_item(self, deeds, at):
-        with self.assertRaises(InvalidItem) as caught:
-            History(deeds)
-        self.assertIs(caught.exception.value, deeds[at])
+        self.refuse(InvalidItem, deeds[at], lambda: History(deeds))
 
     def test_names_once(self):
         self.assert_item(PLAIN + [("put", (1, "ann"), None, "z")], 3)
@@ -115,10 +112,12 @@ class MakingTest(unittest.TestCase):
         self.assert_item([("put", (1, "a"), None, "x"), ("put", (1, "b"), (1, "a", 0), "x")], 1)
         self.assert_item([("put", (2, "a"), None, "x"), ("put", (1, "b"), (2, "a", 0), "x")], 1)
         self.assert_item([("put", (1, "a"), (1, "a", 0), "x")], 0)
-        deeds = [("put", (1, "a"), None, "x"), ("put", (5, "a"), None, "x"), ("drop", (5, "b"), [(1, "a", 0), (5, "a", 0)])]
-        self.assert_item(deeds, 2)
+        puts = [("put", (1, "a"), None, "x"), ("put", (5, "a"), None, "x")]
+        self.assert_item(puts + [("drop", (5, "b"), [(1, "a", 0), (5, "a", 0)])], 2)
 
     def test_no_deeds_come_before_no_fit(self):
+        # There is no place 6 at all, so this is no deed, whatever puts there are.
+        self.assert_item([("put", (2, "a"), (1, "a", 6), "x"), None], 0)
         self.assert_item([("put", (2, "a"), (1, "a", 0), "x"), None], 1)
         self.assert_item([("put", (2, "a"), (1, "a", 0), "x"), PLAIN[0], PLAIN[0]], 2)
         self.assert_item([None, True], 0)
@@ -163,7 +162,7 @@ class MakingTest(unittest.TestCase):
         self.assertEqual(rests(given, (3, "ann")), [(1, "ann")])
 
 
-class RestsTest(unittest.TestCase):
+class RestsTest(Case):
     """[12]"""
 
     def test_plain(self):
@@ -193,24 +192,17 @@ class RestsTest(unittest.TestCase):
 
     def test_errors(self):
         for call in (deed_named, rests, bears):
-            for value in NO_HISTORIES:
-                with self.assertRaises(InvalidHistory) as caught:
-                    call(value, None)
-                self.assertIs(caught.exception.value, value)
-            for value in NO_DEED_NAMES:
-                with self.assertRaises(UnknownDeed) as caught:
-                    call(plain(), value)
-                self.assertIs(caught.exception.value, value)
-        with self.assertRaises(InvalidHistory):
-            deed_names(PLAIN)
+            self.refuse_each(InvalidHistory, NO_HISTORIES, lambda value: call(value, None))
+            self.refuse_each(UnknownDeed, NO_DEED_NAMES, lambda value: call(plain(), value))
+        self.refuse_each(InvalidHistory, NO_HISTORIES, deed_names)
 
 
-class RowTest(unittest.TestCase):
+class RowTest(Case):
     """[13]"""
 
     def test_greater_names_come_first(self):
-        deeds = [("put", (1, "a"), None, "ab"), ("put", (2, "a"), (1, "a", 0), "c"), ("put", (2, "b"), (1, "a", 0), "d"),
-                 ("put", (3, "a"), (2, "a", 0), "e"), ("put", (1, "b"), None, "f")]
+        deeds = [("put", (1, "a"), None, "ab"), ("put", (2, "a"), (1, "a", 0), "c"),
+                 ("put", (2, "b"), (1, "a", 0), "d"), ("put", (3, "a"), (2, "a", 0), "e"), ("put", (1, "b"), None, "f")]
         given = History(deeds)
         self.assertEqual("".join(sign_of(given, sign) for sign in ever_row(given)), "fadceb")
 
@@ -236,19 +228,12 @@ class RowTest(unittest.TestCase):
         self.assertEqual(ever_row(given), [(k, "a", at) for k in range(1, 25) for at in range(6)])
 
     def test_errors(self):
-        for value in NO_HISTORIES:
-            with self.assertRaises(InvalidHistory) as caught:
-                ever_row(value)
-            self.assertIs(caught.exception.value, value)
-            with self.assertRaises(InvalidHistory):
-                sign_of(value, None)
-        for value in NO_SIGN_NAMES:
-            with self.assertRaises(UnknownSign) as caught:
-                sign_of(plain(), value)
-            self.assertIs(caught.exception.value, value)
+        self.refuse_each(InvalidHistory, NO_HISTORIES, ever_row)
+        self.refuse_each(InvalidHistory, NO_HISTORIES, lambda value: sign_of(value, None))
+        self.refuse_each(UnknownSign, NO_SIGN_NAMES, lambda value: sign_of(plain(), value))
 
 
-class StatesTest(unittest.TestCase):
+class StatesTest(Case):
     """[14]"""
 
     def test_is_state(self):
@@ -305,26 +290,14 @@ class StatesTest(unittest.TestCase):
     def test_errors(self):
         given = plain()
         for call in (closure, heart):
-            for value in NO_HISTORIES:
-                with self.assertRaises(InvalidHistory):
-                    call(value, None)
-            for value in NO_LISTS:
-                with self.assertRaises(InvalidList) as caught:
-                    call(given, value)
-                self.assertIs(caught.exception.value, value)
-            for value in NO_DEED_NAMES:
-                with self.assertRaises(UnknownDeed) as caught:
-                    call(given, [(1, "ann"), value, (1, "ann")])
-                self.assertIs(caught.exception.value, value)
-            again = tuple([1, "ann"])
-            with self.assertRaises(InvalidItem) as caught:
-                call(given, [(1, "ann"), (2, "bob"), again, None])
-            self.assertIs(caught.exception.value, again)
-        for value in NO_HISTORIES:
-            with self.assertRaises(InvalidHistory):
-                is_state(value, [])
-            with self.assertRaises(InvalidHistory):
-                whole(value)
+            self.refuse_each(InvalidHistory, NO_HISTORIES, lambda value: call(value, None))
+            self.refuse_each(InvalidList, NO_LISTS, lambda value: call(given, value))
+            self.refuse_each(UnknownDeed, NO_DEED_NAMES, lambda value: call(given, [(1, "ann"), value, (1, "ann")]))
+            for name in deed_names(given):
+                again = tuple(list(name))
+                self.refuse(InvalidItem, again, lambda: call(given, deed_names(given) + [again, None]))
+        self.refuse_each(InvalidHistory, NO_HISTORIES, lambda value: is_state(value, []))
+        self.refuse_each(InvalidHistory, NO_HISTORIES, lambda value: whole(value))
 
     def test_arguments_stay(self):
         listed = [(3, "ann"), (2, "bob")]
@@ -333,7 +306,7 @@ class StatesTest(unittest.TestCase):
         self.assertEqual(listed, [(3, "ann"), (2, "bob")])
 
 
-class SeenTest(unittest.TestCase):
+class SeenTest(Case):
     """[15] and [16]"""
 
     def test_all(self):
@@ -373,23 +346,11 @@ class SeenTest(unittest.TestCase):
 
     def test_errors(self):
         for call in (seen, text_of):
-            for value in NO_HISTORIES:
-                with self.assertRaises(InvalidHistory):
-                    call(value, None)
-            for value in no_states():
-                with self.assertRaises(InvalidState) as caught:
-                    call(plain(), value)
-                self.assertIs(caught.exception.value, value)
-        for value in no_states():
-            with self.assertRaises(InvalidState) as caught:
-                ahead_of(plain(), value, None)
-            self.assertIs(caught.exception.value, value)
-        for value in NO_SIGN_NAMES:
-            with self.assertRaises(UnknownSign) as caught:
-                ahead_of(plain(), [], value)
-            self.assertIs(caught.exception.value, value)
-        with self.assertRaises(InvalidHistory):
-            ahead_of(None, None, None)
+            self.refuse_each(InvalidHistory, NO_HISTORIES, lambda value: call(value, None))
+            self.refuse_each(InvalidState, no_states(), lambda value: call(plain(), value))
+        self.refuse_each(InvalidState, no_states(), lambda value: ahead_of(plain(), value, None))
+        self.refuse_each(UnknownSign, NO_SIGN_NAMES, lambda value: ahead_of(plain(), [], value))
+        self.refuse_each(InvalidHistory, NO_HISTORIES, lambda value: ahead_of(value, None, None))
 
     def test_arguments_stay(self):
         state = [(1, "ann"), (3, "ann")]

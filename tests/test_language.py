@@ -10,17 +10,19 @@ FILES = sorted(FOLDER.glob("*.py"))
 LIBRARY = {
     "heapq": {"heappush", "heappop", "heapify", "heapreplace", "heappushpop"},
     "math": {"gcd", "lcm", "isqrt", "comb", "perm", "factorial"},
-    "itertools": {"product", "combinations", "permutations", "chain", "accumulate", "pairwise", "islice", "zip_longest"},
+    "itertools": {
+        "product", "combinations", "permutations", "chain", "accumulate", "pairwise", "islice", "zip_longest",
+    },
     "collections": {"deque", "defaultdict"},
 }
 BUILTINS = set(
-    "len range enumerate zip min max sum abs sorted reversed int str bool bytes list tuple dict set isinstance ord repr "
-    "any all divmod ValueError NotImplemented True False None".split()
+    "len range enumerate zip min max sum abs sorted reversed int str bool bytes list tuple dict set isinstance ord "
+    "repr any all divmod ValueError NotImplemented True False None".split()
 )
 METHODS = set(
-    "append clear copy count endswith extend find get index insert isalnum isalpha isdigit islower isspace isupper items "
-    "join keys ljust lower lstrip partition pop remove replace reverse rfind rjust rpartition rsplit rstrip setdefault "
-    "split splitlines startswith strip update upper values zfill bit_length".split()
+    "append clear copy count endswith extend find get index insert isalnum isalpha isdigit islower isspace isupper "
+    "items join keys ljust lower lstrip partition pop remove replace reverse rfind rjust rpartition rsplit rstrip "
+    "setdefault split splitlines startswith strip update upper values zfill bit_length".split()
 )
 BARRED = set(
     "register mro elements open input law version_info with_traceback add_note attrgetter breakpoint builtins compile "
@@ -28,9 +30,9 @@ BARRED = set(
     "methodcaller os quit setattr super type vars sys iter next map format".split()
 )
 REFUSED = (
-    ast.Try, ast.Global, ast.Nonlocal, ast.With, ast.Yield, ast.YieldFrom, ast.Set, ast.SetComp, ast.GeneratorExp, ast.Await,
-    ast.AsyncFor, ast.AsyncFunctionDef, ast.AsyncWith, ast.Match, ast.NamedExpr, ast.Starred, ast.AnnAssign, ast.Div,
-    ast.MatMult, ast.Import, ast.Delete,
+    ast.Try, ast.Global, ast.Nonlocal, ast.With, ast.Yield, ast.YieldFrom, ast.Set, ast.SetComp, ast.GeneratorExp,
+    ast.Await, ast.AsyncFor, ast.AsyncFunctionDef, ast.AsyncWith, ast.Match, ast.NamedExpr, ast.Starred, ast.AnnAssign,
+    ast.Div, ast.MatMult, ast.Import, ast.Delete,
 )
 DOUBLE = {"__init__", "__eq__"}
 
@@ -123,7 +125,8 @@ class LanguageTest(unittest.TestCase):
             for node in tree.body:
                 self.assertIsInstance(node, (ast.Expr, ast.ImportFrom, ast.FunctionDef, ast.ClassDef, ast.Assign))
                 if isinstance(node, ast.Assign):
-                    self.assertFalse([part for part in ast.walk(node.value) if isinstance(part, (ast.Call, ast.ListComp))])
+                    parts = [type(part) for part in ast.walk(node.value)]
+                    self.assertFalse(set(parts) & {ast.Call, ast.ListComp, ast.DictComp})
                     names += [target.id for target in node.targets]
                 elif isinstance(node, (ast.FunctionDef, ast.ClassDef)):
                     names.append(node.name)

@@ -109,7 +109,8 @@ class LimitsTest(unittest.TestCase):
                 self.assertEqual(len(trees.kept(tree, number)), len(trees.unserved(tree, number)))
                 self.assertEqual(len(blends.kept_by_signs(tree, number)), len(blends.unserved_by_signs(tree, number)))
             for one, other in combinations("abcdefghij", 2):
-                self.assertLessEqual(trees.doors(tree, one, trees.text_at(tree, other))[0], trees.cost(tree, one, other))
+                price, _ = trees.doors(tree, one, trees.text_at(tree, other))
+                self.assertLessEqual(price, trees.cost(tree, one, other))
                 blends.blended(tree, one, other)
             for name in names:
                 blends.turns(tree, name)

@@ -8,13 +8,14 @@ from everrow.history import History, ever_row, whole
 from everrow.lines import best_between, best_both, fewest_for, words_shown
 from everrow.seen import best, stands
 from tests import naive
+from tests.cases import Case
 from tests.makers import (
     NO_HISTORIES, NO_NUMBERS, chain, heap, mixed, no_states, plain, random_deeds,
 )
 from tests.test_seen import A, ANN, B, BOB, DROP, X, no_lines
 
 
-class BetweenTest(unittest.TestCase):
+class BetweenTest(Case):
     """[55]"""
 
     def test_between(self):
@@ -49,23 +50,15 @@ class BetweenTest(unittest.TestCase):
         self.assertEqual(best_both(given, [order[0]], [order[-1]]), top)
 
     def test_errors(self):
-        for value in NO_HISTORIES:
-            with self.assertRaises(InvalidHistory):
-                best_between(value, None, None, None)
-            with self.assertRaises(InvalidHistory):
-                best_both(value, None, None)
-        for value in no_states():
-            for told in ((value, None, None), ([], value, None)):
-                with self.assertRaises(InvalidState) as caught:
-                    best_between(plain(), *told)
-                self.assertIs(caught.exception.value, value)
+        self.refuse_each(InvalidHistory, NO_HISTORIES, lambda value: best_between(value, None, None, None))
+        self.refuse_each(InvalidHistory, NO_HISTORIES, lambda value: best_both(value, None, None))
+        self.refuse_each(InvalidState, no_states(), lambda value: best_between(plain(), value, None, None))
+        self.refuse_each(InvalidState, no_states(), lambda value: best_between(plain(), [], value, None))
         nothing = []
         for value in no_lines() + [nothing]:
             for call in (lambda: best_between(plain(), [], [], value), lambda: best_both(plain(), value, None),
                          lambda: best_both(plain(), [A], value)):
-                with self.assertRaises(InvalidLine) as caught:
-                    call()
-                self.assertIs(caught.exception.value, value)
+                self.refuse(InvalidLine, value, lambda: call())
 
     def test_arguments_stay(self):
         low, high, one, other = [ANN], [ANN, BOB, DROP], [A, X], [X]
@@ -75,7 +68,7 @@ class BetweenTest(unittest.TestCase):
         self.assertEqual((low, high, one, other), ([ANN], [ANN, BOB, DROP], [A, X], [X]))
 
 
-class FewestTest(unittest.TestCase):
+class FewestTest(Case):
     """[56]"""
 
     def check(self, deeds, most):
@@ -126,17 +119,12 @@ class FewestTest(unittest.TestCase):
         self.assertEqual(fewest_for(History(heap(14)), [(1, "a", 0)]), [(1, "a")])
 
     def test_errors(self):
-        for value in NO_HISTORIES:
-            with self.assertRaises(InvalidHistory):
-                fewest_for(value, None)
+        self.refuse_each(InvalidHistory, NO_HISTORIES, lambda value: fewest_for(value, None))
         nothing = []
-        for value in no_lines() + [nothing]:
-            with self.assertRaises(InvalidLine) as caught:
-                fewest_for(plain(), value)
-            self.assertIs(caught.exception.value, value)
+        self.refuse_each(InvalidLine, no_lines() + [nothing], lambda value: fewest_for(plain(), value))
 
 
-class WordsTest(unittest.TestCase):
+class WordsTest(Case):
     """[57]"""
 
     def test_all(self):
@@ -160,16 +148,11 @@ class WordsTest(unittest.TestCase):
         self.assertEqual(words_shown(many, 3), ["abc", "aca", "bca", "cab", "cac"])
 
     def test_errors(self):
-        for value in NO_HISTORIES:
-            with self.assertRaises(InvalidHistory):
-                words_shown(value, None)
-        for value in NO_NUMBERS + [0, 4, -1]:
-            with self.assertRaises(InvalidNumber) as caught:
-                words_shown(plain(), value)
-            self.assertIs(caught.exception.value, value)
+        self.refuse_each(InvalidHistory, NO_HISTORIES, lambda value: words_shown(value, None))
+        self.refuse_each(InvalidNumber, NO_NUMBERS + [0, 4, -1], lambda value: words_shown(plain(), value))
 
 
-class BestTest(unittest.TestCase):
+class BestTest(Case):
 
     def test_between_all_bounds_it_is_best(self):
         deeds = random_deeds(4, 7, drops=2, longest=2)

@@ -10,6 +10,7 @@ from everrow.marks import (
     apart, crossing, folded, is_lost, marks_in_order, meeting, moves, picked, place_of, strays,
 )
 from tests import naive
+from tests.cases import Case
 from tests.makers import (
     NO_HISTORIES, NO_LISTS, NO_SIGN_NAMES, PLAIN, chain, mixed, no_states, plain, random_deeds,
 )
@@ -30,8 +31,8 @@ def all_marks(deeds):
 def no_marks():
     """Values that are no marks of the plain history."""
     found = [("behind", sign) for sign in NO_SIGN_NAMES] + [("ahead", sign) for sign in NO_SIGN_NAMES]
-    return found + [None, True, 0, "first", [], (), {}, ["first"], ["behind", A], ("behind",), ("first", A), ("last", A),
-                    ("before", A), (None, A), (["behind"], A), ("behind", A, A), (("first",),), A, plain()]
+    return found + [None, True, 0, "first", [], (), {}, ["first"], ["behind", A], ("behind",), ("first", A),
+                    ("last", A), ("before", A), (None, A), (["behind"], A), ("behind", A, A), (("first",),), A, plain()]
 
 
 def amid(deeds, mark):
@@ -48,7 +49,7 @@ def naive_place(deeds, signs, mark):
     return len([sign for sign in amid(deeds, mark) if sign in signs])
 
 
-class PlacesTest(unittest.TestCase):
+class PlacesTest(Case):
     """[60]"""
 
     def test_all(self):
@@ -85,21 +86,12 @@ class PlacesTest(unittest.TestCase):
 
     def test_errors(self):
         for call in (place_of, is_lost):
-            for value in NO_HISTORIES:
-                with self.assertRaises(InvalidHistory) as caught:
-                    call(value, None, None)
-                self.assertIs(caught.exception.value, value)
-            for value in no_states():
-                with self.assertRaises(InvalidState) as caught:
-                    call(plain(), value, None)
-                self.assertIs(caught.exception.value, value)
-            for value in no_marks():
-                with self.assertRaises(InvalidMark) as caught:
-                    call(plain(), [ANN], value)
-                self.assertIs(caught.exception.value, value)
+            self.refuse_each(InvalidHistory, NO_HISTORIES, lambda value: call(value, None, None))
+            self.refuse_each(InvalidState, no_states(), lambda value: call(plain(), value, None))
+            self.refuse_each(InvalidMark, no_marks(), lambda value: call(plain(), [ANN], value))
 
 
-class OrderTest(unittest.TestCase):
+class OrderTest(Case):
     """[61]"""
 
     def test_order(self):
@@ -126,25 +118,14 @@ class OrderTest(unittest.TestCase):
     def test_errors(self):
         calls = (marks_in_order, lambda history, marks: moves(history, [], [], marks))
         for call in calls:
-            for value in NO_HISTORIES:
-                with self.assertRaises(InvalidHistory):
-                    call(value, None)
-            for value in NO_LISTS + [(FIRST,)]:
-                with self.assertRaises(InvalidList) as caught:
-                    call(plain(), value)
-                self.assertIs(caught.exception.value, value)
-            for value in no_marks():
-                with self.assertRaises(InvalidItem) as caught:
-                    call(plain(), [FIRST, value, None])
-                self.assertIs(caught.exception.value, value)
-        for value in no_states():
-            for told in ((value, None, None), ([], value, None)):
-                with self.assertRaises(InvalidState) as caught:
-                    moves(plain(), *told)
-                self.assertIs(caught.exception.value, value)
+            self.refuse_each(InvalidHistory, NO_HISTORIES, lambda value: call(value, None))
+            self.refuse_each(InvalidList, NO_LISTS + [(FIRST,)], lambda value: call(plain(), value))
+            self.refuse_each(InvalidItem, no_marks(), lambda value: call(plain(), [FIRST, value, None]))
+        self.refuse_each(InvalidState, no_states(), lambda value: moves(plain(), value, None, None))
+        self.refuse_each(InvalidState, no_states(), lambda value: moves(plain(), [], value, None))
 
 
-class MeetingTest(unittest.TestCase):
+class MeetingTest(Case):
     """[62]"""
 
     def test_all(self):
@@ -177,17 +158,12 @@ class MeetingTest(unittest.TestCase):
 
     def test_errors(self):
         for call in (meeting, apart):
-            for value in NO_HISTORIES:
-                with self.assertRaises(InvalidHistory):
-                    call(value, None, None)
-            for value in no_marks():
-                for told in ((value, None), (FIRST, value)):
-                    with self.assertRaises(InvalidMark) as caught:
-                        call(plain(), *told)
-                    self.assertIs(caught.exception.value, value)
+            self.refuse_each(InvalidHistory, NO_HISTORIES, lambda value: call(value, None, None))
+            self.refuse_each(InvalidMark, no_marks(), lambda value: call(plain(), value, None))
+            self.refuse_each(InvalidMark, no_marks(), lambda value: call(plain(), FIRST, value))
 
 
-class StraysTest(unittest.TestCase):
+class StraysTest(Case):
     """[63]"""
 
     def carried(self, before, after, place, mark):
@@ -237,31 +213,22 @@ class StraysTest(unittest.TestCase):
         self.assertIsNone(strays(given, [whole(given)] * 20, ("behind", (12, "a", 5))))
 
     def test_errors(self):
-        for value in NO_HISTORIES:
-            with self.assertRaises(InvalidHistory):
-                strays(value, None, None)
-        for value in NO_LISTS + [[], [[]] * 21, ([],), [None] * 21]:
-            with self.assertRaises(InvalidList) as caught:
-                strays(plain(), value, None)
-            self.assertIs(caught.exception.value, value)
-        for value in no_states():
-            with self.assertRaises(InvalidItem) as caught:
-                strays(plain(), [[], value, None], None)
-            self.assertIs(caught.exception.value, value)
-        for value in no_marks():
-            with self.assertRaises(InvalidMark) as caught:
-                strays(plain(), [[]], value)
-            self.assertIs(caught.exception.value, value)
+        self.refuse_each(InvalidHistory, NO_HISTORIES, lambda value: strays(value, None, None))
+        values = NO_LISTS + [[], [[]] * 21, ([],), [None] * 21]
+        self.refuse_each(InvalidList, values, lambda value: strays(plain(), value, None))
+        self.refuse_each(InvalidItem, no_states(), lambda value: strays(plain(), [[], value, None], None))
+        self.refuse_each(InvalidMark, no_marks(), lambda value: strays(plain(), [[]], value))
 
 
 def no_selections():
     """Values that are no selections of the plain history, whose ever-row is A, X, B."""
     found = [(mark, LAST) for mark in no_marks()] + [(FIRST, mark) for mark in no_marks()]
     return found + [None, True, "ab", [], (), {}, [FIRST, LAST], (FIRST,), (FIRST, LAST, LAST), (LAST, FIRST),
-                    (("behind", A), ("ahead", A)), (("ahead", X), ("behind", A)), (("ahead", A), FIRST), (LAST, ("behind", B))]
+                    (("behind", A), ("ahead", A)), (("ahead", X), ("behind", A)), (("ahead", A), FIRST),
+                    (LAST, ("behind", B))]
 
 
-class PickedTest(unittest.TestCase):
+class PickedTest(Case):
     """[64], of one selection"""
 
     def test_all(self):
@@ -275,8 +242,7 @@ class PickedTest(unittest.TestCase):
                         wanted = text[place_of(given, state, one):place_of(given, state, other)]
                         self.assertEqual(picked(given, state, (one, other)), wanted)
                     else:
-                        with self.assertRaises(InvalidMark):
-                            picked(given, state, (one, other))
+                        self.refuse_each(InvalidMark, [(one, other)], lambda value: picked(given, state, value))
 
     def test_edges(self):
         given = History(chain(24, "abcdef"))
@@ -286,17 +252,9 @@ class PickedTest(unittest.TestCase):
         self.assertEqual(picked(given, [], (FIRST, LAST)), "")
 
     def test_errors(self):
-        for value in NO_HISTORIES:
-            with self.assertRaises(InvalidHistory):
-                picked(value, None, None)
-        for value in no_states():
-            with self.assertRaises(InvalidState) as caught:
-                picked(plain(), value, None)
-            self.assertIs(caught.exception.value, value)
-        for value in no_selections():
-            with self.assertRaises(InvalidMark) as caught:
-                picked(plain(), [ANN], value)
-            self.assertIs(caught.exception.value, value)
+        self.refuse_each(InvalidHistory, NO_HISTORIES, lambda value: picked(value, None, None))
+        self.refuse_each(InvalidState, no_states(), lambda value: picked(plain(), value, None))
+        self.refuse_each(InvalidMark, no_selections(), lambda value: picked(plain(), [ANN], value))
 
 
 def held(deeds, fold):
@@ -333,7 +291,7 @@ def naive_folded(deeds, state, folds):
     return text
 
 
-class FoldsTest(unittest.TestCase):
+class FoldsTest(Case):
     """[64], of many selections"""
 
     def test_two(self):
@@ -361,9 +319,7 @@ class FoldsTest(unittest.TestCase):
                     self.assertEqual(folded(given, state, folds), naive_folded(deeds, state, folds))
                 else:
                     crossed += 1
-                    with self.assertRaises(InvalidItem) as caught:
-                        folded(given, state, folds)
-                    self.assertIs(caught.exception.value, wanted[1])
+                    self.refuse(InvalidItem, wanted[1], lambda: folded(given, state, folds))
         self.assertGreater(crossed, 50)
 
     def fold(self, begin, end):
@@ -415,9 +371,7 @@ class FoldsTest(unittest.TestCase):
         self.assertEqual(crossing(plain(), [other, one]), (other, one))
         # Folds cross by the ever-row, whether the signs are seen or not.
         self.assertEqual(crossing(plain(), [one, one, other]), (one, other))
-        with self.assertRaises(InvalidItem) as caught:
-            folded(plain(), [], [one, one, other])
-        self.assertIs(caught.exception.value, other)
+        self.refuse(InvalidItem, other, lambda: folded(plain(), [], [one, one, other]))
 
     def test_the_first_crossing(self):
         one, two, three = self.fold(0, 3), self.fold(2, 5), self.fold(1, 4)
@@ -427,25 +381,13 @@ class FoldsTest(unittest.TestCase):
         self.assertEqual(crossing(given, [self.fold(0, 6), three, self.fold(3, 4), two, one]), (three, two))
 
     def test_errors(self):
-        for value in NO_HISTORIES:
-            with self.assertRaises(InvalidHistory):
-                crossing(value, None)
-            with self.assertRaises(InvalidHistory):
-                folded(value, None, None)
-        for value in no_states():
-            with self.assertRaises(InvalidState) as caught:
-                folded(plain(), value, None)
-            self.assertIs(caught.exception.value, value)
+        self.refuse_each(InvalidHistory, NO_HISTORIES, lambda value: crossing(value, None))
+        self.refuse_each(InvalidHistory, NO_HISTORIES, lambda value: folded(value, None, None))
+        self.refuse_each(InvalidState, no_states(), lambda value: folded(plain(), value, None))
         for call in (crossing, lambda history, folds: folded(history, [], folds)):
-            for value in NO_LISTS + [((FIRST, LAST),)]:
-                with self.assertRaises(InvalidList) as caught:
-                    call(plain(), value)
-                self.assertIs(caught.exception.value, value)
+            self.refuse_each(InvalidList, NO_LISTS + [((FIRST, LAST),)], lambda value: call(plain(), value))
             crossed = [(FIRST, ("behind", X)), (("behind", A), LAST)]
-            for value in no_selections():
-                with self.assertRaises(InvalidItem) as caught:
-                    call(plain(), crossed + [value, None])
-                self.assertIs(caught.exception.value, value)
+            self.refuse_each(InvalidItem, no_selections(), lambda value: call(plain(), crossed + [value, None]))
 
     def test_large(self):
         given = History(chain(24, "abcdef"))
@@ -457,7 +399,7 @@ class FoldsTest(unittest.TestCase):
         self.assertEqual(folds, before)
 
 
-class SignsTest(unittest.TestCase):
+class SignsTest(Case):
 
     def test_place_ahead_of_a_sign(self):
         deeds = random_deeds(6, 7, drops=2)

@@ -8,6 +8,7 @@ from everrow import errors
 from everrow.hands import Net
 from everrow.history import History
 from everrow.trees import Tree
+from tests.cases import Case
 from tests.makers import PLAIN
 
 ANN, BOB, DROP = (1, "ann"), (2, "bob"), (3, "ann")
@@ -176,7 +177,7 @@ def kinds_in(value):
     return found
 
 
-class RulesTest(unittest.TestCase):
+class RulesTest(Case):
 
     def all_calls(self):
         """For each call: a name to show, a way to get what is called, and the arguments."""
@@ -230,11 +231,7 @@ class RulesTest(unittest.TestCase):
                     told[at] = {"wrong": at}
                 error = getattr(errors, arguments[chosen[0]][2])
                 with self.subTest(name, chosen=chosen):
-                    with self.assertRaises(error) as caught:
-                        find()(*told)
-                    self.assertIs(type(caught.exception), error)
-                    field = "name" if error is errors.UnknownName else "value"
-                    self.assertIs(getattr(caught.exception, field), told[chosen[0]])
+                    self.refuse(error, told[chosen[0]], find(), *told)
 
     def test_any_value_is_taken_or_refused_with_an_own_error(self):
         deep = []

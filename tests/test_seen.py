@@ -10,6 +10,7 @@ from everrow.history import History, ever_row, text_of, whole
 from everrow.seen import best, only, read, stands, trimmed, whenever
 from everrow.states import join
 from tests import naive
+from tests.cases import Case
 from tests.makers import (
     NO_HISTORIES, NO_LISTS, NO_SIGN_NAMES, NO_TEXTS, PLAIN, chain, heap, mixed, no_states, plain, random_deeds,
 )
@@ -24,7 +25,7 @@ def no_lines():
     return found + NO_LISTS + [(A,), (A, B), [A, A], [B, A], [A, B, X], [X, A], plain()]
 
 
-class StandsTest(unittest.TestCase):
+class StandsTest(Case):
     """[50]"""
 
     def test_all(self):
@@ -54,7 +55,9 @@ class StandsTest(unittest.TestCase):
         given = History(deeds)
         order = ever_row(given)
         for sign in order:
-            wanted = [name for name in whole(given) if name < (13, "") or sign != (name[0] - 12, "a", (name[0] - 11) % 6)]
+            wanted = whole(given)
+            if sign[2] == (sign[0] + 1) % 6:
+                wanted.remove((sign[0] + 12, "b"))
             self.assertEqual(best(given, [sign]), wanted)
         self.assertEqual(best(given, order), whole(given)[:12])
         self.assertIs(stands(given, whole(given)[:12], order), True)
@@ -66,28 +69,15 @@ class StandsTest(unittest.TestCase):
         self.assertEqual(best(long, ever_row(long)), whole(long))
 
     def test_errors(self):
-        for value in NO_HISTORIES:
-            with self.assertRaises(InvalidHistory):
-                stands(value, None, None)
-            for call in (best, only):
-                with self.assertRaises(InvalidHistory) as caught:
-                    call(value, None)
-                self.assertIs(caught.exception.value, value)
-        for value in no_states():
-            with self.assertRaises(InvalidState) as caught:
-                stands(plain(), value, None)
-            self.assertIs(caught.exception.value, value)
+        for call in (best, only, lambda *told: stands(*told, None)):
+            self.refuse_each(InvalidHistory, NO_HISTORIES, lambda value: call(value, None))
+        self.refuse_each(InvalidState, no_states(), lambda value: stands(plain(), value, None))
         for call in (lambda line: stands(plain(), [], line), lambda line: best(plain(), line),
                      lambda line: only(plain(), line)):
-            for value in no_lines():
-                with self.assertRaises(InvalidLine) as caught:
-                    call(value)
-                self.assertIs(caught.exception.value, value)
+            self.refuse_each(InvalidLine, no_lines(), lambda value: call(value))
         nothing = []
         for call in (lambda line: stands(plain(), [], line), lambda line: best(plain(), line)):
-            with self.assertRaises(InvalidLine) as caught:
-                call(nothing)
-            self.assertIs(caught.exception.value, nothing)
+            self.refuse(InvalidLine, nothing, lambda: call(nothing))
 
     def test_arguments_stay(self):
         line, state = [A, B], [ANN, BOB]
@@ -97,7 +87,7 @@ class StandsTest(unittest.TestCase):
         self.assertEqual((line, state), ([A, B], [ANN, BOB]))
 
 
-class OnlyTest(unittest.TestCase):
+class OnlyTest(Case):
     """[51]"""
 
     def test_all(self):
@@ -120,7 +110,7 @@ class OnlyTest(unittest.TestCase):
         self.assertEqual(only(hidden, []), whole(hidden))
 
 
-class ReadTest(unittest.TestCase):
+class ReadTest(Case):
     """[52]"""
 
     def check(self, deeds, word, shown):
@@ -160,16 +150,24 @@ class ReadTest(unittest.TestCase):
         self.assertIsNone(read(given, "aaac"))
 
     def test_errors(self):
-        for value in NO_HISTORIES:
-            with self.assertRaises(InvalidHistory):
-                read(value, None)
-        for value in NO_TEXTS + ["", "abcde"]:
-            with self.assertRaises(InvalidText) as caught:
-                read(plain(), value)
-            self.assertIs(caught.exception.value, value)
+        self.refuse_each(InvalidHistory, NO_HISTORIES, lambda value: read(value, None))
+        self.refuse_each(InvalidText, NO_TEXTS + ["", "abcde"], lambda value: read(plain(), value))
 
 
-class WheneverTest(unittest.TestCase):
+class BeginningsTest(Case):
+    """The remark of [52]."""
+
+    def test_what_a_line_begins_with_stands_too(self):
+        for seed in range(10):
+            deeds = random_deeds(seed, 6, drops=2, longest=2)
+            given = History(deeds)
+            for line in naive.lines(deeds, 3):
+                if best(given, line) is not None:
+                    for size in range(1, len(line)):
+                        self.assertIsNotNone(best(given, line[:size]))
+
+
+class WheneverTest(Case):
     """[53]"""
 
     def test_all(self):
@@ -197,14 +195,9 @@ class WheneverTest(unittest.TestCase):
         self.assertIsNone(whenever(given, (1, "a", 2), (1, "a", 2)))
 
     def test_errors(self):
-        for value in NO_HISTORIES:
-            with self.assertRaises(InvalidHistory):
-                whenever(value, None, None)
-        for value in NO_SIGN_NAMES:
-            for told in ((value, None), (A, value)):
-                with self.assertRaises(UnknownSign) as caught:
-                    whenever(plain(), *told)
-                self.assertIs(caught.exception.value, value)
+        self.refuse_each(InvalidHistory, NO_HISTORIES, lambda value: whenever(value, None, None))
+        self.refuse_each(UnknownSign, NO_SIGN_NAMES, lambda value: whenever(plain(), value, None))
+        self.refuse_each(UnknownSign, NO_SIGN_NAMES, lambda value: whenever(plain(), A, value))
 
 
 def step_of_trimming(deeds, states):
@@ -230,7 +223,7 @@ def step_of_trimming(deeds, states):
     return found
 
 
-class TrimmedTest(unittest.TestCase):
+class TrimmedTest(Case):
     """[54]"""
 
     def check(self, deeds, states):
@@ -289,17 +282,9 @@ class TrimmedTest(unittest.TestCase):
         self.assertEqual(trimmed(History(hidden), [whole(History(hidden))])[0], History([]))
 
     def test_errors(self):
-        for value in NO_HISTORIES:
-            with self.assertRaises(InvalidHistory):
-                trimmed(value, None)
-        for value in NO_LISTS + [([],)]:
-            with self.assertRaises(InvalidList) as caught:
-                trimmed(plain(), value)
-            self.assertIs(caught.exception.value, value)
-        for value in no_states():
-            with self.assertRaises(InvalidItem) as caught:
-                trimmed(plain(), [[], [ANN], value, None])
-            self.assertIs(caught.exception.value, value)
+        self.refuse_each(InvalidHistory, NO_HISTORIES, lambda value: trimmed(value, None))
+        self.refuse_each(InvalidList, NO_LISTS + [([],)], lambda value: trimmed(plain(), value))
+        self.refuse_each(InvalidItem, no_states(), lambda value: trimmed(plain(), [[], [ANN], value, None]))
 
     def test_arguments_stay(self):
         state = [ANN, BOB, DROP]
@@ -313,7 +298,7 @@ class TrimmedTest(unittest.TestCase):
         self.assertEqual(history.deeds(), PLAIN)
 
 
-class PairsTest(unittest.TestCase):
+class PairsTest(Case):
 
     def test_if_a_line_stands_in_two_states_it_does_in_their_join(self):
         deeds = random_deeds(5, 7, drops=2, longest=2)

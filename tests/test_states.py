@@ -9,6 +9,7 @@ from everrow.states import (
     how_many, into, is_way, join, meet, number_of, out, parted, showing, state_at, texts, way,
 )
 from tests import naive
+from tests.cases import Case
 from tests.makers import (
     NO_DEED_NAMES, NO_HISTORIES, NO_NUMBERS, NO_TEXTS, PLAIN, chain, heap, mixed, no_states, plain, random_deeds,
 )
@@ -16,7 +17,7 @@ from tests.makers import (
 ANN, BOB, DROP = (1, "ann"), (2, "bob"), (3, "ann")
 
 
-class BoundsTest(unittest.TestCase):
+class BoundsTest(Case):
     """[20]"""
 
     def test_out_and_into(self):
@@ -52,28 +53,21 @@ class BoundsTest(unittest.TestCase):
     def test_errors(self):
         given = plain()
         for call in (out, into):
-            for value in NO_HISTORIES:
-                with self.assertRaises(InvalidHistory):
-                    call(value, None, None)
-            for value in no_states():
-                with self.assertRaises(InvalidState) as caught:
-                    call(given, value, None)
-                self.assertIs(caught.exception.value, value)
-            for value in NO_DEED_NAMES:
-                with self.assertRaises(UnknownDeed) as caught:
-                    call(given, [ANN], value)
-                self.assertIs(caught.exception.value, value)
+            self.refuse_each(InvalidHistory, NO_HISTORIES, lambda value: call(value, None, None))
+            self.refuse_each(InvalidState, no_states(), lambda value: call(given, value, None))
+            self.refuse_each(UnknownDeed, NO_DEED_NAMES, lambda value: call(given, [ANN], value))
 
     def test_results_are_new(self):
         given, state = plain(), [ANN]
-        for result in (out(given, state, BOB), into(given, state, ANN), meet(given, state, state), join(given, state, [])):
+        results = out(given, state, BOB), into(given, state, ANN), meet(given, state, state), join(given, state, [])
+        for result in results:
             self.assertEqual(result, state)
             self.assertIsNot(result, state)
             result.clear()
         self.assertEqual(state, [ANN])
 
 
-class WaysTest(unittest.TestCase):
+class WaysTest(Case):
     """[21]"""
 
     def walk(self, deeds, one, steps):
@@ -144,18 +138,12 @@ class WaysTest(unittest.TestCase):
     def test_errors(self):
         given = plain()
         for call in (meet, join, way, lambda *told: is_way(*told, None), parted):
-            for value in NO_HISTORIES:
-                with self.assertRaises(InvalidHistory) as caught:
-                    call(value, None, None)
-                self.assertIs(caught.exception.value, value)
-            for value in no_states():
-                for told in ((value, None), ([ANN], value)):
-                    with self.assertRaises(InvalidState) as caught:
-                        call(given, *told)
-                    self.assertIs(caught.exception.value, value)
+            self.refuse_each(InvalidHistory, NO_HISTORIES, lambda value: call(value, None, None))
+            self.refuse_each(InvalidState, no_states(), lambda value: call(given, value, None))
+            self.refuse_each(InvalidState, no_states(), lambda value: call(given, [ANN], value))
 
 
-class NumbersTest(unittest.TestCase):
+class NumbersTest(Case):
     """[22]"""
 
     def test_all(self):
@@ -169,14 +157,10 @@ class NumbersTest(unittest.TestCase):
                 for number, state in enumerate(amid):
                     self.assertEqual(state_at(given, low, high, number), state)
                     self.assertEqual(number_of(given, low, high, state), number)
-                for number in (-1, len(amid), len(amid) + 1):
-                    with self.assertRaises(InvalidNumber):
-                        state_at(given, low, high, number)
-                for state in states:
-                    if state not in amid:
-                        with self.assertRaises(InvalidState) as caught:
-                            number_of(given, low, high, state)
-                        self.assertIs(caught.exception.value, state)
+                numbers = [-1, len(amid), len(amid) + 1]
+                self.refuse_each(InvalidNumber, numbers, lambda value: state_at(given, low, high, value))
+                others = [state for state in states if state not in amid]
+                self.refuse_each(InvalidState, others, lambda value: number_of(given, low, high, value))
 
     def test_fourteen(self):
         given = History(heap(14))
@@ -197,27 +181,15 @@ class NumbersTest(unittest.TestCase):
         given, top = plain(), [ANN, BOB, DROP]
         calls = (how_many, lambda *told: state_at(*told, None), lambda *told: number_of(*told, None))
         for call in calls:
-            for value in NO_HISTORIES:
-                with self.assertRaises(InvalidHistory):
-                    call(value, None, None)
-            for value in no_states():
-                for told in ((value, None), ([], value)):
-                    with self.assertRaises(InvalidState) as caught:
-                        call(given, *told)
-                    self.assertIs(caught.exception.value, value)
-        for value in NO_NUMBERS + [-1, 5]:
-            with self.assertRaises(InvalidNumber) as caught:
-                state_at(given, [], top, value)
-            self.assertIs(caught.exception.value, value)
-        with self.assertRaises(InvalidNumber):
-            state_at(given, top, [], 0)
-        for value in no_states():
-            with self.assertRaises(InvalidState) as caught:
-                number_of(given, [], top, value)
-            self.assertIs(caught.exception.value, value)
+            self.refuse_each(InvalidHistory, NO_HISTORIES, lambda value: call(value, None, None))
+            self.refuse_each(InvalidState, no_states(), lambda value: call(given, value, None))
+            self.refuse_each(InvalidState, no_states(), lambda value: call(given, [], value))
+        self.refuse_each(InvalidNumber, NO_NUMBERS + [-1, 5], lambda value: state_at(given, [], top, value))
+        self.refuse(InvalidNumber, 0, lambda: state_at(given, top, [], 0))
+        self.refuse_each(InvalidState, no_states(), lambda value: number_of(given, [], top, value))
 
 
-class TextsTest(unittest.TestCase):
+class TextsTest(Case):
     """[23]"""
 
     def test_all(self):
@@ -251,18 +223,12 @@ class TextsTest(unittest.TestCase):
         self.assertEqual(len(texts(History(heap(14)))), 15)
 
     def test_errors(self):
-        for value in NO_HISTORIES:
-            with self.assertRaises(InvalidHistory):
-                texts(value)
-            with self.assertRaises(InvalidHistory):
-                showing(value, None)
-        for value in NO_TEXTS:
-            with self.assertRaises(InvalidText) as caught:
-                showing(plain(), value)
-            self.assertIs(caught.exception.value, value)
+        self.refuse_each(InvalidHistory, NO_HISTORIES, lambda value: texts(value))
+        self.refuse_each(InvalidHistory, NO_HISTORIES, lambda value: showing(value, None))
+        self.refuse_each(InvalidText, NO_TEXTS, lambda value: showing(plain(), value))
 
 
-class PartedTest(unittest.TestCase):
+class PartedTest(Case):
     """[24]"""
 
     def later(self, deeds, one, other):

@@ -11,6 +11,7 @@ from everrow.trees import (
     Tree, bent, cost, doors, graft, kept, span, state_of, text_at, unserved, way_of,
 )
 from tests import naive
+from tests.cases import Case
 from tests.growing import (
     ANN, BOB, DROP, NAMES, NO_NODES, NO_TREES, ROWS, check_serving, near_tree, plain_tree, random_tree, spans, walk,
     walk_cost,
@@ -20,7 +21,7 @@ from tests.makers import (
 )
 
 
-class MakingTest(unittest.TestCase):
+class MakingTest(Case):
     """[40]"""
 
     def test_span(self):
@@ -33,15 +34,9 @@ class MakingTest(unittest.TestCase):
         self.assertEqual((span(given, [], whole(given)), span(given, [], [])), (24, 0))
 
     def test_errors_of_span(self):
-        for value in NO_HISTORIES:
-            with self.assertRaises(InvalidHistory) as caught:
-                span(value, None, None)
-            self.assertIs(caught.exception.value, value)
-        for value in no_states():
-            for told in ((value, None), ([ANN], value)):
-                with self.assertRaises(InvalidState) as caught:
-                    span(plain(), *told)
-                self.assertIs(caught.exception.value, value)
+        self.refuse_each(InvalidHistory, NO_HISTORIES, lambda value: span(value, None, None))
+        self.refuse_each(InvalidState, no_states(), lambda value: span(plain(), value, None))
+        self.refuse_each(InvalidState, no_states(), lambda value: span(plain(), [ANN], value))
 
     def test_parts(self):
         tree = plain_tree()
@@ -64,20 +59,13 @@ class MakingTest(unittest.TestCase):
         self.assertEqual(cost(tree, "a", "b"), 24)
 
     def test_no_history_and_no_list(self):
-        for value in NO_HISTORIES:
-            with self.assertRaises(InvalidHistory) as caught:
-                Tree(value, None)
-            self.assertIs(caught.exception.value, value)
+        self.refuse_each(InvalidHistory, NO_HISTORIES, lambda value: Tree(value, None))
         eleven = [("a", None, [])] + [("b" * k, "a", []) for k in range(1, 9)] + [("c", "a", []), ("d", "a", [])]
-        for value in NO_LISTS + [[], eleven, tuple(ROWS), [None] * 11]:
-            with self.assertRaises(InvalidList) as caught:
-                Tree(plain(), value)
-            self.assertIs(caught.exception.value, value)
+        values = NO_LISTS + [[], eleven, tuple(ROWS), [None] * 11]
+        self.refuse_each(InvalidList, values, lambda value: Tree(plain(), value))
 
     def assert_item(self, rows, at):
-        with self.assertRaises(InvalidItem) as caught:
-            Tree(plain(), rows)
-        self.assertIs(caught.exception.value, rows[at])
+        self.refuse(InvalidItem, rows[at], lambda: Tree(plain(), rows))
 
     def test_items(self):
         for value in (None, True, 1, "a", [], (), ("a", "top"), ("a", "top", [], 1), ["a", "top", []], {}):
@@ -121,7 +109,7 @@ class MakingTest(unittest.TestCase):
         self.assertIsNot(told[0][2], told[1][2])
 
 
-class WaysTest(unittest.TestCase):
+class WaysTest(Case):
     """[41]"""
 
     def test_all(self):
@@ -136,7 +124,8 @@ class WaysTest(unittest.TestCase):
                 self.assertEqual(way_of(tree, one, other), walk(rows, one, other))
                 price = walk_cost(rows, one, other, spans)
                 self.assertEqual(cost(tree, one, other), price)
-                if first is None and names.index(one) < names.index(other) and price > spans(state_of(tree, one), state_of(tree, other)):
+                is_bent = price > spans(state_of(tree, one), state_of(tree, other))
+                if first is None and names.index(one) < names.index(other) and is_bent:
                     first = (one, other)
             self.assertEqual(bent(tree), first)
             self.assertEqual(first is None, self.turn_once(rows))
@@ -160,30 +149,16 @@ class WaysTest(unittest.TestCase):
 
     def test_errors(self):
         for call in (way_of, cost):
-            for value in NO_TREES:
-                with self.assertRaises(InvalidTree) as caught:
-                    call(value, None, None)
-                self.assertIs(caught.exception.value, value)
-            for value in NO_NODES:
-                for told in ((value, None), ("top", value)):
-                    with self.assertRaises(UnknownName) as caught:
-                        call(plain_tree(), *told)
-                    self.assertIs(caught.exception.name, value)
+            self.refuse_each(InvalidTree, NO_TREES, lambda value: call(value, None, None))
+            self.refuse_each(UnknownName, NO_NODES, lambda value: call(plain_tree(), value, None))
+            self.refuse_each(UnknownName, NO_NODES, lambda value: call(plain_tree(), "top", value))
         for call in (state_of, text_at):
-            for value in NO_TREES:
-                with self.assertRaises(InvalidTree) as caught:
-                    call(value, None)
-                self.assertIs(caught.exception.value, value)
-            for value in NO_NODES:
-                with self.assertRaises(UnknownName) as caught:
-                    call(plain_tree(), value)
-                self.assertIs(caught.exception.name, value)
-        for value in NO_TREES:
-            with self.assertRaises(InvalidTree):
-                bent(value)
+            self.refuse_each(InvalidTree, NO_TREES, lambda value: call(value, None))
+            self.refuse_each(UnknownName, NO_NODES, lambda value: call(plain_tree(), value))
+        self.refuse_each(InvalidTree, NO_TREES, lambda value: bent(value))
 
 
-class ServingTest(unittest.TestCase):
+class ServingTest(Case):
     """[42]"""
 
     def test_all(self):
@@ -215,17 +190,11 @@ class ServingTest(unittest.TestCase):
 
     def test_errors(self):
         for call in (kept, unserved):
-            for value in NO_TREES:
-                with self.assertRaises(InvalidTree) as caught:
-                    call(value, None)
-                self.assertIs(caught.exception.value, value)
-            for value in NO_NUMBERS + [-1]:
-                with self.assertRaises(InvalidNumber) as caught:
-                    call(plain_tree(), value)
-                self.assertIs(caught.exception.value, value)
+            self.refuse_each(InvalidTree, NO_TREES, lambda value: call(value, None))
+            self.refuse_each(InvalidNumber, NO_NUMBERS + [-1], lambda value: call(plain_tree(), value))
 
 
-class DoorsTest(unittest.TestCase):
+class DoorsTest(Case):
     """[43]"""
 
     def steps(self, deeds, rows):
@@ -288,21 +257,12 @@ class DoorsTest(unittest.TestCase):
         self.assertEqual(doors(Tree(given, rows), "m", "axb"), (1, ["m", "x", "e"]))
 
     def test_errors(self):
-        for value in NO_TREES:
-            with self.assertRaises(InvalidTree) as caught:
-                doors(value, None, None)
-            self.assertIs(caught.exception.value, value)
-        for value in NO_NODES:
-            with self.assertRaises(UnknownName) as caught:
-                doors(plain_tree(), value, None)
-            self.assertIs(caught.exception.name, value)
-        for value in NO_TEXTS:
-            with self.assertRaises(InvalidText) as caught:
-                doors(plain_tree(), "top", value)
-            self.assertIs(caught.exception.value, value)
+        self.refuse_each(InvalidTree, NO_TREES, lambda value: doors(value, None, None))
+        self.refuse_each(UnknownName, NO_NODES, lambda value: doors(plain_tree(), value, None))
+        self.refuse_each(InvalidText, NO_TEXTS, lambda value: doors(plain_tree(), "top", value))
 
 
-class GraftTest(unittest.TestCase):
+class GraftTest(Case):
     """[44]"""
 
     def test_all(self):
@@ -324,14 +284,10 @@ class GraftTest(unittest.TestCase):
         self.assertEqual(graft(History([]), [], [], []), [])
 
     def test_errors(self):
-        for value in NO_HISTORIES:
-            with self.assertRaises(InvalidHistory):
-                graft(value, None, None, None)
-        for value in no_states():
-            for told in ((value, None, None), ([], value, None), ([], [], value)):
-                with self.assertRaises(InvalidState) as caught:
-                    graft(plain(), *told)
-                self.assertIs(caught.exception.value, value)
+        self.refuse_each(InvalidHistory, NO_HISTORIES, lambda value: graft(value, None, None, None))
+        self.refuse_each(InvalidState, no_states(), lambda value: graft(plain(), value, None, None))
+        self.refuse_each(InvalidState, no_states(), lambda value: graft(plain(), [], value, None))
+        self.refuse_each(InvalidState, no_states(), lambda value: graft(plain(), [], [], value))
 
     def test_arguments_stay(self):
         base, tip, onto = [ANN], [ANN, BOB], [ANN, DROP]
