@@ -17,10 +17,10 @@ class Chart:
         self.numbers = {name: number for number, name in enumerate(self.names)}
         self.below = masks_below(made, self.numbers)
         self.above = masks_above(self.below)
-        self.row = row_of(made)
-        self.places = {sign: place for place, sign in enumerate(self.row)}
-        self.owners = [self.numbers[sign[:2]] for sign in self.row]
-        self.glyphs = [made[owner][3][sign[2]] for owner, sign in zip(self.owners, self.row)]
+        self.signs = row_of(made)
+        self.places = {sign: place for place, sign in enumerate(self.signs)}
+        self.owners = [self.numbers[sign[:2]] for sign in self.signs]
+        self.glyphs = [made[owner][3][sign[2]] for owner, sign in zip(self.owners, self.signs)]
         self.foes = masks_of_foes(made, self.places)
 
 
@@ -141,7 +141,7 @@ def is_seen(chart, mask, place):
 
 def seen_places(chart, mask):
     """The ascending list of the places of the ever-row whose signs are seen in a state."""
-    return [place for place in range(len(chart.row)) if is_seen(chart, mask, place)]
+    return [place for place in range(len(chart.signs)) if is_seen(chart, mask, place)]
 
 
 def shown_text(chart, mask):

@@ -75,7 +75,7 @@ def bears(history, name):
 
 def ever_row(history):
     """The list of the names of all signs in the order of the ever-row."""
-    return list(chart_of(history).row)
+    return list(chart_of(history).signs)
 
 
 def sign_of(history, sign):
@@ -109,7 +109,7 @@ def heart(history, listed):
 def seen(history, state):
     """The list of the names of the signs seen in a state, in the order of the ever-row."""
     chart = chart_of(history)
-    return [chart.row[place] for place in seen_places(chart, known_state(chart, state))]
+    return [chart.signs[place] for place in seen_places(chart, known_state(chart, state))]
 
 
 def text_of(history, state):

@@ -4,6 +4,7 @@ GREATEST_NUMBER = 10 ** 18
 LONGEST_NAME = 8
 MOST_SIGNS = 6
 BLANK_SIGNS = " \n"
+LETTERS = "abcdefghijklmnopqrstuvwxyz"
 
 
 def is_whole(value):
@@ -41,6 +42,11 @@ def is_text(value):
 def is_text_within(value, least, most):
     """Whether a value is a text with a number of signs from one bound to another one."""
     return is_text(value) and least <= len(value) <= most
+
+
+def is_sign(value):
+    """Whether a value is a sign, a text of one."""
+    return is_text_within(value, 1, 1)
 
 
 def is_deed_name(value):

@@ -86,7 +86,7 @@ def longer_lines(chart, lines):
     """All lines with their greatest states that go on by one sign from lines that stand in theirs."""
     found = []
     for places, mask in lines:
-        for place in range(places[-1] + 1 if places else 0, len(chart.row)):
+        for place in range(places[-1] + 1 if places else 0, len(chart.signs)):
             more = greatest_standing(chart, mask, places + [place])
             if more is not None:
                 found.append((places + [place], more))

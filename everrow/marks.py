@@ -15,7 +15,7 @@ def rank_if_mark(chart, value):
     if value == ("first",):
         return 0
     if value == ("last",):
-        return 2 * len(chart.row) + 1
+        return 2 * len(chart.signs) + 1
     if not isinstance(value, tuple) or len(value) != 2 or value[0] not in ("ahead", "behind"):
         return None
     place = place_if_sign(chart, value[1])
@@ -144,14 +144,20 @@ def gaps_if_selection(chart, value):
     return (gap_of(first), gap_of(second))
 
 
+def known_selection(chart, selection):
+    """How many signs of the ever-row come ahead of the two marks of a selection."""
+    gaps = gaps_if_selection(chart, selection)
+    if gaps is None:
+        raise InvalidMark(selection)
+    return gaps
+
+
 def picked(history, state, selection):
     """The text of a state between the two marks of a selection."""
     chart = chart_of(history)
     mask = known_state(chart, state)
-    gaps = gaps_if_selection(chart, selection)
-    if gaps is None:
-        raise InvalidMark(selection)
-    return "".join([chart.glyphs[place] for place in range(gaps[0], gaps[1]) if is_seen(chart, mask, place)])
+    begin, end = known_selection(chart, selection)
+    return "".join([chart.glyphs[place] for place in range(begin, end) if is_seen(chart, mask, place)])
 
 
 def known_folds(chart, folds):

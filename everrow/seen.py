@@ -32,7 +32,7 @@ def only(history, line):
     places = places_if_line(chart, line)
     if places is None:
         raise InvalidLine(line)
-    others = [place for place in range(len(chart.row)) if place not in places]
+    others = [place for place in range(len(chart.signs)) if place not in places]
     return names_or_none(chart, greatest_showing(chart, whole_mask(chart), places, others))
 
 
@@ -44,14 +44,14 @@ def read(history, word):
     found = spelled(chart, word, [], whole_mask(chart))
     if found is None:
         return None
-    return ([chart.row[place] for place in found[0]], names_in(chart, found[1]))
+    return ([chart.signs[place] for place in found[0]], names_in(chart, found[1]))
 
 
 def spelled(chart, word, places, mask):
     """The line, and its greatest state, that goes on with a word from a line that stands in its own, or None."""
     if word == "":
         return (places, mask)
-    for place in range(places[-1] + 1 if places else 0, len(chart.row)):
+    for place in range(places[-1] + 1 if places else 0, len(chart.signs)):
         if chart.glyphs[place] == word[0]:
             # The greatest state of the longer line lies within that of the line that it begins with.
             more = greatest_standing(chart, mask, places + [place])

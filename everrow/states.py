@@ -135,7 +135,7 @@ def parted(history, one, other):
     places = [place for place, owner in enumerate(chart.owners) if shared >> owner & 1]
     for place in places:
         if is_seen(chart, first, place) != is_seen(chart, second, place):
-            return [("drop", later_name(chart), [chart.row[place]])]
+            return [("drop", later_name(chart), [chart.signs[place]])]
     return parting_put(chart, first, second, places)
 
 
@@ -152,7 +152,7 @@ def parting_put(chart, first, second, places):
         if gaps[0] < gaps[1]:
             # A sign put in at either end of a stretch leaves one text only if the stretch is of that sign alone.
             sign = "b" if text[gaps[0]] == "a" else "a"
-            return [("put", later_name(chart), chart.row[place], sign)]
+            return [("put", later_name(chart), chart.signs[place], sign)]
     return None
 
 

@@ -48,6 +48,30 @@ FUNCTIONS = {
         "strays": "history states mark", "picked": "history state selection", "crossing": "history folds",
         "folded": "history state folds",
     },
+    "everrow.spans": {
+        "filled": "history state selection", "emptied": "history state selection",
+        "places_between": "history low high mark", "swaps": "history states marks",
+    },
+    "everrow.changes": {
+        "done": "change text", "joined": "one other", "undone": "change text", "parting": "one other",
+        "least_change": "text other", "shelves": "text other", "between": "history one other",
+        "deeds_for": "history state hand change",
+    },
+    "everrow.keys": {
+        "pressed": "text at keys", "effect": "size at keys", "alike": "one other", "unlike": "one other",
+        "commute": "one other", "idle": "keys", "needless": "keys", "outcome": "text at keys",
+        "often": "text at keys times",
+    },
+    "everrow.patterns": {
+        "fits": "pattern text", "matches": "pattern text", "next_match": "pattern text place", "struck": "pattern text",
+        "same_fits": "one other", "fits_less": "one other", "parting_text": "one other", "common_text": "one other",
+        "found_signs": "history state pattern", "replaced": "history state hand pattern text",
+        "settle": "rules text most",
+    },
+    "everrow.fitting": {
+        "how_many_fit": "pattern length", "how_many_both": "one other length", "how_many_part": "one other length",
+        "fit_at": "pattern length number", "fit_number": "pattern text",
+    },
 }
 CLASSES = {
     ("everrow.history", "History"): {"__init__": "deeds", "deeds": "", "__eq__": None},
@@ -56,6 +80,7 @@ CLASSES = {
         "heard": "hand", "waiting": "hand", "history": "hand", "text": "hand", "lacks": "hand other", "rounds": "",
     },
     ("everrow.trees", "Tree"): {"__init__": "history rows", "history": "", "rows": "", "__eq__": None},
+    ("everrow.changes", "Change"): {"__init__": "size row", "row": "", "__eq__": None},
 }
 
 

@@ -203,6 +203,8 @@ class LanguageTest(unittest.TestCase):
             for node in ast.walk(tree):
                 if isinstance(node, ast.Call):
                     word = node.func.id if isinstance(node.func, ast.Name) else node.func.attr
+                    if word == "reversed" and ast.unparse(node.args[0]).startswith("range("):
+                        fine.add(id(node.args[0]))
                     if word in ("zip", "enumerate", "reversed", "range", "items", "keys", "values"):
                         self.assertIn(id(node), fine, ast.unparse(node))
 

@@ -5,7 +5,7 @@ from itertools import combinations
 from random import Random
 from time import monotonic
 
-from everrow import blends, hands, lines, marks, seen, states, trees
+from everrow import blends, changes, fitting, hands, keys, lines, marks, patterns, seen, spans, states, trees
 from everrow.history import History, closure, deed_names, ever_row, heart, rests, text_of, whole
 from tests.makers import chain, heap, mixed
 
@@ -164,6 +164,81 @@ class LimitsTest(unittest.TestCase):
             marks.crossing(given, folds)
             marks.folded(given, whole(given), folds[:1] * 60)
             marks.picked(given, whole(given), folds[0])
+
+    def test_spans(self):
+        for seed in range(12):
+            given = History(bushy(seed, 14))
+            row, chance = ever_row(given), Random(seed)
+            for one, other in combinations(row[::4] + row[-1:], 2):
+                selection = (("ahead", one), ("behind", other))
+                many = row.index(other) + 1 - row.index(one)
+                for state in ([], whole(given), closure(given, chance.sample(whole(given), 5))):
+                    self.assertEqual(marks.picked(given, spans.emptied(given, state, selection), selection), "")
+                    self.assertEqual(len(marks.picked(given, spans.filled(given, state, selection), selection)), many)
+            for sign in row:
+                spans.places_between(given, [], whole(given), ("behind", sign))
+        for given in self.all_large():
+            spans.places_between(given, [], whole(given), ("last",))
+            every = [("behind", sign) for sign in ever_row(given)]
+            spans.swaps(given, [closure(given, [name]) for name in whole(given)], every)
+
+    def test_changes(self):
+        chance = Random(1)
+        for size in (200, 400):
+            text = "".join(chance.choice("abc") for _ in range(size))
+            change = changes.Change(size, [k for k in range(size) if k % 3] + ["x"] * 100)
+            self.assertEqual(changes.done(changes.undone(change, text), changes.done(change, text)), text)
+            changes.joined(change, changes.undone(change, text))
+        for _ in range(50):
+            one, other = ["".join(chance.choice("abc") for _ in range(200)) for _ in range(2)]
+            self.assertEqual(len(changes.shelves(one[:30], other[:30])),
+                             30 - len([item for item in changes.least_change(one[:30], other[:30]).row()
+                                       if isinstance(item, str)]))
+        changes.least_change(one, other)
+        for given in self.all_large():
+            changes.between(given, [], whole(given))
+            size = len(text_of(given, whole(given)))
+            changes.deeds_for(given, whole(given), "z", changes.Change(size, ["x"] * 20))
+
+    def test_keys(self):
+        wide = [("left", 9), ("first",), ("right", 6), ("write", "abcdef"), ("last",), ("rub", 9), ("left", 1)]
+        many = [("right", 3)] * 10 + [("first",)] * 2
+        for one in (wide, many, many[:5] + wide[:4]):
+            for call in (keys.idle, keys.needless):
+                call(one)
+            keys.alike(one, one)
+            keys.unlike(one, [])
+            keys.commute(one, one)
+        chance = Random(2)
+        for _ in range(200):
+            row = [chance.choice([("left", 9), ("right", 9), ("rub", 9), ("cut", 9), ("left", 8), ("right", 7), ("first",),
+                                  ("last",), ("write", "abcdef")]) for _ in range(12)]
+            for at in (0, 100, 200):
+                keys.outcome("ab" * 100, at, row)
+                keys.often("ab" * 100, at, row, 10 ** 18)
+                keys.effect(200, at, row)
+
+    def test_patterns(self):
+        gap, wide = ("gap",), ("set", "abcdefghijklmnopqrstuvwxyz")
+        hard = [["aaaaaa", gap, "aaaaab", gap, "aaaaaa", "aaaaac"], ["a", gap, wide, ("set", "ab"), wide, "aaaaaa"],
+                ["aaaaaa", "aaaaaa", gap, "aaaaaa", "aaaaaa", ("set", "ac")], [wide] * 6, [wide, gap, wide, gap, wide]]
+        for one in hard:
+            for text in ("a" * 200, "aaaaab" * 33, "ab\n" * 66):
+                patterns.matches(one, text)
+                patterns.next_match(one, text, len(text))
+                fitting.fit_number(one, text)
+            many = fitting.how_many_fit(one, 200)
+            if many:
+                self.assertEqual(fitting.fit_number(one, fitting.fit_at(one, 200, many - 1)), many - 1)
+            for other in hard:
+                patterns.parting_text(one, other)
+                patterns.common_text(one, other)
+                both = fitting.how_many_both(one, other, 200)
+                self.assertEqual(fitting.how_many_part(one, other, 200),
+                                 many + fitting.how_many_fit(other, 200) - 2 * both)
+        patterns.settle([("a", "bbbbbb"), ("b", "cccccc"), ("c", "dddddd"), ("d", "")], "a" * 200, 400)
+        for given in self.all_large():
+            patterns.replaced(given, whole(given), "z", [("set", "abc")], "abcdef")
 
 
 if __name__ == "__main__":

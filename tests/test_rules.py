@@ -5,6 +5,7 @@ from copy import deepcopy
 from importlib import import_module
 
 from everrow import errors
+from everrow.changes import Change
 from everrow.hands import Net
 from everrow.history import History
 from everrow.trees import Tree
@@ -48,6 +49,10 @@ def plain(name, worth, error):
     return (name, lambda: deepcopy(worth), error)
 
 
+def change(name, size, row):
+    return (name, lambda: Change(size, list(row)), "InvalidChange")
+
+
 DEED, SIGN = plain("name", ANN, "UnknownDeed"), plain("sign", B, "UnknownSign")
 ONE, OTHER = state("one", ANN), state("other", ANN, BOB)
 LOW, HIGH = state("low"), state("high", *TOP)
@@ -57,6 +62,17 @@ MARK = plain("mark", BEHIND, "InvalidMark")
 NUMBER = plain("number", 1, "InvalidNumber")
 HAND = plain("hand", "ann", "UnknownName")
 FOLDS = plain("folds", [(BEHIND, AHEAD), (FIRST, LAST)], "InvalidList")
+SELECTION = plain("selection", (BEHIND, AHEAD), "InvalidMark")
+CHANGE = change("change", 2, [0, "x"])
+WORDS = [plain("text", "abcb", "InvalidText"), plain("other", "bab", "InvalidText")]
+TEXT = plain("text", "aab b", "InvalidText")
+KEY_LISTS = [[("left", 1), ("write", "x")], [("write", "x"), ("left", 1)]]
+KEYS = [plain("one", KEY_LISTS[0], "InvalidKeys"), plain("other", KEY_LISTS[1], "InvalidKeys")]
+PRESSING = [plain("text", "ab", "InvalidText"), plain("at", 1, "InvalidNumber"),
+            plain("keys", KEY_LISTS[0] + [("first",)], "InvalidKeys")]
+PATTERN = plain("pattern", ["a", ("gap",), ("set", "abx")], "InvalidPattern")
+PATTERNS = [plain("one", ["a", ("gap",), "b"], "InvalidPattern"), plain("other", [("set", "ab"), "b"], "InvalidPattern")]
+LENGTH = plain("length", 3, "InvalidNumber")
 CALLS = [
     ("history", "History", [plain("deeds", PLAIN, "InvalidList")]),
     ("history", "deed_names", [HISTORY]),
@@ -128,6 +144,47 @@ CALLS = [
     ("marks", "picked", [HISTORY, state("state", *TOP), plain("selection", (BEHIND, AHEAD), "InvalidMark")]),
     ("marks", "crossing", [HISTORY, FOLDS]),
     ("marks", "folded", [HISTORY, state("state", *TOP), FOLDS]),
+    ("spans", "filled", [HISTORY, state("state", *TOP), SELECTION]),
+    ("spans", "emptied", [HISTORY, state("state", ANN, BOB), SELECTION]),
+    ("spans", "places_between", [HISTORY, LOW, HIGH, MARK]),
+    ("spans", "swaps", [HISTORY, plain("states", [[ANN], TOP], "InvalidList"),
+                        plain("marks", [LAST, BEHIND, AHEAD], "InvalidList")]),
+    ("changes", "Change", [plain("size", 2, "InvalidNumber"), plain("row", [0, "x"], "InvalidList")]),
+    ("changes", "done", [CHANGE, plain("text", "ab", "InvalidText")]),
+    ("changes", "joined", [change("one", 2, [0, "x"]), change("other", 2, [1])]),
+    ("changes", "undone", [CHANGE, plain("text", "ab", "InvalidText")]),
+    ("changes", "parting", [change("one", 2, [0, "x"]), change("other", 2, [1])]),
+    ("changes", "least_change", WORDS),
+    ("changes", "shelves", WORDS),
+    ("changes", "between", [HISTORY, ONE, OTHER]),
+    ("changes", "deeds_for", [HISTORY, state("state", ANN), plain("hand", "cy", "InvalidName"), CHANGE]),
+    ("keys", "pressed", PRESSING),
+    ("keys", "effect", [plain("size", 2, "InvalidNumber")] + PRESSING[1:]),
+    ("keys", "alike", KEYS),
+    ("keys", "unlike", KEYS),
+    ("keys", "commute", KEYS),
+    ("keys", "idle", PRESSING[2:]),
+    ("keys", "needless", PRESSING[2:]),
+    ("keys", "outcome", PRESSING),
+    ("keys", "often", PRESSING + [plain("times", 9, "InvalidNumber")]),
+    ("patterns", "fits", [PATTERN, TEXT]),
+    ("patterns", "matches", [PATTERN, TEXT]),
+    ("patterns", "next_match", [PATTERN, TEXT, plain("place", 1, "InvalidNumber")]),
+    ("patterns", "struck", [PATTERN, TEXT]),
+    ("patterns", "same_fits", PATTERNS),
+    ("patterns", "fits_less", PATTERNS),
+    ("patterns", "parting_text", PATTERNS),
+    ("patterns", "common_text", PATTERNS),
+    ("patterns", "found_signs", [HISTORY, state("state", ANN, BOB), PATTERN]),
+    ("patterns", "replaced", [HISTORY, state("state", ANN, BOB), plain("hand", "cy", "InvalidName"), PATTERN,
+                              plain("text", "yz", "InvalidText")]),
+    ("patterns", "settle", [plain("rules", [("a", "b"), ("b", "")], "InvalidRules"), TEXT,
+                            plain("most", 9, "InvalidNumber")]),
+    ("fitting", "how_many_fit", [PATTERN, LENGTH]),
+    ("fitting", "how_many_both", PATTERNS + [LENGTH]),
+    ("fitting", "how_many_part", PATTERNS + [LENGTH]),
+    ("fitting", "fit_at", [PATTERN, LENGTH, NUMBER]),
+    ("fitting", "fit_number", [PATTERN, TEXT]),
 ]
 METHODS = [
     (history, "deeds", []),
@@ -143,6 +200,7 @@ METHODS = [
     (net, "rounds", []),
     (tree, "history", []),
     (tree, "rows", []),
+    (CHANGE[1], "row", []),
 ]
 
 
@@ -152,6 +210,8 @@ def shown(value):
         return ("History", value.deeds())
     if isinstance(value, Tree):
         return ("Tree", value.history().deeds(), value.rows())
+    if isinstance(value, Change):
+        return ("Change", value.size, value.row())
     if isinstance(value, Net):
         return ("Net", [(value.heard(hand), value.waiting(hand)) for hand in ("ann", "bob")])
     if isinstance(value, (list, tuple)):
@@ -197,7 +257,7 @@ class RulesTest(Case):
                 found = lists_in(result)
                 self.assertEqual(len({id(one) for one in found}), len(found))
                 self.assertFalse({id(one) for one in found} & {id(one) for one in lists_in(told)})
-                allowed = {type(None), bool, str, int, tuple, list, History, Tree, Net}
+                allowed = {type(None), bool, str, int, tuple, list, History, Tree, Net, Change}
                 self.assertTrue(kinds_in(result) <= allowed)
 
     def test_by_name_and_again(self):
@@ -237,7 +297,8 @@ class RulesTest(Case):
         deep = []
         for _ in range(29):
             deep = [deep]
-        values = [None, True, 0, "a", (), [], {}, {"a": [1]}, deep, history(), tree(), net(), [history()], (tree(),)]
+        values = [None, True, 0, "a", (), [], {}, {"a": [1]}, deep, history(), tree(), net(), [history()], (tree(),),
+                  CHANGE[1](), [CHANGE[1]()]]
         for name, find, arguments in self.all_calls():
             for at, (_, _, error) in enumerate(arguments):
                 for value in values:
@@ -251,11 +312,12 @@ class RulesTest(Case):
                             self.assertIsNotNone(error)
 
     def test_objects_equal_nothing_else(self):
-        for one in (history(), tree()):
-            for value in (None, True, 1, "a", [], (), {}, PLAIN, ROWS, net(), errors.RowError()):
+        objects = [history(), tree(), CHANGE[1]()]
+        for at, one in enumerate(objects):
+            others = objects[:at] + objects[at + 1:]
+            for value in [None, True, 1, "a", [], (), {}, PLAIN, ROWS, net(), errors.RowError(), *others]:
                 self.assertFalse(one == value)
                 self.assertTrue(one != value)
-        self.assertFalse(history() == tree())
 
 
 if __name__ == "__main__":
