@@ -2,9 +2,10 @@
 
 from everrow.chart import seen_places
 from everrow.checks import known_state
-from everrow.errors import InvalidChange, InvalidItem, InvalidList, InvalidName, InvalidNumber, InvalidText
+from everrow.demands import check_name, check_text, check_text_within, check_within
+from everrow.errors import InvalidChange, InvalidItem, InvalidList
 from everrow.history import chart_of
-from everrow.kinds import is_name, is_sign, is_text, is_text_within, is_whole, is_whole_within
+from everrow.kinds import is_sign, is_whole, is_whole_within
 from everrow.making import maker_for
 
 LONGEST_ROW = 400
@@ -28,8 +29,7 @@ class Change:
 
 def check_row(size, row):
     """Refuses what no change can be made of."""
-    if not is_whole_within(size, 0, LONGEST_ROW):
-        raise InvalidNumber(size)
+    check_within(size, 0, LONGEST_ROW)
     if not isinstance(row, list) or len(row) > LONGEST_ROW:
         raise InvalidList(row)
     least = 0
@@ -47,12 +47,6 @@ def row_of_change(change):
     return change.row()
 
 
-def check_text_for(change, text):
-    """Refuses what is no text of the length that a change changes."""
-    if not is_text_within(text, change.size, change.size):
-        raise InvalidText(text)
-
-
 def kept_in(row):
     """The ascending list of the numbers in a row."""
     return [item for item in row if is_whole(item)]
@@ -61,7 +55,7 @@ def kept_in(row):
 def done(change, text):
     """The text that a change makes of a text."""
     row = row_of_change(change)
-    check_text_for(change, text)
+    check_text_within(text, change.size, change.size)
     return "".join([text[item] if is_whole(item) else item for item in row])
 
 
@@ -77,7 +71,7 @@ def joined(one, other):
 def undone(change, text):
     """The change that gives back a text that a change was done to."""
     row = row_of_change(change)
-    check_text_for(change, text)
+    check_text_within(text, change.size, change.size)
     # Where a sign that was kept stands now.
     stands = {item: number for number, item in enumerate(row) if is_whole(item)}
     return Change(len(row), [stands.get(at, sign) for at, sign in enumerate(text)])
@@ -106,13 +100,6 @@ def text_with_unlike(size, pair):
     return filler * number + sign + filler * (size - number - 1)
 
 
-def check_texts(text, other):
-    """Refuses what are no two texts."""
-    for value in (text, other):
-        if not is_text(value):
-            raise InvalidText(value)
-
-
 def longest_chains(text, other):
     """For each gap of two texts how many signs can be kept at most of what lies behind both, as a list of lists."""
     rows = [[0] * (len(other) + 1) for _ in range(len(text) + 1)]
@@ -127,7 +114,8 @@ def longest_chains(text, other):
 
 def least_change(text, other):
     """A change from one text to another one that keeps as many signs as possible."""
-    check_texts(text, other)
+    check_text(text)
+    check_text(other)
     rows = longest_chains(text, other)
     row = []
     at = 0
@@ -143,7 +131,8 @@ def least_change(text, other):
 
 def shelves(text, other):
     """Lists, as many as signs can be kept, of all places with equal signs, no two of one list kept at once."""
-    check_texts(text, other)
+    check_text(text)
+    check_text(other)
     rows = longest_chains(text, other)
     found = [[] for _ in range(rows[0][0])]
     for i, sign in enumerate(text):
@@ -168,8 +157,7 @@ def deeds_for(history, state, hand, change):
     """The list of deeds by which a hand makes a change in a state."""
     chart = chart_of(history)
     signs = [chart.signs[place] for place in seen_places(chart, known_state(chart, state))]
-    if not is_name(hand):
-        raise InvalidName(hand)
+    check_name(hand)
     row = row_of_change(change)
     if change.size != len(signs):
         raise InvalidChange(change)

@@ -1,14 +1,7 @@
 """How many texts of a length fit patterns, and which number each of them has ([88])."""
 
 from everrow.automata import SIGNS, does_fit, fitting, machine_for, sign_kinds, start_of, step, step_all
-from everrow.errors import InvalidNumber, InvalidText
-from everrow.kinds import is_text, is_whole_from, is_whole_within
-
-
-def check_length(length):
-    """Refuses what is no length of a text."""
-    if not is_whole_from(length, 0):
-        raise InvalidNumber(length)
+from everrow.demands import check_from, check_text, check_within
 
 
 def ways_on(machines):
@@ -55,21 +48,21 @@ def how_many_wanted(machines, length, wanted):
 def how_many_fit(pattern, length):
     """How many texts of a length fit a pattern."""
     machines = [machine_for(pattern)]
-    check_length(length)
+    check_from(length, 0)
     return how_many_wanted(machines, length, [(True,)])
 
 
 def how_many_both(one, other, length):
     """How many texts of a length fit two patterns."""
     machines = [machine_for(one), machine_for(other)]
-    check_length(length)
+    check_from(length, 0)
     return how_many_wanted(machines, length, [(True, True)])
 
 
 def how_many_part(one, other, length):
     """How many texts of a length fit just one of two patterns."""
     machines = [machine_for(one), machine_for(other)]
-    check_length(length)
+    check_from(length, 0)
     return how_many_wanted(machines, length, [(True, False), (False, True)])
 
 
@@ -85,10 +78,9 @@ def count_rows(machine, length):
 def fit_at(pattern, length, number):
     """The text of a length with a number among those that fit a pattern."""
     machine = machine_for(pattern)
-    check_length(length)
+    check_from(length, 0)
     rows = count_rows(machine, length)
-    if not is_whole_within(number, 0, rows[length][(1,)] - 1):
-        raise InvalidNumber(number)
+    check_within(number, 0, rows[length][(1,)] - 1)
     text, mask = "", 1
     for left in reversed(range(length)):
         sign, number = sign_at(machine, mask, rows[left], number)
@@ -110,8 +102,7 @@ def sign_at(machine, mask, counts, number):
 def fit_number(pattern, text):
     """The number of a text among those of its length that fit a pattern, or None if it does not fit."""
     machine = machine_for(pattern)
-    if not is_text(text):
-        raise InvalidText(text)
+    check_text(text)
     if not does_fit(machine, text):
         return None
     rows = count_rows(machine, len(text))

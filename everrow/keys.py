@@ -1,8 +1,8 @@
 """Keys: what they make of a text, of all texts, and pressed again and again ([74] to [78])."""
 
 from everrow.changes import Change, parting
-from everrow.errors import InvalidKeys, InvalidNumber, InvalidText
-from everrow.kinds import is_text, is_whole_from, is_whole_within
+from everrow.demands import check_from, check_text, check_within
+from everrow.errors import InvalidKeys
 from everrow.strokes import are_keys, press, press_sides, reach_of, steady_sides
 
 LONGEST_TEXT = 200
@@ -16,10 +16,8 @@ def check_keys(keys):
 
 def check_pressing(text, at, keys):
     """Refuses what cannot be pressed on a text with a cursor."""
-    if not is_text(text):
-        raise InvalidText(text)
-    if not is_whole_within(at, 0, len(text)):
-        raise InvalidNumber(at)
+    check_text(text)
+    check_within(at, 0, len(text))
     check_keys(keys)
 
 
@@ -31,10 +29,8 @@ def pressed(text, at, keys):
 
 def effect(size, at, keys):
     """The tuple of the change that keys make of each text of a size with a cursor, and where the cursor is then."""
-    if not is_whole_within(size, 0, LONGEST_TEXT):
-        raise InvalidNumber(size)
-    if not is_whole_within(at, 0, size):
-        raise InvalidNumber(at)
+    check_within(size, 0, LONGEST_TEXT)
+    check_within(at, 0, size)
     check_keys(keys)
     return effect_of(size, at, keys)
 
@@ -114,8 +110,7 @@ def outcome(text, at, keys):
 def often(text, at, keys, times):
     """The tuple of the length of the text and the cursor behind so many pressings of keys."""
     check_pressing(text, at, keys)
-    if not is_whole_from(times, 0):
-        raise InvalidNumber(times)
+    check_from(times, 0)
     sides = (at, len(text) - at)
     passed, here, there = steady_sides(sides, keys)
     if times < passed:

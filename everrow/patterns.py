@@ -3,20 +3,15 @@
 from everrow.automata import all_matches, does_fit, first_match, is_word, least_text, machine_for
 from everrow.chart import seen_places, shown_text
 from everrow.checks import known_state
-from everrow.errors import InvalidName, InvalidNumber, InvalidRules, InvalidText
+from everrow.demands import check_name, check_text, check_text_within, check_within
+from everrow.errors import InvalidRules
 from everrow.history import chart_of
-from everrow.kinds import MOST_SIGNS, is_name, is_text, is_text_within, is_whole_within
+from everrow.kinds import MOST_SIGNS
 from everrow.making import maker_for
 
 MOST_RULES = 4
 MOST_LEFT = 400
 MOST_PASSES = 200
-
-
-def check_text(text):
-    """Refuses what is no text."""
-    if not is_text(text):
-        raise InvalidText(text)
 
 
 def fits(pattern, text):
@@ -37,8 +32,7 @@ def next_match(pattern, text, place):
     """The first match from a place on, or else from the beginning on; None if there is none."""
     machine = machine_for(pattern)
     check_text(text)
-    if not is_whole_within(place, 0, len(text)):
-        raise InvalidNumber(place)
+    check_within(place, 0, len(text))
     match = first_match(machine, text, place)
     return first_match(machine, text, 0) if match is None else match
 
@@ -89,11 +83,9 @@ def replaced(history, state, hand, pattern, text):
     """The list of deeds by which a hand puts a text in the place of each match in the text of a state."""
     chart = chart_of(history)
     mask = known_state(chart, state)
-    if not is_name(hand):
-        raise InvalidName(hand)
+    check_name(hand)
     signs, found = signs_and_matches(chart, mask, pattern)
-    if not is_text_within(text, 0, MOST_SIGNS):
-        raise InvalidText(text)
+    check_text_within(text, 0, MOST_SIGNS)
     maker = maker_for(chart, hand)
     for begin, end in reversed(found):
         maker.put(signs[end - 1], text)
@@ -118,8 +110,7 @@ def settle(rules, text, most):
     if not are_rules(rules):
         raise InvalidRules(rules)
     check_text(text)
-    if not is_whole_within(most, 0, MOST_LEFT):
-        raise InvalidNumber(most)
+    check_within(most, 0, MOST_LEFT)
     passes = {text: 0}
     many = 0
     while many < MOST_PASSES:

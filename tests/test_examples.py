@@ -3,14 +3,26 @@
 import unittest
 
 from everrow.changes import Change, done, joined, undone
+from everrow.display import (
+    ends_alike, least_width, pieces, place_at, screen, scrolled, smooth, spot, stepped, widths,
+)
 from everrow.fitting import fit_at, fit_number, how_many_both, how_many_fit, how_many_part
 from everrow.hands import Net
 from everrow.history import History, closure, ever_row, heart, rests, text_of, whole
+from everrow.journal import (
+    always, crashes, fewest_lost, how_many_orders, journal, left_state, line_of, next_apart, order_at, possible,
+    recovered,
+)
 from everrow.keys import alike, idle, needless, often, outcome, pressed, unlike
 from everrow.marks import apart, folded, is_lost, meeting, place_of, strays
+from everrow.orders import alike_lines, commute_lines, played, settled, shows, source, undoes, unlike_line
 from everrow.patterns import common_text, fits, matches, next_match, parting_text, settle, struck
 from everrow.seen import best, read, trimmed, whenever
 from everrow.states import how_many, into, out, parted, showing, state_at, texts, way
+from everrow.tables import (
+    count_after, fate, length_after, presence, present, sign_after, turned, worst_sign,
+)
+from everrow.texts import read_history, write_history, wrong_line
 from everrow.trees import Tree, bent, cost, doors, graft, kept, unserved
 
 DEEDS = [
@@ -120,6 +132,73 @@ class ExamplesTest(unittest.TestCase):
              fit_number(["a", ("gap",), "b"], "aab"), how_many_both(["a", ("gap",), "b"], [("set", "ab"), "ab"], 3),
              how_many_part(["ab"], [("set", "ac"), "b"], 2)],
             [27, "a b", 1, 1, 1],
+        )
+
+    def test_tables(self):
+        self.assertEqual(
+            [turned([("a", "ab"), ("b", "")], "aba c"), fate([("a", "ab"), ("b", "b")], "aa"),
+             fate([("a", "b"), ("b", "a")], "ab"), fate([("a", "")], "ab"), worst_sign([("b", "a"), ("a", "aa")])],
+            ["abab c", ("creeps", 1), ("ring", 0, 2), ("ends", 1), "b"],
+        )
+        self.assertEqual(
+            [length_after([("a", "ab")], "a", 10 ** 18), count_after([("a", "ab")], "aa", 5, "b"),
+             sign_after([("a", "ba")], "a", 10 ** 18, 10 ** 18)],
+            [1000000000000000001, 10, "a"],
+        )
+        self.assertEqual(
+            [present([("a", "bc"), ("b", "a")], "a", 3), presence([("a", "b"), ("b", "a")], "a"),
+             presence([("a", "ab")], "a")],
+            ["bc", (0, 2), (1, 1)],
+        )
+
+    def test_orders(self):
+        self.assertEqual(
+            [played([("replace", "aa", "b"), ("front", "c"), ("last", 1)], "aaaxa"),
+             unlike_line([("first", 1)], [("last", 1)]),
+             commute_lines([("replace", "a", "b")], [("replace", "b", "a")])],
+            ["cbax", " a", False],
+        )
+        self.assertEqual(
+            [settled([("replace", "aa", "a")]), source([("replace", "ab", "")], "ab"),
+             shows([("replace", "a", "")], "a"), undoes([("front", "a")], [("first", 1)]),
+             alike_lines([("letters", [("a", "b")])], [("replace", "a", "b")])],
+            [False, "aabb", None, True, True],
+        )
+
+    def test_display(self):
+        text = "ab cde f\n\nabcdefg h"
+        self.assertEqual(
+            [pieces("ab cde f", 5), screen(text, 5)[2:], screen(text, 5, [(0, 1)])[1:3], spot(text, 5, 3),
+             place_at(text, 5, 0, 9), stepped(text, 5, 5, 1, 2)],
+            [["ab ", "cde f"], [(1, 0, ""), (2, 0, "abcdefg "), (2, 8, "h")], [(0, 3, "cde f"), (2, 0, "abcdefg ")],
+             (1, 0), 2, 9],
+        )
+        self.assertEqual(
+            [least_width(text, 4), widths(text), smooth("ab cde f", 5), scrolled(10, 0, 4, 6),
+             ends_alike("ab cde f", "xx cde f", 5)],
+            [8, [5, 8, 9], (4, [0, 3]), 3, 1],
+        )
+
+    def test_journal_and_texts(self):
+        deeds = [("put", (1, "ann"), None, "ab"), ("drop", (2, "bob"), [(1, "ann", 0)]),
+                 ("put", (2, "cy"), (1, "ann", 1), "c ")]
+        history = History(deeds)
+        order = order_at(history, 0)
+        text = journal(history, order)
+        self.assertEqual(
+            [line_of(deeds[0]), line_of(deeds[2]), how_many_orders(history), len(text),
+             recovered(text[:30]) == (History(deeds[:1]), 21), len(crashes(history, order, 1))],
+            ["14:put 1 ann - ab;74", "19:put 2 cy 1 ann 1 c_;04", 2, 72, True, 3],
+        )
+        self.assertEqual(
+            [left_state(history, order, 10, [3]), always(history, order, 10, [0, 1, 2]),
+             possible(history, order, 10, [4], [(1, "ann")]), fewest_lost(history, order, 10, [], [(1, "ann")]),
+             len(next_apart(history, order, 10, [], [(1, "ann")]))],
+            [[(1, "ann"), (2, "cy")], [(1, "ann")], True, [4], 1],
+        )
+        self.assertEqual(
+            [read_history(write_history(history)) == history, wrong_line(text), wrong_line(text + "x")],
+            [True, None, 4],
         )
 
 

@@ -72,6 +72,29 @@ FUNCTIONS = {
         "how_many_fit": "pattern length", "how_many_both": "one other length", "how_many_part": "one other length",
         "fit_at": "pattern length number", "fit_number": "pattern text",
     },
+    "everrow.tables": {
+        "turned": "table text", "length_after": "table text rounds", "count_after": "table text rounds sign",
+        "sign_after": "table text rounds place", "fate": "table text", "worst_sign": "table",
+        "present": "table text rounds", "presence": "table text",
+    },
+    "everrow.orders": {
+        "played": "orders line", "unlike_line": "one other", "alike_lines": "one other", "commute_lines": "one other",
+        "idle_lines": "orders", "settled": "orders", "undoes": "one other", "source": "orders line",
+        "shows": "orders word",
+    },
+    "everrow.display": {
+        "pieces": "line width", "screen": "text width folds=", "spot": "text width place",
+        "place_at": "text width row column", "stepped": "text width place rows column", "least_width": "text height",
+        "widths": "text", "smooth": "line width", "scrolled": "rows top height row", "ends_alike": "one other width",
+    },
+    "everrow.journal": {
+        "line_of": "deed", "deed_of": "line", "how_many_orders": "history", "order_at": "history number",
+        "order_number": "history order", "journal": "history order", "recovered": "text",
+        "crashes": "history order sure", "left_state": "history order size lost", "always": "history order size sure",
+        "possible": "history order size sure state", "fewest_lost": "history order size sure state",
+        "next_apart": "history order size sure state",
+    },
+    "everrow.texts": {"write_history": "history", "read_history": "text", "wrong_line": "text"},
 }
 CLASSES = {
     ("everrow.history", "History"): {"__init__": "deeds", "deeds": "", "__eq__": None},
@@ -113,11 +136,12 @@ class InterfaceTest(unittest.TestCase):
                         self.check_parameters(vars(made)[method], ["self"] + names.split())
 
     def check_parameters(self, made, names):
+        """Holds the names of the parameters; those with "=" may be left out, and are None then."""
         told = inspect.signature(made).parameters.values()
-        self.assertEqual([one.name for one in told], names)
-        for one in told:
+        self.assertEqual([one.name for one in told], [name.rstrip("=") for name in names])
+        for one, name in zip(told, names):
             self.assertEqual(one.kind, inspect.Parameter.POSITIONAL_OR_KEYWORD)
-            self.assertIs(one.default, inspect.Parameter.empty)
+            self.assertIs(one.default, None if name.endswith("=") else inspect.Parameter.empty)
 
 
 if __name__ == "__main__":

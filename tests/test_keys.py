@@ -241,7 +241,8 @@ class OutcomeTest(Case):
         # As long as there is something to cut the text gets shorter by two, then it gets longer by one.
         keys = [WRITE, ("cut", 3)]
         self.assertEqual(outcome("a" * 30, 0, keys), ("grows", 1))
-        self.assertEqual([often("a" * 30, 0, keys, times)[0] for times in (0, 1, 9, 10, 11, 12)], [30, 28, 12, 10, 11, 12])
+        lengths = [often("a" * 30, 0, keys, times)[0] for times in (0, 1, 9, 10, 11, 12)]
+        self.assertEqual(lengths, [30, 28, 12, 10, 11, 12])
 
     def test_far(self):
         far = 10 ** 18

@@ -5,7 +5,10 @@ from itertools import combinations
 from random import Random
 from time import monotonic
 
-from everrow import blends, changes, fitting, hands, keys, lines, marks, patterns, seen, spans, states, trees
+from everrow import (
+    blends, changes, display, fitting, hands, journal, keys, lines, marks, orders, patterns, seen, spans, states,
+    tables, texts, trees,
+)
 from everrow.history import History, closure, deed_names, ever_row, heart, rests, text_of, whole
 from tests.makers import chain, heap, mixed
 
@@ -211,8 +214,8 @@ class LimitsTest(unittest.TestCase):
             keys.commute(one, one)
         chance = Random(2)
         for _ in range(200):
-            row = [chance.choice([("left", 9), ("right", 9), ("rub", 9), ("cut", 9), ("left", 8), ("right", 7), ("first",),
-                                  ("last",), ("write", "abcdef")]) for _ in range(12)]
+            some = [("left", 9), ("right", 9), ("rub", 9), ("cut", 9), ("left", 8), ("right", 7), ("first",), ("last",)]
+            row = [chance.choice(some + [("write", "abcdef")]) for _ in range(12)]
             for at in (0, 100, 200):
                 keys.outcome("ab" * 100, at, row)
                 keys.often("ab" * 100, at, row, 10 ** 18)
@@ -239,6 +242,78 @@ class LimitsTest(unittest.TestCase):
         patterns.settle([("a", "bbbbbb"), ("b", "cccccc"), ("c", "dddddd"), ("d", "")], "a" * 200, 400)
         for given in self.all_large():
             patterns.replaced(given, whole(given), "z", [("set", "abc")], "abcdef")
+
+    def test_tables(self):
+        far = 10 ** 18
+        letters = "abcdefghij"
+        creeping = [(sign, more + sign) for sign, more in zip(letters, "bcdefghijk")]
+        ringing = [("a", "bzz"), ("b", "zcz"), ("c", "dz"), ("d", "e"), ("e", "za"), ("f", "ga"), ("g", "ah"),
+                   ("h", "iz"), ("i", "f"), ("z", "")]
+        for table, text in ((creeping, letters * 20), (creeping, "a\nb c" * 40), (ringing, "abcdf" * 40)):
+            length = tables.length_after(table, text, far)
+            for place in (0, 1, length // 3, length // 2, length - 2, length - 1):
+                tables.sign_after(table, text, far, place)
+            tables.count_after(table, text, far, text[0])
+            tables.presence(table, text)
+            tables.present(table, text, far)
+        bursting = [(sign, sign + letters[(at * 3 + 1) % 10] + letters[(at * 7 + 2) % 10] + "z")
+                    for at, sign in enumerate(letters)]
+        length = tables.length_after(bursting, letters * 20, 300)
+        for place in (0, length // 3, length - 1):
+            tables.sign_after(bursting, letters * 20, 300, place)
+        for table in (creeping[:6], ringing[:6], [(sign, more * 4) for sign, more in zip(letters[:6], letters[1:])]):
+            tables.fate(table, "abcdef" * 3 + "zz")
+            tables.worst_sign(table)
+
+    def test_orders(self):
+        chance = Random(3)
+        for letters in ("ab", "abcd", "abcdef"):
+            for _ in range(2):
+                rows = [("replace", "".join(chance.choice(letters) for _ in range(3)),
+                         "".join(chance.choice(letters) for _ in range(chance.randint(0, 3)))) for _ in range(3)]
+                for one in (rows + [("last", 2)], [("last", 2)] + rows, rows[:2] + [("last", 1), ("last", 1)]):
+                    orders.unlike_line(one, one)
+                    orders.unlike_line(one, one[::-1])
+                    orders.idle_lines(one)
+                    orders.commute_lines(one[:2], one[2:])
+                    orders.undoes(one[2:], one[:2])
+                    orders.source(one, (letters * 4)[:8])
+                    orders.shows(one, (letters * 2)[:4])
+                orders.settled([("last", 1), rows[0]])
+
+    def test_display(self):
+        chance = Random(4)
+        for signs in ("ab ", "a\n ", "abc \n", "a", " ", "\n"):
+            text = "".join(chance.choice(signs) for _ in range(200))
+            display.widths(text)
+            display.least_width(text, 3)
+            line = text.replace("\n", " ")
+            for width in (1, 2, 7, 50, 200):
+                display.smooth(line, width)
+                display.ends_alike(line, line, width)
+                for place in range(0, 201, 20):
+                    display.stepped(text, width, place, 3, 4)
+
+    def test_journal(self):
+        for seed in range(6):
+            given = History(bushy(seed, 14))
+            many = journal.how_many_orders(given)
+            order = journal.order_at(given, many // 2)
+            self.assertEqual(journal.order_number(given, order), many // 2)
+            for size in (1, 10, 100, 1000):
+                sure = [block for block in range(3) if block * size < len(journal.journal(given, order))]
+                for state in journal.crashes(given, order, 0):
+                    self.assertIs(journal.fewest_lost(given, order, size, sure, state) is not None,
+                                  journal.possible(given, order, size, sure, state))
+                    journal.next_apart(given, order, size, sure, state)
+                journal.always(given, order, size, sure)
+        for given in self.all_large():
+            text = journal.journal(given, whole(given))
+            self.assertEqual(journal.recovered(text), (given, len(text)))
+            self.assertEqual(len(journal.crashes(given, whole(given), 0)), 25)
+            self.assertEqual(journal.left_state(given, whole(given), 1, list(range(len(text)))), [])
+            self.assertEqual(texts.read_history(texts.write_history(given)), given)
+            self.assertEqual(texts.wrong_line(text * 2), 25)
 
 
 if __name__ == "__main__":

@@ -71,8 +71,15 @@ KEYS = [plain("one", KEY_LISTS[0], "InvalidKeys"), plain("other", KEY_LISTS[1], 
 PRESSING = [plain("text", "ab", "InvalidText"), plain("at", 1, "InvalidNumber"),
             plain("keys", KEY_LISTS[0] + [("first",)], "InvalidKeys")]
 PATTERN = plain("pattern", ["a", ("gap",), ("set", "abx")], "InvalidPattern")
-PATTERNS = [plain("one", ["a", ("gap",), "b"], "InvalidPattern"), plain("other", [("set", "ab"), "b"], "InvalidPattern")]
+PATTERNS = [plain("one", ["a", ("gap",), "b"], "InvalidPattern"),
+            plain("other", [("set", "ab"), "b"], "InvalidPattern")]
 LENGTH = plain("length", 3, "InvalidNumber")
+TURNING = [plain("table", [("a", "ab"), ("b", "a")], "InvalidTable"), TEXT, plain("rounds", 4, "InvalidNumber")]
+ORDERS = plain("orders", [("letters", [("a", "b"), ("c", "a")]), ("replace", "bb", "b")], "InvalidList")
+ORDER_LISTS = [plain("one", ORDERS[1](), "InvalidList"), plain("other", [("last", 1)], "InvalidList")]
+SCREEN, WIDTH = plain("text", "ab cd\ne f\n\ng", "InvalidText"), plain("width", 3, "InvalidNumber")
+ORDER = plain("order", [ANN, DROP, BOB], "InvalidList")
+SIZE, SURE = plain("size", 5, "InvalidNumber"), plain("sure", [0, 1, 6], "InvalidList")
 CALLS = [
     ("history", "History", [plain("deeds", PLAIN, "InvalidList")]),
     ("history", "deed_names", [HISTORY]),
@@ -185,6 +192,51 @@ CALLS = [
     ("fitting", "how_many_part", PATTERNS + [LENGTH]),
     ("fitting", "fit_at", [PATTERN, LENGTH, NUMBER]),
     ("fitting", "fit_number", [PATTERN, TEXT]),
+    ("tables", "turned", TURNING[:2]),
+    ("tables", "length_after", TURNING),
+    ("tables", "count_after", TURNING + [plain("sign", "b", "InvalidText")]),
+    ("tables", "sign_after", TURNING + [plain("place", 3, "InvalidNumber")]),
+    ("tables", "fate", TURNING[:2]),
+    ("tables", "worst_sign", TURNING[:1]),
+    ("tables", "present", TURNING),
+    ("tables", "presence", TURNING[:2]),
+    ("orders", "played", [ORDERS, plain("line", "aab", "InvalidText")]),
+    ("orders", "unlike_line", ORDER_LISTS),
+    ("orders", "alike_lines", ORDER_LISTS),
+    ("orders", "commute_lines", ORDER_LISTS),
+    ("orders", "idle_lines", [ORDERS]),
+    ("orders", "settled", [ORDERS]),
+    ("orders", "undoes", ORDER_LISTS),
+    ("orders", "source", [ORDERS, plain("line", "ba", "InvalidText")]),
+    ("orders", "shows", [ORDERS, plain("word", "ba", "InvalidText")]),
+    ("display", "pieces", [plain("line", "ab cd e", "InvalidText"), WIDTH]),
+    ("display", "screen", [SCREEN, WIDTH, plain("folds", [(0, 2), (1, 2)], "InvalidList")]),
+    ("display", "spot", [SCREEN, WIDTH, plain("place", 3, "InvalidNumber")]),
+    ("display", "place_at", [SCREEN, WIDTH, plain("row", 1, "InvalidNumber"), plain("column", 1, "InvalidNumber")]),
+    ("display", "stepped", [SCREEN, WIDTH, plain("place", 3, "InvalidNumber"), plain("rows", -1, "InvalidNumber"),
+                            plain("column", 1, "InvalidNumber")]),
+    ("display", "least_width", [SCREEN, plain("height", 4, "InvalidNumber")]),
+    ("display", "widths", [SCREEN]),
+    ("display", "smooth", [plain("line", "ab cd e", "InvalidText"), WIDTH]),
+    ("display", "scrolled", [plain("rows", 9, "InvalidNumber"), plain("top", 4, "InvalidNumber"),
+                             plain("height", 3, "InvalidNumber"), plain("row", 1, "InvalidNumber")]),
+    ("display", "ends_alike", [plain("one", "ab cd", "InvalidText"), plain("other", "cd", "InvalidText"), WIDTH]),
+    ("journal", "line_of", [plain("deed", PLAIN[2], "InvalidItem")]),
+    ("journal", "deed_of", [plain("line", "14:put 1 ann - ab;74", "InvalidText")]),
+    ("journal", "how_many_orders", [HISTORY]),
+    ("journal", "order_at", [HISTORY, NUMBER]),
+    ("journal", "order_number", [HISTORY, ORDER]),
+    ("journal", "journal", [HISTORY, ORDER]),
+    ("journal", "recovered", [plain("text", "14:put 1 ann - ab;74\nx", "InvalidText")]),
+    ("journal", "crashes", [HISTORY, ORDER, plain("sure", 1, "InvalidNumber")]),
+    ("journal", "left_state", [HISTORY, ORDER, SIZE, plain("lost", [3, 4], "InvalidList")]),
+    ("journal", "always", [HISTORY, ORDER, SIZE, SURE]),
+    ("journal", "possible", [HISTORY, ORDER, SIZE, SURE, state("state", ANN)]),
+    ("journal", "fewest_lost", [HISTORY, ORDER, SIZE, SURE, state("state", ANN)]),
+    ("journal", "next_apart", [HISTORY, ORDER, SIZE, SURE, state("state", ANN)]),
+    ("texts", "write_history", [HISTORY]),
+    ("texts", "read_history", [plain("text", "14:put 1 ann - ab;74\n", "InvalidText")]),
+    ("texts", "wrong_line", [plain("text", "14:put 1 ann - ab;74\nx", "InvalidText")]),
 ]
 METHODS = [
     (history, "deeds", []),
