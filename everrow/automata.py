@@ -6,9 +6,9 @@ may be done.
 """
 
 from everrow.errors import InvalidPattern
-from everrow.kinds import LETTERS, is_letter
+from everrow.kinds import is_letter
 
-SIGNS = "\n " + LETTERS
+SIGNS = "\n abcdefghijklmnopqrstuvwxyz"
 LINE_END = "\n"
 MOST_ITEMS = 6
 LONGEST_WORD = 6

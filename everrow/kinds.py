@@ -4,7 +4,6 @@ GREATEST_NUMBER = 10 ** 18
 LONGEST_NAME = 8
 MOST_SIGNS = 6
 BLANK_SIGNS = " \n"
-LETTERS = "abcdefghijklmnopqrstuvwxyz"
 
 
 def is_whole(value):

@@ -5,9 +5,7 @@ Each order keeps back what later signs may still change: "replace" what may beco
 kept, so all lines are gone through by these, from the least line on.
 """
 
-from everrow.kinds import LETTERS
-
-LINE_SIGNS = " " + LETTERS
+LINE_SIGNS = " abcdefghijklmnopqrstuvwxyz"
 
 
 class Relay:

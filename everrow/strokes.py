@@ -75,8 +75,8 @@ def reach_of(keys):
 def steady_sides(sides, keys):
     """How often keys are pressed until the sides change by the same numbers for ever, and the sides then and next.
 
-    What becomes of them depends on how many signs there are on each side as far as the keys reach. If this stays
-    as it is, and neither side gets shorter, by the same numbers twice, nothing can be otherwise later on.
+    How they change depends on how many signs there are on each side, as far as the keys reach. If that stays, and
+    the sides change by the same numbers twice, neither getting shorter, nothing can be otherwise later on.
     """
     bound = reach_of(keys) + 1
     times = 0

@@ -164,7 +164,7 @@ class ScreenTest(Case):
         self.refuse_each(InvalidText, NO_TEXTS, lambda value: screen(value, None, 0))
         self.refuse_each(InvalidNumber, NO_WIDTHS, lambda value: screen(TEXT, value, 0))
         values = [value for value in NO_LISTS if value is not None] + [
-            [None], [(0,)], [(0, 1, 2)], [[0, 1]], [(0, 0)], [(1, 0)], [(-1, 1)], [(0, 3)], [(0, 1), (0, 1)],
+            [None], [(0,)], [(0, 1, 2)], [[0, 1]], [(0, 0)], [(1, 0)], [(-1, 1)], [(-2, 1)], [(0, 3)], [(0, 1), (0, 1)],
             [(0, 1), (0, 2)], [(0, 1), (1, 2)], [(0, True)], [(False, 1)], [("0", 1)], [(0, None)], ((0, 1),),
             [(0, 1), 5], [(0, 2), (0, 2)], [True],
         ]

@@ -225,6 +225,16 @@ class OutcomeTest(Case):
                 self.assertEqual(often(text, at, keys, times), (len(row), cursor))
         self.assertTrue(min(words.values()) > 50)
 
+    def test_without_write_it_stands(self):
+        chance = Random(9)
+        for _ in range(200):
+            keys = naive.random_keys(chance, chance.randint(0, 12), 9, ("left", "right", "rub", "cut", "first", "last"))
+            text = "ab" * chance.choice([0, 1, 5, 100])
+            at = chance.randint(0, len(text))
+            word, times, left, cursor = outcome(text, at, keys)
+            self.assertEqual((word, pressed(left, cursor, keys)), ("stands", (left, cursor)))
+            self.assertEqual(often(text, at, keys, times), (len(left), cursor))
+
     def test_stands(self):
         self.assertEqual(outcome("ab", 1, []), ("stands", 0, "ab", 1))
         self.assertEqual(outcome("", 0, [LEFT, RUB]), ("stands", 0, "", 0))
@@ -249,6 +259,9 @@ class OutcomeTest(Case):
         self.assertEqual(often("ab", 1, [("write", "abc")], far), (2 + 3 * far, 1 + 3 * far))
         self.assertEqual(often("ab", 1, [("write", "abc"), FIRST], far), (2 + 3 * far, 0))
         self.assertEqual(often("ab", 1, [("write", "abc"), LAST], far), (2 + 3 * far, 2 + 3 * far))
+        # The first pressing moves the cursor, the others do not, though the text gets longer with each one.
+        self.assertEqual(often("abcdef", 1, [FIRST, ("write", "abc")], far), (6 + 3 * far, 3))
+        self.assertEqual(often("abcdef", 5, [LAST, ("write", "abc"), LEFT], far), (6 + 3 * far, 5 + 3 * far))
         self.assertEqual(often("ab", 1, [("write", "abc"), FIRST, RIGHT], far), (2 + 3 * far, 1))
         self.assertEqual(often("a" * 200, 100, [("cut", 1)], far), (100, 100))
         self.assertEqual(often("a" * 200, 100, [("cut", 1)], 30), (170, 100))

@@ -20,7 +20,8 @@ NO_ORDERS = [
     ("last", None), ("last", 3), ("last", 1, 1), ("letters", None), ("letters", "ab"), ("letters", (("a", "b"),)),
     ("letters", [("a",)]), ("letters", [["a", "b"]]), ("letters", [("a", "b"), ("a", "c")]), ("letters", [("", "b")]),
     ("letters", [("ab", "b")]), ("letters", [("a", "")]), ("letters", [("a", "bc")]), ("letters", [("a", "\n")]),
-    ("letters", [None]), ("letters", [("a", 1)]), (["front"], "a"), ("Front", "a"), (None, None), {},
+    ("letters", [None]), ("letters", [("a", 1)]), ("words", [("a", "b")]), ("words", []), ("words", "a"), ("words", 1),
+    (["front"], "a"), ("Front", "a"), (None, None), {},
 ]
 
 

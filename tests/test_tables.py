@@ -260,6 +260,22 @@ class FateTest(Case):
         self.assertEqual(fate([("a", "bc"), ("b", "a"), ("c", "dc"), ("d", "d")], "a"), ("creeps", 2))
         self.assertEqual(fate([("a", "bcb"), ("b", "c"), ("c", "")], "a" * 20), ("ends", 3))
 
+    def test_a_text_is_as_bad_as_the_worst_of_its_signs(self):
+        for seed in range(600):
+            table, text = random_table(Random(seed))
+            fates = [fate(table, sign) for sign in text]
+            degrees = [told[1] for told in fates if told[0] == "creeps"]
+            told = fate(table, text)
+            if ("bursts",) in fates:
+                self.assertEqual(told, ("bursts",))
+            elif degrees:
+                self.assertEqual(told, ("creeps", max(degrees)))
+            else:
+                self.assertIn(told[0], ("ends", "ring"))
+                # Rings of at most six signs come around in 60 rounds.
+                same = 20 + (FAR - 20) % 60
+                self.assertEqual(length_after(table, text, FAR), length_after(table, text, same))
+
     def test_worst_sign(self):
         order = ["ends", "ring", "creeps", "bursts"]
         for seed in range(600):
