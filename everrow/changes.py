@@ -162,21 +162,27 @@ def deeds_for(history, state, hand, change):
     if change.size != len(signs):
         raise InvalidChange(change)
     maker = maker_for(chart, hand)
-    kept = kept_in(row)
-    maker.drop([sign for number, sign in enumerate(signs) if number not in kept])
-    for text, gap in stretches(row, len(signs)):
-        maker.put(signs[gap - 1] if gap else None, text)
+    make_change(maker, signs, row)
     return maker.made
 
 
+def make_change(maker, signs, row):
+    """Makes the deeds by which the row of a change comes of some signs that are seen."""
+    kept = kept_in(row)
+    maker.drop([sign for number, sign in enumerate(signs) if number not in kept])
+    for _, gap, text in stretches(row, len(signs)):
+        maker.put(signs[gap - 1] if gap else None, text)
+
+
 def stretches(row, size):
-    """The longest stretches of signs in a row, each with how many signs of the text the number behind it passes."""
+    """The longest stretches of signs in a row: tuples of the numbers just ahead and just behind, and the signs."""
     found = []
-    text = ""
+    text, lower = "", -1
     for item in row + [size]:
         if not is_whole(item):
             text += item
-        elif text:
-            found.append((text, item))
-            text = ""
+        else:
+            if text:
+                found.append((lower, item, text))
+            text, lower = "", item
     return found

@@ -43,6 +43,11 @@ def can_name(deed, sign, sizes):
     return sign[2] < sizes.get(sign[:2], 0) and sign[0] < deed[1][0]
 
 
+def can_follow(deed, sizes):
+    """Whether a deed is new beside deeds with certain names and numbers of signs, and names only signs of these."""
+    return deed[1] not in sizes and all([can_name(deed, sign, sizes) for sign in named_signs(deed)])
+
+
 def chart_of(history):
     """The chart of a history."""
     if not isinstance(history, History):

@@ -68,13 +68,13 @@ def common_text(one, other):
 def found_signs(history, state, pattern):
     """For each match in the text of a state the tuple of the names of its first and its last sign."""
     chart = chart_of(history)
-    signs, found = signs_and_matches(chart, known_state(chart, state), pattern)
+    mask = known_state(chart, state)
+    signs, found = signs_and_matches(chart, mask, machine_for(pattern))
     return [(signs[begin], signs[end - 1]) for begin, end in found]
 
 
-def signs_and_matches(chart, mask, pattern):
+def signs_and_matches(chart, mask, machine):
     """The names of the signs seen in a state, and the matches in its text."""
-    machine = machine_for(pattern)
     signs = [chart.signs[place] for place in seen_places(chart, mask)]
     return (signs, all_matches(machine, shown_text(chart, mask)))
 
@@ -84,13 +84,19 @@ def replaced(history, state, hand, pattern, text):
     chart = chart_of(history)
     mask = known_state(chart, state)
     check_name(hand)
-    signs, found = signs_and_matches(chart, mask, pattern)
+    machine = machine_for(pattern)
     check_text_within(text, 0, MOST_SIGNS)
     maker = maker_for(chart, hand)
+    make_replacement(maker, chart, mask, machine, text)
+    return maker.made
+
+
+def make_replacement(maker, chart, mask, machine, text):
+    """Makes the deeds by which a text comes in the place of each match in the text of a state."""
+    signs, found = signs_and_matches(chart, mask, machine)
     for begin, end in reversed(found):
         maker.put(signs[end - 1], text)
         maker.drop(signs[begin:end])
-    return maker.made
 
 
 def are_rules(value):

@@ -1,7 +1,7 @@
 """Deeds as lines of a journal, and back ([110], [112], [115])."""
 
-from everrow.history import MOST_DEEDS, can_name
-from everrow.kinds import is_deed, named_signs, put_size
+from everrow.history import MOST_DEEDS, can_follow
+from everrow.kinds import is_deed, put_size
 
 LONGEST_NUMBER = 19
 DIGITS = "0123456789"
@@ -82,11 +82,6 @@ def leading_deeds(text, is_in_order):
         sizes[last] = put_size(deed)
         deeds.append(deed)
     return deeds
-
-
-def can_follow(deed, sizes):
-    """Whether a deed is new, and names signs of puts of some sizes alone."""
-    return deed[1] not in sizes and all([can_name(deed, sign, sizes) for sign in named_signs(deed)])
 
 
 def text_of_deeds(deeds):

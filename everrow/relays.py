@@ -5,6 +5,8 @@ Each order keeps back what later signs may still change: "replace" what may beco
 kept, so all lines are gone through by these, from the least line on.
 """
 
+from everrow.overlaps import cut_alike
+
 LINE_SIGNS = " abcdefghijklmnopqrstuvwxyz"
 
 
@@ -153,14 +155,6 @@ def stepped_alike(relays, pair, sign):
     one, given = relays[0].step(pair[0], sign)
     other, told = relays[1].step(pair[1], sign)
     return (one, other) + cut_alike(pair[2] + given, pair[3] + told)
-
-
-def cut_alike(given, told):
-    """Two strings without what they have in common at the beginning."""
-    same = 0
-    while same < min(len(given), len(told)) and given[same] == told[same]:
-        same += 1
-    return (given[same:], told[same:])
 
 
 def do_part(relays, pair):

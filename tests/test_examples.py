@@ -2,10 +2,13 @@
 
 import unittest
 
+from everrow.brackets import closing, open_state, opened, outline_of, skeleton, unfair
 from everrow.changes import Change, done, joined, undone
+from everrow.cursors import alike_at, meet_within, pressed_at, unlike_at
 from everrow.display import (
     ends_alike, least_width, pieces, place_at, screen, scrolled, smooth, spot, stepped, widths,
 )
+from everrow.editor import Editor
 from everrow.fitting import fit_at, fit_number, how_many_both, how_many_fit, how_many_part
 from everrow.hands import Net
 from everrow.history import History, closure, ever_row, heart, rests, text_of, whole
@@ -16,6 +19,9 @@ from everrow.journal import (
 from everrow.keys import alike, idle, needless, often, outcome, pressed, unlike
 from everrow.marks import apart, folded, is_lost, meeting, place_of, strays
 from everrow.orders import alike_lines, commute_lines, played, settled, shows, source, undoes, unlike_line
+from everrow.outlines import (
+    deeper, fewest_in, flatter, how_many_outlines, outline_at, shift_change, shifted, steeper, unlike_outline,
+)
 from everrow.patterns import common_text, fits, matches, next_match, parting_text, settle, struck
 from everrow.seen import best, read, trimmed, whenever
 from everrow.states import how_many, into, out, parted, showing, state_at, texts, way
@@ -23,6 +29,7 @@ from everrow.tables import (
     count_after, fate, length_after, presence, present, sign_after, turned, worst_sign,
 )
 from everrow.texts import read_history, write_history, wrong_line
+from everrow.three import both, merges, over, rubbing
 from everrow.trees import Tree, bent, cost, doors, graft, kept, unserved
 
 DEEDS = [
@@ -199,6 +206,54 @@ class ExamplesTest(unittest.TestCase):
         self.assertEqual(
             [read_history(write_history(history)) == history, wrong_line(text), wrong_line(text + "x")],
             [True, None, 4],
+        )
+
+    def test_editor(self):
+        pen, other = Editor("ann"), Editor("bob")
+        self.assertEqual(
+            [pen.write("ab cd"), pen.to(2), pen.write("x"), pen.text(), pen.rub(2), pen.text(), pen.undo(), pen.undo(),
+             pen.text(), pen.place()],
+            [[(1, "ann")], 2, [(2, "ann")], "abx cd", [(3, "ann")], "a cd", [(3, "ann")], [(2, "ann")], "ab cd", 2],
+        )
+        self.assertEqual(
+            [pen.ordered(0, 0, [("replace", "cd", "dc")]), pen.text(), other.receive(pen.journal()), other.text()],
+            [[(4, "ann"), (5, "ann")], "ab dc", [(1, "ann"), (2, "ann"), (3, "ann"), (4, "ann"), (5, "ann")], "a dc"],
+        )
+
+    def test_cursors(self):
+        one, other = [("rub", 1), ("write", "x")], [("write", "x"), ("left", 1), ("rub", 1), ("right", 1)]
+        self.assertEqual(
+            [pressed_at("abc", [1, 2], one), pressed_at("abc", [1, 2], other), alike_at(one, other, 1),
+             unlike_at(one, other, 2)[1], meet_within(one)],
+            [("xc", [1]), ("xxc", [1, 2]), True, [0, 1], 1],
+        )
+
+    def test_three(self):
+        one, other = Change(3, [0, "x", 1, 2]), Change(3, [0, 1, "y"])
+        self.assertEqual(
+            [both(one, other).row(), over(one, other).row(), rubbing(one, Change(3, ["z", 2])),
+             merges("a\nb\nc", "a\nx\nc", "a\nb\nc\nd"), merges("a", "b", "c")],
+            [[0, "x", 1, "y"], [0, "x", 1, 2], [(0, 1, -1, 2)], ["a\nx\nc\nd"], []],
+        )
+
+    def test_outlines_and_brackets(self):
+        one, other, pair = "x\n y\nz", "x\ny\n z", [("a", "b")]
+        self.assertEqual(
+            [shifted(one, [("in", 2), ("out", 0)]), shift_change(one, ("out", 1)).row(), deeper(one, other),
+             flatter(one, other), steeper(one, other)],
+            ["x\n y\n z", [0, 1, 3, 4, 5], False, "x\ny\nz", "x\n y\n  z"],
+        )
+        self.assertEqual(
+            [len(fewest_in("x\ny\nz", "x\n y\n  z")), how_many_outlines("x\ny\nz", "x\n y\n  z"),
+             outline_at("x\ny\nz", "x\n y\n  z", 1), unlike_outline([("in", 1), ("out", 1)], []), skeleton(one),
+             outline_of("aabb")],
+            [2, 5, "x\ny\n z", "\n ", "aabbab", "\n "],
+        )
+        history = History([("put", (1, "ann"), None, "ab"), ("put", (2, "bob"), (1, "ann", 0), "ba")])
+        self.assertEqual(
+            [open_state(history, pair), unfair(history, pair), closing(history, pair, whole(history)),
+             opened(pair, [("c", "ba")]), opened(pair, [("a", "aa")])],
+            [None, (2, "bob"), [(1, "ann"), (2, "bob")], "c", "ab"],
         )
 
 

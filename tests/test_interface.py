@@ -95,6 +95,22 @@ FUNCTIONS = {
         "next_apart": "history order size sure state",
     },
     "everrow.texts": {"write_history": "history", "read_history": "text", "wrong_line": "text"},
+    "everrow.cursors": {
+        "pressed_at": "text cursors keys", "effect_at": "size cursors keys", "alike_at": "one other number",
+        "unlike_at": "one other number", "meet_within": "keys",
+    },
+    "everrow.three": {
+        "rubbing": "one other", "both": "one other", "over": "one other", "merges": "elder one other",
+    },
+    "everrow.outlines": {
+        "is_outline": "value", "shifted": "outline shifts", "shift_change": "outline shift", "deeper": "one other",
+        "fewest_in": "one other", "flatter": "one other", "steeper": "one other", "how_many_outlines": "one other",
+        "outline_at": "one other number", "unlike_outline": "one other",
+    },
+    "everrow.brackets": {
+        "closes": "brackets text", "open_state": "history brackets", "closing": "history brackets state",
+        "unfair": "history brackets", "opened": "brackets table", "skeleton": "outline", "outline_of": "text",
+    },
 }
 CLASSES = {
     ("everrow.history", "History"): {"__init__": "deeds", "deeds": "", "__eq__": None},
@@ -104,6 +120,12 @@ CLASSES = {
     },
     ("everrow.trees", "Tree"): {"__init__": "history rows", "history": "", "rows": "", "__eq__": None},
     ("everrow.changes", "Change"): {"__init__": "size row", "row": "", "__eq__": None},
+    ("everrow.editor", "Editor"): {
+        "__init__": "hand history=", "history": "", "state": "", "text": "", "place": "", "write": "text", "rub": "number",
+        "to": "place", "home": "", "end": "", "up": "width", "down": "width", "undo": "", "redo": "", "goto": "state",
+        "keep": "name", "back_to": "name", "ordered": "first last orders", "replaced": "pattern text", "pressed": "keys",
+        "receive": "deeds", "waiting": "", "mark": "name", "at": "name", "journal": "", "copy": "",
+    },
 }
 
 

@@ -181,7 +181,8 @@ class LanguageTest(unittest.TestCase):
         taken = {name for kind in (str, int, list, dict, set, bytes, tuple) for name in dir(kind)}
         self.assertFalse(attributes & taken)
         self.assertFalse(attributes & methods)
-        self.assertFalse((methods - DOUBLE) & taken)
+        # A method may have the name of one that lists have, if it does not say that it modifies something.
+        self.assertFalse((methods - DOUBLE - {"copy"}) & taken)
         for tree in trees:
             called = {id(node.func) for node in ast.walk(tree) if isinstance(node, ast.Call)}
             for node in ast.walk(tree):

@@ -6,8 +6,8 @@ from random import Random
 from time import monotonic
 
 from everrow import (
-    blends, changes, display, fitting, hands, journal, keys, lines, marks, orders, patterns, seen, spans, states,
-    tables, texts, trees,
+    blends, brackets, changes, cursors, display, editor, fitting, hands, journal, keys, lines, marks, orders, outlines,
+    patterns, seen, spans, states, tables, texts, three, trees,
 )
 from everrow.history import History, closure, deed_names, ever_row, heart, rests, text_of, whole
 from tests.makers import chain, heap, mixed
@@ -314,6 +314,80 @@ class LimitsTest(unittest.TestCase):
             self.assertEqual(journal.left_state(given, whole(given), 1, list(range(len(text)))), [])
             self.assertEqual(texts.read_history(texts.write_history(given)), given)
             self.assertEqual(texts.wrong_line(text * 2), 25)
+
+    def test_editor(self):
+        for given in self.all_large():
+            pen = editor.Editor("z", given)
+            for _ in range(20):
+                pen.down(7)
+                pen.up(5)
+                pen.home()
+            pen.receive(given.deeds()[::-1])
+            pen.copy().goto([])
+        pen = editor.Editor("a")
+        for at in range(24):
+            pen.to(at // 2)
+            pen.write("abcdef")
+        for _ in range(24):
+            pen.undo()
+        for _ in range(24):
+            pen.redo()
+        self.assertEqual(len(pen.text()), 144)
+        other = editor.Editor("b")
+        for deed in pen.journal()[::-1]:
+            other.receive([deed])
+        self.assertEqual(other.text(), pen.text())
+
+    def test_cursors(self):
+        wide = [("left", 1), ("right", 1), ("rub", 1), ("cut", 1), ("left", 1)] + [("write", "abcdef")] * 7
+        mixed_up = [("right", 2), ("write", "ab"), ("rub", 3)] + [("first",), ("last",)] * 4
+        for one in (wide, mixed_up):
+            self.assertTrue(cursors.alike_at(one, one, 3))
+        self.assertIsNone(cursors.unlike_at([("left", 5)], [("left", 3), ("left", 2)], 3))
+        cursors.meet_within(wide)
+        text = "ab" * 100
+        cursors.pressed_at(text, [0, 50, 100, 200], [("write", "abcdef")] * 8 + [("rub", 9)] * 4)
+
+    def test_three(self):
+        one = changes.Change(100, [item for number in range(100) for item in (number, "x")])
+        other = changes.Change(100, ["y"] * 100 + list(range(0, 100, 2)))
+        for call in (three.both, three.over, three.rubbing):
+            call(one, other)
+            call(one, one)
+        for lines_of_five in (["a"] * 5, ["a", "b"] * 2 + ["a"], [""] * 5):
+            text = "\n".join(lines_of_five)
+            three.merges(text, text, text)
+            three.merges(text, text[::-1], text[2:])
+
+    def test_outlines(self):
+        chance = Random(5)
+        for _ in range(30):
+            rows = []
+            for _ in range(2):
+                row = [0]
+                while len(row) < 19:
+                    row.append(chance.randint(0, row[-1] + 1))
+                rows.append("\n".join(" " * depth for depth in row))
+            low, high = outlines.flatter(*rows), outlines.steeper(*rows)
+            self.assertEqual(outlines.shifted(low, outlines.fewest_in(low, high)), high)
+            many = outlines.how_many_outlines(low, high)
+            for number in (0, many // 2, many - 1):
+                outlines.outline_at(low, high, number)
+            self.assertEqual(brackets.outline_of(brackets.skeleton(low)), low)
+        deep = [("in", line) for line in range(7)] * 6
+        outlines.unlike_outline(deep, deep)
+        outlines.unlike_outline(deep, deep[::-1])
+
+    def test_brackets(self):
+        kinds = [("a", "b"), ("c", "d"), ("e", "f")]
+        for deeds in [heap(14, "abcdef"), chain(14, "ab"), mixed(7, 7)] + [bushy(seed, 14, 3) for seed in range(4)]:
+            given = History(deeds)
+            brackets.open_state(given, kinds)
+            brackets.closing(given, kinds, whole(given))
+        for given in self.all_large():
+            brackets.unfair(given, kinds)
+        brackets.opened(kinds, [(sign, sign * 4) for sign in "abcdefghij"])
+        brackets.closes(kinds, "ace" * 33 + "f" * 101)
 
 
 if __name__ == "__main__":
