@@ -17,6 +17,12 @@ def texts_of(chart, masks):
     return ["".join([text for bit, foes, text in runs if mask & bit and not mask & foes]) for mask in masks]
 
 
+def showing_masks(chart, text):
+    """The list of the masks of the states whose text it is."""
+    masks = all_states(chart)
+    return [mask for mask, shown in zip(masks, texts_of(chart, masks)) if shown == text]
+
+
 def text_runs(chart):
     """The ever-row, cut into stretches that come and go as one: tuples of the put's mask, the drops', the text."""
     runs = []

@@ -1,6 +1,6 @@
 """Plain arguments, refused with the error that they call for."""
 
-from everrow.errors import InvalidName, InvalidNumber, InvalidText
+from everrow.errors import InvalidItem, InvalidList, InvalidName, InvalidNumber, InvalidText
 from everrow.kinds import is_name, is_text, is_text_within, is_whole_from, is_whole_within
 
 
@@ -8,6 +8,17 @@ def check_name(name):
     """Refuses what is no name."""
     if not is_name(name):
         raise InvalidName(name)
+
+
+def check_names(names):
+    """Refuses what is no list of names, each once."""
+    if not isinstance(names, list):
+        raise InvalidList(names)
+    taken = {}
+    for name in names:
+        if not is_name(name) or name in taken:
+            raise InvalidItem(name)
+        taken[name] = True
 
 
 def check_text(text):

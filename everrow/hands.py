@@ -2,9 +2,10 @@
 
 from everrow.chart import names_in
 from everrow.checks import known_state
+from everrow.demands import check_names
 from everrow.errors import InvalidItem, InvalidList, InvalidText, UnknownDeed, UnknownName, UnknownSign
 from everrow.history import History, chart_of, text_of, whole
-from everrow.kinds import MOST_SIGNS, is_deed_name, is_name, is_sign_name, is_text_within, named_signs, put_size
+from everrow.kinds import MOST_SIGNS, is_deed_name, is_sign_name, is_text_within, named_signs, put_size
 from everrow.rounds import shortest_rounds
 
 MOST_HANDS = 4
@@ -91,13 +92,9 @@ class Net:
 
 def check_hands(hands):
     """Refuses what no net can be made of."""
-    if not isinstance(hands, list) or not 1 <= len(hands) <= MOST_HANDS:
+    if isinstance(hands, list) and not 1 <= len(hands) <= MOST_HANDS:
         raise InvalidList(hands)
-    taken = {}
-    for hand in hands:
-        if not is_name(hand) or hand in taken:
-            raise InvalidItem(hand)
-        taken[hand] = True
+    check_names(hands)
 
 
 def check_signs(heard, signs):

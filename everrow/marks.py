@@ -24,6 +24,15 @@ def rank_if_mark(chart, value):
     return 2 * place + (1 if value[0] == "ahead" else 2)
 
 
+def mark_of_rank(chart, rank):
+    """The mark with a number in the one order."""
+    if rank == 0:
+        return ("first",)
+    if rank > 2 * len(chart.signs):
+        return ("last",)
+    return ("behind" if rank % 2 == 0 else "ahead", chart.signs[(rank - 1) // 2])
+
+
 def known_mark(chart, mark):
     """The number of a mark in the one order."""
     rank = rank_if_mark(chart, mark)
@@ -133,15 +142,21 @@ def carried_places(chart, one, other, place):
     return fitting
 
 
-def gaps_if_selection(chart, value):
-    """How many signs of the ever-row come ahead of the two marks of the selection that a value is, or None."""
+def ranks_if_selection(chart, value):
+    """The numbers, in the one order, of the two marks of the selection that a value is, or None."""
     if not isinstance(value, tuple) or len(value) != 2:
         return None
     first = rank_if_mark(chart, value[0])
     second = rank_if_mark(chart, value[1])
     if first is None or second is None or second < first:
         return None
-    return (gap_of(first), gap_of(second))
+    return (first, second)
+
+
+def gaps_if_selection(chart, value):
+    """How many signs of the ever-row come ahead of the two marks of the selection that a value is, or None."""
+    ranks = ranks_if_selection(chart, value)
+    return None if ranks is None else (gap_of(ranks[0]), gap_of(ranks[1]))
 
 
 def known_selection(chart, selection):

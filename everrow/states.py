@@ -2,7 +2,7 @@
 
 from everrow.chart import closed_up, is_seen, names_in, shown_text, size_of
 from everrow.checks import known_deed, known_state, number_if_deed
-from everrow.counting import all_states, how_many_between, number_between, state_between, texts_of
+from everrow.counting import all_states, how_many_between, number_between, showing_masks, state_between, texts_of
 from everrow.errors import InvalidNumber, InvalidState, InvalidText
 from everrow.history import chart_of
 from everrow.kinds import is_text, is_whole_within
@@ -116,8 +116,7 @@ def showing(history, text):
     chart = chart_of(history)
     if not is_text(text):
         raise InvalidText(text)
-    masks = all_states(chart)
-    fitting = [mask for mask, shown in zip(masks, texts_of(chart, masks)) if shown == text]
+    fitting = showing_masks(chart, text)
     if not fitting:
         return None
     fewest = min([size_of(mask) for mask in fitting])

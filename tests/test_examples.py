@@ -2,6 +2,7 @@
 
 import unittest
 
+from everrow.authors import alone, by_hands, fewest_hands, turned_by, without
 from everrow.brackets import closing, open_state, opened, outline_of, skeleton, unfair
 from everrow.changes import Change, done, joined, undone
 from everrow.cursors import alike_at, meet_within, pressed_at, unlike_at
@@ -23,7 +24,9 @@ from everrow.outlines import (
     deeper, fewest_in, flatter, how_many_outlines, outline_at, shift_change, shifted, steeper, unlike_outline,
 )
 from everrow.patterns import common_text, fits, matches, next_match, parting_text, settle, struck
+from everrow.rights import breaks, fewest_bars, granted, parting_deed
 from everrow.seen import best, read, trimmed, whenever
+from everrow.spelling import between_two, mended, mending, nearest, parting_string, slips
 from everrow.states import how_many, into, out, parted, showing, state_at, texts, way
 from everrow.tables import (
     count_after, fate, length_after, presence, present, sign_after, turned, worst_sign,
@@ -31,6 +34,8 @@ from everrow.tables import (
 from everrow.texts import read_history, write_history, wrong_line
 from everrow.three import both, merges, over, rubbing
 from everrow.trees import Tree, bent, cost, doors, graft, kept, unserved
+from everrow.windows import covering, least_room, rooms, scattered, settling, unlike_size
+from everrow.words import keeping, meant, staying, terms, two_meanings, two_rows, typed
 
 DEEDS = [
     ("put", (1, "ann"), None, "ab"), ("put", (2, "bob"), (1, "ann", 0), "x"), ("drop", (3, "ann"), [(1, "ann", 1)]),
@@ -254,6 +259,46 @@ class ExamplesTest(unittest.TestCase):
             [open_state(history, pair), unfair(history, pair), closing(history, pair, whole(history)),
              opened(pair, [("c", "ba")]), opened(pair, [("a", "aa")])],
             [None, (2, "bob"), [(1, "ann"), (2, "bob")], "c", "ab"],
+        )
+
+    def test_words_and_spelling(self):
+        shorts, book = [("a", "x"), ("ab", "xy"), ("b", "y"), ("ba", "yy")], ["cat", "cot", "dog"]
+        text = "to be or to"
+        self.assertEqual(
+            [terms("a bc"), len(staying(text, keeping(text, "or to be"))), typed(shorts, [1, 0]), meant(shorts, [1, 0]),
+             two_rows(shorts)[0], two_meanings(shorts)[0], two_meanings(shorts[:3])],
+            [[(0, "a"), (2, "bc")], 2, "aba", "xyx", "ab", "ba", None],
+        )
+        self.assertEqual(
+            [slips("ca", "abc"), slips("form", "from"), nearest(book, "cet"), mended(book, "xxx", 2),
+             mending(book, "a cta", 1).row(), parting_string(["ab"], ["abc"], 1), between_two(book, 1)],
+            [3, 1, (1, ["cat", "cot"]), None, [0, 1, 2, "a", "t"], "a", "ct"],
+        )
+
+    def test_authors_and_rights(self):
+        history = History(DEEDS)
+        self.assertEqual(
+            [by_hands(history, [(1, "ann"), (2, "bob")]), without(history, whole(history), "bob"), alone(history, ["bob"]),
+             fewest_hands(history, "ax"), turned_by(history, "ann", (1, "ann", 1))],
+            [[("ann", "a"), ("bob", "x"), ("ann", "b")], [(1, "ann"), (3, "ann")], [], ["ann", "bob"], ([], [(1, "ann")])],
+        )
+        tail = ("ann", (("behind", (2, "bob", 0)), ("last",)))
+        self.assertEqual(
+            [breaks(history, [tail]), granted(history, [tail]), parting_deed(history, [tail], []) is None,
+             fewest_bars(history, [tail, ("ann", (("first",), ("ahead", (1, "ann", 1))))])],
+            [[(1, "ann"), (3, "ann")], [], False, [("ann", (("first",), ("last",)))]],
+        )
+
+    def test_windows(self):
+        layout, text = ("across", [(2, "a"), (1, ("down", [(1, "b"), (1, "c")]))]), "ab cde f\n\nabcdefg h"
+        self.assertEqual(
+            [rooms(layout, 7, 5), least_room(layout, [("c", 2, 2)]),
+             unlike_size(("down", [(1, "a"), (1, "b")]), ("down", [(1, "b"), (1, "a")]))],
+            [[("a", 0, 0, 5, 5), ("b", 5, 0, 2, 3), ("c", 5, 3, 2, 2)], (6, 4), 1],
+        )
+        self.assertEqual(
+            [settling(text, 5, 8, 1), covering(text, 5, 2, [0, 4, 10, 18]), len(scattered(text, 5, 2, [0, 4, 10, 18]))],
+            [(1, 0), [0, 3], 2],
         )
 
 

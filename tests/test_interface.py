@@ -111,6 +111,27 @@ FUNCTIONS = {
         "closes": "brackets text", "open_state": "history brackets", "closing": "history brackets state",
         "unfair": "history brackets", "opened": "brackets table", "skeleton": "outline", "outline_of": "text",
     },
+    "everrow.words": {
+        "terms": "text", "staying": "text change", "keeping": "text other", "typed": "shorts row", "meant": "shorts row",
+        "two_rows": "shorts", "two_meanings": "shorts",
+    },
+    "everrow.spelling": {
+        "slips": "one other", "nearest": "book string", "mended": "book string most", "mending": "book text most",
+        "parting_string": "one other most", "between_two": "book most",
+    },
+    "everrow.authors": {
+        "by_hands": "history state", "without": "history state hand", "alone": "history hands",
+        "brought": "history hands text", "fewest_hands": "history text", "turned_by": "history hand sign",
+    },
+    "everrow.rights": {
+        "breaks": "history bars", "granted": "history bars", "is_granted": "history bars state",
+        "same_bars": "history one other", "parting_deed": "history one other", "fewest_bars": "history bars",
+    },
+    "everrow.windows": {
+        "rooms": "layout width height", "least_room": "layout wishes", "unlike_size": "one other",
+        "settling": "text width other row", "covering": "text width height places",
+        "scattered": "text width height places",
+    },
 }
 CLASSES = {
     ("everrow.history", "History"): {"__init__": "deeds", "deeds": "", "__eq__": None},
@@ -125,6 +146,10 @@ CLASSES = {
         "to": "place", "home": "", "end": "", "up": "width", "down": "width", "undo": "", "redo": "", "goto": "state",
         "keep": "name", "back_to": "name", "ordered": "first last orders", "replaced": "pattern text", "pressed": "keys",
         "receive": "deeds", "waiting": "", "mark": "name", "at": "name", "journal": "", "copy": "",
+    },
+    ("everrow.rights", "Desk"): {
+        "__init__": "history", "history": "", "bars": "", "bar": "hand selection", "lift": "number", "take": "deed",
+        "back": "",
     },
 }
 

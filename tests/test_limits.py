@@ -6,8 +6,8 @@ from random import Random
 from time import monotonic
 
 from everrow import (
-    blends, brackets, changes, cursors, display, editor, fitting, hands, journal, keys, lines, marks, orders, outlines,
-    patterns, seen, spans, states, tables, texts, three, trees,
+    authors, blends, brackets, changes, cursors, display, editor, fitting, hands, journal, keys, lines, marks, orders,
+    outlines, patterns, rights, seen, spans, spelling, states, tables, texts, three, trees, windows, words,
 )
 from everrow.history import History, closure, deed_names, ever_row, heart, rests, text_of, whole
 from tests.makers import chain, heap, mixed
@@ -388,6 +388,82 @@ class LimitsTest(unittest.TestCase):
             brackets.unfair(given, kinds)
         brackets.opened(kinds, [(sign, sign * 4) for sign in "abcdefghij"])
         brackets.closes(kinds, "ace" * 33 + "f" * 101)
+
+    def test_terms_and_shorts(self):
+        for one, other in (("a " * 30, "a b" * 20), ("ab\n" * 20, "ab " * 20), ("a" * 60, "b" * 60)):
+            self.assertEqual(changes.done(words.keeping(one, other), one), other)
+        words.staying("a " * 100, changes.Change(200, list(range(200))))
+        for shorts in (["aaaa", "aaab", "abaa", "baaa", "bbaa", "abba"], ["a", "ab", "abb", "abbb", "bbba", "bbbb"],
+                       ["aaab", "aaaa", "aa", "baa", "ab", "abbb"], ["ca", "c", "ab", "ba", "abab", "baba"]):
+            for longs in ("xxxxxx", "xyzxyz"):
+                rows = [(short, long * size) for short, long, size in zip(shorts, longs, (1, 2, 3, 4, 5, 6))]
+                words.two_rows(rows)
+                words.two_meanings(rows)
+
+    def test_spelling(self):
+        books = [["abcde", "fghij", "klmno", "pqrst"], ["aabba", "abbab", "babba", "bbabb"], ["aaaaa", "aaaab", "aaaac", "b"],
+                 ["abcde", "abced", "abdce", "acbde"], ["uvwxy", "vwxyz", "wxyza", "xyzab"]]
+        for one in books:
+            for most in range(3):
+                spelling.between_two(one, most)
+                for other in books + [one[:3], one[1:]]:
+                    self.assertEqual(spelling.parting_string(one, sorted(other), most) is None, one == sorted(other))
+        eight = ["abcdefg" + letter for letter in "abcdefgh"]
+        spelling.mending(eight, "abcdefghij " * 18, 3)
+
+    def test_authors(self):
+        for seed, deeds in enumerate([heap(14, "ab"), chain(14, "ab"), mixed(7, 7)] + [bushy(k, 14, 3) for k in range(4)]):
+            given = History([(deed[0], (deed[1][0], "abcde"[deed[1][0] % 5]), *self.by_more(deed)) for deed in deeds])
+            text = text_of(given, closure(given, whole(given)[:seed + 2]))
+            told = authors.fewest_hands(given, text)
+            self.assertEqual(text_of(given, authors.brought(given, told, text)), text)
+        for given in self.all_large():
+            for sign in ever_row(given):
+                authors.turned_by(given, "a", sign)
+            authors.by_hands(given, whole(given))
+            authors.alone(given, ["a"])
+            authors.without(given, whole(given), "b")
+
+    def by_more(self, deed):
+        """What a deed names and puts, by hands that go round by its numbers."""
+        names = [None if sign is None else (sign[0], "abcde"[sign[0] % 5], sign[2])
+                 for sign in (deed[2] if deed[0] == "drop" else [deed[2]])]
+        return [names] if deed[0] == "drop" else [names[0], deed[3]]
+
+    def test_rights(self):
+        for deeds in (heap(23, "abcdef"), chain(23, "abcdef"), mixed(12, 11), bushy(1, 23), bushy(2, 23)):
+            given = History(deeds)
+            row = ever_row(given)
+            bars = [(hand, (("ahead", sign), ("behind", sign))) for sign in row for hand in ("a", "b")]
+            other = [("a", (("first",), ("last",))), ("b", (("ahead", row[0]), ("behind", row[-1])))]
+            for call in (rights.breaks, rights.granted, rights.fewest_bars):
+                call(given, bars + other)
+            self.assertFalse(rights.same_bars(given, bars, other))
+            self.assertIsNotNone(rights.parting_deed(given, bars, other))
+            desk = rights.Desk(given)
+            for bar in bars:
+                desk.bar(*bar)
+            desk.take(("put", (99, "z"), None, "z"))
+            for _ in range(len(bars) + 1):
+                desk.back()
+
+    def test_windows(self):
+        far = 10 ** 30 - 1
+        deep = ("across", [(9, ("down", [(8, ("across", [(7, ("down", [(9, "a"), (1, "b")])), (9, "c")])), (9, "d")])),
+                           (1, "e"), (5, "f"), (7, ("down", [(3, "g"), (2, "h")]))])
+        windows.rooms(deep, far, far)
+        windows.least_room(deep, [(name, far, far) for name in "abcdefgh"])
+        late = [("across", [(3, "a"), (2, ("across", [(3, "b"), (2, ("across", [(one, "c"), (other, "d")]))]))])
+                for one, other in ((1, 2), (2, 3), (1, 1), (3, 3))]
+        for one in late:
+            for other in late:
+                windows.unlike_size(one, other)
+        text = "ab cde f " * 22
+        for width in (1, 5, 30):
+            for row in range(0, len(display.screen(text, width)), 7):
+                windows.settling(text, width, 11, row)
+            windows.covering(text, width, 3, list(range(199)))
+            windows.scattered(text, width, 3, list(range(199)))
 
 
 if __name__ == "__main__":

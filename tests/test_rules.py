@@ -9,6 +9,7 @@ from everrow.changes import Change
 from everrow.editor import Editor
 from everrow.hands import Net
 from everrow.history import History
+from everrow.rights import Desk
 from everrow.trees import Tree
 from tests.cases import Case
 from tests.makers import PLAIN
@@ -26,6 +27,15 @@ def net():
     made.put("ann", A, "c")
     made.drop("ann", [A, B])
     made.send("ann", "bob", [(2, "ann")])
+    return made
+
+
+def desk():
+    """A desk with bars, at which something can be undone."""
+    made = Desk(history())
+    made.bar("ann", (FIRST, AHEAD))
+    made.bar("bob", (BEHIND, LAST))
+    made.take(("put", (7, "zoe"), A, "q"))
     return made
 
 
@@ -94,6 +104,17 @@ ORDER_LISTS = [plain("one", ORDERS[1](), "InvalidList"), plain("other", [("last"
 SCREEN, WIDTH = plain("text", "ab cd\ne f\n\ng", "InvalidText"), plain("width", 3, "InvalidNumber")
 ORDER = plain("order", [ANN, DROP, BOB], "InvalidList")
 SIZE, SURE = plain("size", 5, "InvalidNumber"), plain("sure", [0, 1, 6], "InvalidList")
+SHORTS = plain("shorts", [("a", "x"), ("ab", "xy"), ("b", "y"), ("ba", "yy")], "InvalidList")
+ROW_OF_SHORTS = plain("row", [1, 0, 3], "InvalidList")
+BOOK, MOST = plain("book", ["cat", "cot", "dog"], "InvalidList"), plain("most", 2, "InvalidNumber")
+STRING = plain("string", "cet", "InvalidText")
+BOOKS = [plain("one", ["ab", "b"], "InvalidList"), plain("other", ["abc"], "InvalidList")]
+BARS = [("ann", (BEHIND, LAST)), ("bob", (FIRST, AHEAD))]
+BAR_LISTS = [plain("one", BARS, "InvalidList"), plain("other", BARS[:1], "InvalidList")]
+LAYOUT = plain("layout", ("across", [(2, "a"), (1, ("down", [(1, "b"), (1, "c")]))]), "InvalidLayout")
+LAYOUTS = [plain("one", ("across", [(2, "a"), (1, "b")]), "InvalidLayout"),
+           plain("other", ("across", [(3, "a"), (2, "b")]), "InvalidLayout")]
+PLACES = plain("places", [8, 0, 3], "InvalidList")
 CURSORS = plain("cursors", [0, 2], "InvalidList")
 NUMBER_OF_CURSORS = plain("number", 2, "InvalidNumber")
 CHANGES = [change("one", 3, [0, "x", 1, 2]), change("other", 3, [0, 1, "y"])]
@@ -287,6 +308,40 @@ CALLS = [
     ("brackets", "opened", [BRACKETS, plain("table", [("a", "ab"), ("c", "")], "InvalidTable")]),
     ("brackets", "skeleton", [OUTLINE]),
     ("brackets", "outline_of", [plain("text", "aabbab", "InvalidText")]),
+    ("words", "terms", [TEXT]),
+    ("words", "staying", [plain("text", "ab c", "InvalidText"), change("change", 4, ["x", " ", 0, 1, 2, 3])]),
+    ("words", "keeping", [plain("text", "to be or to", "InvalidText"), plain("other", "or to be", "InvalidText")]),
+    ("words", "typed", [SHORTS, ROW_OF_SHORTS]),
+    ("words", "meant", [SHORTS, ROW_OF_SHORTS]),
+    ("words", "two_rows", [SHORTS]),
+    ("words", "two_meanings", [SHORTS]),
+    ("spelling", "slips", [plain("one", "ca", "InvalidText"), plain("other", "abc", "InvalidText")]),
+    ("spelling", "nearest", [BOOK, STRING]),
+    ("spelling", "mended", [BOOK, STRING, MOST]),
+    ("spelling", "mending", [BOOK, plain("text", "a cta dgo", "InvalidText"), MOST]),
+    ("spelling", "parting_string", BOOKS + [MOST]),
+    ("spelling", "between_two", [BOOK, MOST]),
+    ("authors", "by_hands", [HISTORY, state("state", ANN, BOB)]),
+    ("authors", "without", [HISTORY, state("state", *TOP), plain("hand", "bob", "InvalidName")]),
+    ("authors", "alone", [HISTORY, plain("hands", ["zoe", "ann"], "InvalidList")]),
+    ("authors", "brought", [HISTORY, plain("hands", ["bob", "ann"], "InvalidList"), plain("text", "ax", "InvalidText")]),
+    ("authors", "fewest_hands", [HISTORY, plain("text", "ax", "InvalidText")]),
+    ("authors", "turned_by", [HISTORY, plain("hand", "ann", "InvalidName"), SIGN]),
+    ("rights", "breaks", [HISTORY, plain("bars", BARS, "InvalidList")]),
+    ("rights", "granted", [HISTORY, plain("bars", BARS[1:], "InvalidList")]),
+    ("rights", "is_granted", [HISTORY, plain("bars", BARS, "InvalidList"), state("state", ANN)]),
+    ("rights", "same_bars", [HISTORY] + BAR_LISTS),
+    ("rights", "parting_deed", [HISTORY] + BAR_LISTS),
+    ("rights", "parting_deed", [HISTORY, plain("one", [], "InvalidList"),
+                                plain("other", [("ann", (BEHIND, ("behind", X)))], "InvalidList")]),
+    ("rights", "fewest_bars", [HISTORY, plain("bars", BARS, "InvalidList")]),
+    ("rights", "Desk", [HISTORY]),
+    ("windows", "rooms", [LAYOUT, plain("width", 7, "InvalidNumber"), plain("height", 5, "InvalidNumber")]),
+    ("windows", "least_room", [LAYOUT, plain("wishes", [("c", 2, 2), ("a", 0, 9)], "InvalidList")]),
+    ("windows", "unlike_size", LAYOUTS),
+    ("windows", "settling", [SCREEN, WIDTH, plain("other", 5, "InvalidNumber"), plain("row", 2, "InvalidNumber")]),
+    ("windows", "covering", [SCREEN, WIDTH, plain("height", 2, "InvalidNumber"), PLACES]),
+    ("windows", "scattered", [SCREEN, WIDTH, plain("height", 2, "InvalidNumber"), PLACES]),
 ]
 METHODS = [
     (history, "deeds", []),
@@ -328,10 +383,16 @@ METHODS = [
     (editor, "at", [plain("name", "two", "InvalidName")]),
     (editor, "journal", []),
     (editor, "copy", []),
+    (desk, "history", []),
+    (desk, "bars", []),
+    (desk, "bar", [plain("hand", "ann", "InvalidName"), plain("selection", (BEHIND, AHEAD), "InvalidMark")]),
+    (desk, "lift", [NUMBER]),
+    (desk, "take", [plain("deed", ("drop", (8, "zoe"), [A, X]), "InvalidItem")]),
+    (desk, "back", []),
 ]
 # What they tell goes by what was done, so that a second call of one object can tell something else.
 DOING = {"put", "drop", "write", "rub", "to", "undo", "redo", "keep", "ordered", "replaced", "pressed", "receive", "mark",
-         "up", "down"}
+         "up", "down", "bar", "lift", "take", "back"}
 
 
 def shown(value):
@@ -346,6 +407,8 @@ def shown(value):
         return ("Net", [(value.heard(hand), value.waiting(hand)) for hand in ("ann", "bob")])
     if isinstance(value, Editor):
         return ("Editor", value.journal(), value.state(), value.place(), value.waiting())
+    if isinstance(value, Desk):
+        return ("Desk", value.history().deeds(), value.bars())
     if isinstance(value, (list, tuple)):
         return type(value)(shown(item) for item in value)
     return value
@@ -389,7 +452,7 @@ class RulesTest(Case):
                 found = lists_in(result)
                 self.assertEqual(len({id(one) for one in found}), len(found))
                 self.assertFalse({id(one) for one in found} & {id(one) for one in lists_in(told)})
-                allowed = {type(None), bool, str, int, tuple, list, History, Tree, Net, Change, Editor}
+                allowed = {type(None), bool, str, int, tuple, list, History, Tree, Net, Change, Editor, Desk}
                 self.assertTrue(kinds_in(result) <= allowed)
 
     def test_by_name_and_again(self):
