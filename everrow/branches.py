@@ -26,7 +26,7 @@ def depths_of_ends(ends):
 def closed_over(ends):
     """The least ends, none less than some, with which branches lie within one another or apart."""
     found = list(ends)
-    for line in reversed(range(len(found))):
+    for line in reversed(range(len(ends))):
         below = line + 1
         while below <= found[line]:
             found[line] = max(found[line], found[below])

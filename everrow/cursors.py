@@ -9,6 +9,8 @@ from everrow.strokes import JUMPS, reach_of
 
 MOST_CURSORS = 4
 MOST_TRIED = 3
+LEFTWARD = ("left", "rub")
+RIGHTWARD = ("right", "cut")
 
 
 def check_cursors(cursors, size):
@@ -99,11 +101,16 @@ def spread_cursors(many, bound):
     return [(row[-1] + step, row) for row in rows for step in range(bound + 1)]
 
 
+def reach_by(keys, words):
+    """No farther off from the cursors, and from the ends, do keys reach by those with some words."""
+    return sum([key[1] for key in keys if key[0] in words])
+
+
 def first_unlike_at(one, other, number):
     """The least size with cursors, at most so many, at which keys have unlike effects, or None if there is none."""
-    # What one cursor does reaches no farther than the sum of the numbers of the keys: so what lies farther apart
-    # than two of these and one sign more does not come together, however far it is.
-    bound = 2 * max(reach_of(one), reach_of(other)) + 1
+    # Beyond what is reached from both sides signs just stay; of these, one is enough to tell what stands beside it.
+    bound = max(reach_by(one, LEFTWARD), reach_by(other, LEFTWARD)) + 1
+    bound += max(reach_by(one, RIGHTWARD), reach_by(other, RIGHTWARD))
     tried = sorted([found for many in range(1, number + 1) for found in spread_cursors(many, bound)])
     for size, cursors in tried:
         row = list(range(size))

@@ -2,7 +2,6 @@
 
 from everrow.automata import LINE_END, machine_for
 from everrow.changes import make_change
-from everrow.chart import names_in
 from everrow.checks import known_state
 from everrow.demands import check_from, check_name, check_text_within, check_within
 from everrow.display import spot, stepped
@@ -16,6 +15,7 @@ from everrow.orders import check_orders, played
 from everrow.overlaps import ends_in_common
 from everrow.past import Past
 from everrow.patterns import make_replacement
+from everrow.states import out
 from everrow.strokes import press
 
 
@@ -98,13 +98,9 @@ class Editor:
         number = self._past.last_within(self._state)
         if number is None:
             raise NothingToUndo()
-        chart = chart_of(self._history)
-        left = known_state(chart, self._state)
-        for name in self._past.turns[number]:
-            deed = chart.numbers[name]
-            left &= ~(1 << deed | chart.above[deed])
         before = self._state
-        self._state = names_in(chart, left)
+        for name in self._past.turns[number]:
+            self._state = out(self._history, self._state, name)
         gone = [name for name in before if name not in self._state]
         self._past.take_back(number, gone)
         return gone

@@ -36,7 +36,8 @@ def least_double(words, meanings, is_apart):
             reached.append(Pair("", (words[one], words[other]), ((one,), (other,)), lead))
     met = {}
     while reached:
-        pairs = sorted([read_on(pair) for pair in reached if do_agree(pair)], key=lambda pair: pair.spelled)
+        pairs = [read_on(pair) for pair in reached if do_agree(pair)]
+        pairs = sorted(pairs, key=lambda reading: reading.spelled)
         for pair in pairs:
             if pair.rests == LEVEL and pair.lead != LEVEL:
                 return (pair.spelled, list(pair.numbers[0]), list(pair.numbers[1]))

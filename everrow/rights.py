@@ -32,17 +32,19 @@ def known_bars(chart, bars):
     return held
 
 
-def sign_cells(chart, deed):
-    """The mask of the cells of the signs that a put has, or that a drop names."""
-    return sum([1 << 2 * place + 1 for place, sign in enumerate(chart.signs) if sign[:2] == deed[1]
-                or deed[0] == "drop" and sign in deed[2]])
+def touched_places(chart, deed):
+    """The places of the signs that a put has, or that a drop names."""
+    if deed[0] == "drop":
+        return [chart.places[sign] for sign in deed[2]]
+    return [place for place, sign in enumerate(chart.signs) if sign[:2] == deed[1]]
 
 
 def breaking_mask(chart, held):
     """The mask of the deeds that touch a cell that is held against their hands."""
     mask = 0
     for number, deed in enumerate(chart.made):
-        if sign_cells(chart, deed) & held.get(deed[1][1], 0):
+        cells = held.get(deed[1][1], 0)
+        if any([cells >> 2 * place + 1 & 1 for place in touched_places(chart, deed)]):
             mask |= 1 << number
     return mask
 

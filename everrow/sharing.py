@@ -9,7 +9,8 @@ def shared(weights, size):
     """The list of how many each part has when so many are shared out."""
     turns = size // sum(weights)
     found = [weight * turns for weight in weights]
-    for _ in range(size - sum(found)):
+    left = size - sum(found)
+    for _ in range(left):
         taker = 0
         for part in range(1, len(weights)):
             # Weights divided by numbers are held against each other without dividing.

@@ -95,13 +95,22 @@ def parting_string(one, other, most):
     check_book(one)
     check_book(other)
     check_most(most)
+    return least_string(one + other, most, lambda many: do_mend_unlike(one, other, many, most), 1)
+
+
+def do_mend_unlike(one, other, many, most):
+    """Whether two books mend a string unlike to which the names of both have so many slips each."""
     size = len(one)
-    return least_string(one + other, most, lambda many: (
-        first_nearest(one, many[:size], most) != first_nearest(other, many[size:], most)), 1)
+    return first_nearest(one, many[:size], most) != first_nearest(other, many[size:], most)
 
 
 def between_two(book, most):
     """The least string with so few slips to each of two names of a book, or None if there is none."""
     check_book(book)
     check_most(most)
-    return least_string(book, most, lambda many: len([slipped for slipped in many if slipped <= most]) > 1, 2)
+    return least_string(book, most, lambda many: are_two_near(many, most), 2)
+
+
+def are_two_near(many, most):
+    """Whether two names at least have so few slips to a string as wanted, given the slips of all."""
+    return len([slipped for slipped in many if slipped <= most]) > 1

@@ -194,7 +194,8 @@ class TurnedTest(Case):
                  ("drop", (5, "b"), [(1, "a", 0), (2, "a", 0)])]
         # The drop that rests on less is taken, though it is the later one.
         self.assertEqual(turned_by(History(deeds), "b", (1, "a", 0)), ([(1, "a")], [(1, "a"), (9, "b")]))
-        self.assertEqual(turned_by(History(deeds), "b", (2, "a", 0)), ([(1, "a"), (2, "a")], [(1, "a"), (2, "a"), (5, "b")]))
+        self.assertEqual(turned_by(History(deeds), "b", (2, "a", 0)),
+                         ([(1, "a"), (2, "a")], [(1, "a"), (2, "a"), (5, "b")]))
         far = History(chain(24))
         self.assertEqual(turned_by(far, "a", (24, "a", 0)), (whole(far)[:23], whole(far)))
 

@@ -169,13 +169,16 @@ class StatesTest(Case):
             self.assertEqual(unfair(History([put, drop]), [("a", "b"), ("c", "d")]), wanted)
         self.assertIsNone(unfair(History([]), PAIR))
         # One sign of each of two puts does not go together.
-        deeds = [("put", (1, "a"), None, "ab"), ("put", (2, "a"), None, "ab"), ("drop", (3, "a"), [(1, "a", 0), (2, "a", 1)])]
+        deeds = [("put", (1, "a"), None, "ab"), ("put", (2, "a"), None, "ab"),
+                 ("drop", (3, "a"), [(1, "a", 0), (2, "a", 1)])]
         self.assertEqual(unfair(History(deeds), PAIR), (3, "a"))
-        self.assertEqual(unfair(History(deeds[:2] + [("drop", (3, "a"), [(1, "a", 0), (1, "a", 1), (2, "a", 0)])]), PAIR),
+        self.assertEqual(unfair(History(deeds[:2] + [("drop", (3, "a"), [(1, "a", 0), (1, "a", 1), (2, "a", 0)])]),
+                                PAIR),
                          (3, "a"))
         self.assertEqual(unfair(History(deeds + [("put", (3, "Z".lower()), None, "b")]), PAIR), (3, "a"))
         # A put that does not close is named, though its drop would be, too.
-        self.assertEqual(unfair(History([("put", (1, "a"), None, "a"), ("drop", (2, "a"), [(1, "a", 0)])]), PAIR), (1, "a"))
+        self.assertEqual(unfair(History([("put", (1, "a"), None, "a"), ("drop", (2, "a"), [(1, "a", 0)])]), PAIR),
+                         (1, "a"))
 
     def test_errors(self):
         for call in (open_state, unfair, lambda history, brackets: closing(history, brackets, None)):
@@ -283,7 +286,8 @@ class SkeletonTest(Case):
 
     def test_errors(self):
         self.refuse_each(InvalidText, NO_OUTLINES, skeleton)
-        wrong = ["", "a", "b", "ba", "aab", "abb", "abba", "acb", "ab ", " ab", "ab\n", "aa", "bb", "cd", "abc", "a b", "\n"]
+        wrong = ["", "a", "b", "ba", "aab", "abb", "abba", "acb", "ab ", " ab", "ab\n", "aa", "bb", "cd", "abc", "a b",
+                 "\n"]
         self.refuse_each(InvalidText, NO_TEXTS + wrong, outline_of)
         self.assertTrue(is_outline(outline_of("aabbab")))
 

@@ -87,8 +87,8 @@ class PressedTest(Case):
 
     def test_one_key(self):
         """Each single key at all cursors of short texts."""
-        for key in (LEFT, ("left", 2), RIGHT, ("right", 3), RUB, ("rub", 2), ("rub", 9), CUT, ("cut", 2), ("cut", 9), FIRST,
-                    LAST, WRITE, ("write", "xyz")):
+        for key in (LEFT, ("left", 2), RIGHT, ("right", 3), RUB, ("rub", 2), ("rub", 9), CUT, ("cut", 2), ("cut", 9),
+                    FIRST, LAST, WRITE, ("write", "xyz")):
             for size in range(6):
                 for cursors in cursor_lists(size, 4):
                     text = "abcde"[:size]
@@ -166,7 +166,8 @@ class AlikeTest(Case):
         for _ in range(240):
             one = small_keys(chance, 4, 1)
             at = chance.randint(0, len(one))
-            more = chance.choice([[WRITE, RUB], [LEFT, RIGHT], [WRITE, LEFT, CUT], [CUT, WRITE], [("write", "xx"), RUB], []])
+            more = chance.choice([[WRITE, RUB], [LEFT, RIGHT], [WRITE, LEFT, CUT], [CUT, WRITE], [("write", "xx"), RUB],
+                                  []])
             found.append((one, one[:at] + more + one[at:]))
             found.append((small_keys(chance, 3, 2), small_keys(chance, 3, 2)))
         # Alike at one cursor alone.

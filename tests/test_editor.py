@@ -212,8 +212,10 @@ class DoingTest(Case):
         signs = sorted(naive.signs(model.came))
         deeds = [("put", (base + k, "zoe"), chance.choice([None] + signs), "yz"[k % 2] * k) for k in (1, 2)]
         deeds += [("put", (base + 3, "zoe"), (base + 1, "zoe", 0), "w"),
-                  ("drop", (base + 4, "bob"), sorted(chance.sample(signs, min(2, len(signs))) + [(base + 3, "zoe", 0)])),
-                  ("put", (base + 2, "ann"), (base + 3, "zoe", 0), "n"), ("put", (base + 5, "y"), (base + 2, "zoe", 3), "n")]
+                  ("drop", (base + 4, "bob"),
+                   sorted(chance.sample(signs, min(2, len(signs))) + [(base + 3, "zoe", 0)])),
+                  ("put", (base + 2, "ann"), (base + 3, "zoe", 0), "n"),
+                  ("put", (base + 5, "y"), (base + 2, "zoe", 3), "n")]
         if chance.random() < 0.3:
             deeds = [("put", (name[0] + 1, "x"), (*name, 0), "v") for name in list(model.waits)[:1]] + [
                 waited for waited in self.later if waited[1] not in model.waits][:3] + model.came[:2]
@@ -609,7 +611,8 @@ class ReceivingTest(Case):
 
     def test_what_never_fits(self):
         pen = Editor("zoe", History([("put", (2, "a"), None, "ab"), ("drop", (3, "a"), [(2, "a", 0)])]))
-        bad = [("put", (5, "b"), (2, "a", 2), "x"), ("drop", (1, "b"), [(2, "a", 1)]), ("put", (6, "b"), (3, "a", 0), "y"),
+        bad = [("put", (5, "b"), (2, "a", 2), "x"), ("drop", (1, "b"), [(2, "a", 1)]),
+               ("put", (6, "b"), (3, "a", 0), "y"),
                ("put", (7, "b"), (5, "b", 0), "z"), ("put", (8, "b"), (9, "b", 0), "w")]
         self.assertEqual(pen.receive(bad), [])
         self.assertEqual(pen.waiting(), [(1, "b"), (5, "b"), (6, "b"), (7, "b"), (8, "b")])
@@ -700,7 +703,8 @@ class ReceivingTest(Case):
         self.refuse_each(InvalidList, NO_LISTS, pen.receive)
         new = ("put", (50, "zoe"), None, "z")
         self.refuse_each(InvalidItem, NO_DEEDS, lambda value: pen.receive([new, value, None]))
-        others = [("put", (1, "ann"), None, "ax"), ("drop", (1, "ann"), [(2, "bob", 0)]), ("put", (9, "zoe"), None, "z"),
+        others = [("put", (1, "ann"), None, "ax"), ("drop", (1, "ann"), [(2, "bob", 0)]),
+                  ("put", (9, "zoe"), None, "z"),
                   ("put", (9, "zoe"), (8, "zoe", 1), "z"), ("put", (50, "zoe"), None, "zz")]
         self.refuse_each(InvalidItem, others, lambda value: pen.receive([new, new, value, None]))
         self.assertEqual(all_told(pen), before)

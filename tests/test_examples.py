@@ -278,9 +278,11 @@ class ExamplesTest(unittest.TestCase):
     def test_authors_and_rights(self):
         history = History(DEEDS)
         self.assertEqual(
-            [by_hands(history, [(1, "ann"), (2, "bob")]), without(history, whole(history), "bob"), alone(history, ["bob"]),
+            [by_hands(history, [(1, "ann"), (2, "bob")]), without(history, whole(history), "bob"),
+             alone(history, ["bob"]),
              fewest_hands(history, "ax"), turned_by(history, "ann", (1, "ann", 1))],
-            [[("ann", "a"), ("bob", "x"), ("ann", "b")], [(1, "ann"), (3, "ann")], [], ["ann", "bob"], ([], [(1, "ann")])],
+            [[("ann", "a"), ("bob", "x"), ("ann", "b")], [(1, "ann"), (3, "ann")], [], ["ann", "bob"],
+             ([], [(1, "ann")])],
         )
         tail = ("ann", (("behind", (2, "bob", 0)), ("last",)))
         self.assertEqual(

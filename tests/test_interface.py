@@ -112,7 +112,8 @@ FUNCTIONS = {
         "unfair": "history brackets", "opened": "brackets table", "skeleton": "outline", "outline_of": "text",
     },
     "everrow.words": {
-        "terms": "text", "staying": "text change", "keeping": "text other", "typed": "shorts row", "meant": "shorts row",
+        "terms": "text", "staying": "text change", "keeping": "text other", "typed": "shorts row",
+        "meant": "shorts row",
         "two_rows": "shorts", "two_meanings": "shorts",
     },
     "everrow.spelling": {
@@ -142,9 +143,11 @@ CLASSES = {
     ("everrow.trees", "Tree"): {"__init__": "history rows", "history": "", "rows": "", "__eq__": None},
     ("everrow.changes", "Change"): {"__init__": "size row", "row": "", "__eq__": None},
     ("everrow.editor", "Editor"): {
-        "__init__": "hand history=", "history": "", "state": "", "text": "", "place": "", "write": "text", "rub": "number",
+        "__init__": "hand history=", "history": "", "state": "", "text": "", "place": "", "write": "text",
+        "rub": "number",
         "to": "place", "home": "", "end": "", "up": "width", "down": "width", "undo": "", "redo": "", "goto": "state",
-        "keep": "name", "back_to": "name", "ordered": "first last orders", "replaced": "pattern text", "pressed": "keys",
+        "keep": "name", "back_to": "name", "ordered": "first last orders", "replaced": "pattern text",
+        "pressed": "keys",
         "receive": "deeds", "waiting": "", "mark": "name", "at": "name", "journal": "", "copy": "",
     },
     ("everrow.rights", "Desk"): {

@@ -401,7 +401,8 @@ class LimitsTest(unittest.TestCase):
                 words.two_meanings(rows)
 
     def test_spelling(self):
-        books = [["abcde", "fghij", "klmno", "pqrst"], ["aabba", "abbab", "babba", "bbabb"], ["aaaaa", "aaaab", "aaaac", "b"],
+        books = [["abcde", "fghij", "klmno", "pqrst"], ["aabba", "abbab", "babba", "bbabb"],
+                 ["aaaaa", "aaaab", "aaaac", "b"],
                  ["abcde", "abced", "abdce", "acbde"], ["uvwxy", "vwxyz", "wxyza", "xyzab"]]
         for one in books:
             for most in range(3):
@@ -412,7 +413,8 @@ class LimitsTest(unittest.TestCase):
         spelling.mending(eight, "abcdefghij " * 18, 3)
 
     def test_authors(self):
-        for seed, deeds in enumerate([heap(14, "ab"), chain(14, "ab"), mixed(7, 7)] + [bushy(k, 14, 3) for k in range(4)]):
+        large = [heap(14, "ab"), chain(14, "ab"), mixed(7, 7)] + [bushy(seed, 14, 3) for seed in range(4)]
+        for seed, deeds in enumerate(large):
             given = History([(deed[0], (deed[1][0], "abcde"[deed[1][0] % 5]), *self.by_more(deed)) for deed in deeds])
             text = text_of(given, closure(given, whole(given)[:seed + 2]))
             told = authors.fewest_hands(given, text)

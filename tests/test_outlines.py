@@ -7,7 +7,8 @@ from random import Random
 from everrow.changes import done
 from everrow.errors import InvalidItem, InvalidList, InvalidNumber, InvalidText
 from everrow.outlines import (
-    deeper, fewest_in, flatter, how_many_outlines, is_outline, outline_at, shift_change, shifted, steeper, unlike_outline,
+    deeper, fewest_in, flatter, how_many_outlines, is_outline, outline_at, shift_change, shifted, steeper,
+    unlike_outline,
 )
 from tests.cases import Case
 from tests.makers import NO_LISTS, NO_NUMBERS, NO_TEXTS
@@ -185,7 +186,8 @@ class KinTest(Case):
         self.assertEqual([steeper(first, second)], [outline(row, words) for row in least])
         amid = [row for row in rows if tuple(row) in steps[tuple(one)] and tuple(other) in steps[tuple(row)]]
         self.assertEqual(how_many_outlines(first, second), len(amid))
-        self.assertEqual([outline_at(first, second, at) for at in range(len(amid))], [outline(row, words) for row in amid])
+        self.assertEqual([outline_at(first, second, at) for at in range(len(amid))],
+                         [outline(row, words) for row in amid])
 
     def test_six_and_seven_lines(self):
         chance = Random(2)
@@ -244,7 +246,8 @@ class KinTest(Case):
     def test_errors(self):
         some = "a\n b"
         unkin = ["a", "a\nc", "b\na", "a\nb\n", "a\n\n", "a \nb", "ab", "", "a\nb b"]
-        for call in (deeper, fewest_in, flatter, steeper, how_many_outlines, lambda one, other: outline_at(one, other, None)):
+        for call in (deeper, fewest_in, flatter, steeper, how_many_outlines,
+                     lambda one, other: outline_at(one, other, None)):
             self.refuse_each(InvalidText, NO_OUTLINES, lambda value: call(value, None))
             self.refuse_each(InvalidText, NO_OUTLINES + unkin, lambda value: call(some, value))
         self.refuse_each(InvalidNumber, NO_NUMBERS + [-1, 2], lambda value: outline_at("a\nb", some, value))

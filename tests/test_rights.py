@@ -23,7 +23,8 @@ HANDS = ["a", "b", "zoe"]
 def no_bars():
     """Values that are no bars of the plain history."""
     return [(name, (FIRST, LAST)) for name in NO_NAMES] + [("ann", value) for value in no_selections()] + [
-        None, True, 0, "ann", [], (), ("ann",), ["ann", (FIRST, LAST)], ("ann", FIRST, LAST), {}, ("ann", (FIRST, LAST), 1)]
+        None, True, 0, "ann", [], (), ("ann",), ["ann", (FIRST, LAST)], ("ann", FIRST, LAST), {},
+        ("ann", (FIRST, LAST), 1)]
 
 
 def held(deeds, bar):
@@ -105,10 +106,12 @@ class BreaksTest(Case):
             more = list(deeds)
             for _ in range(3):
                 more.append(chance.choice(list(coming(more, ["a", "b"]))))
-            self.assertEqual([name for name in breaks(History(more), bars) if name in [deed[1] for deed in deeds]], given)
+            self.assertEqual([name for name in breaks(History(more), bars) if name in [deed[1] for deed in deeds]],
+                             given)
 
     def test_edges(self):
-        self.assertEqual((breaks(History([]), []), granted(History([]), []), is_granted(History([]), [], [])), ([], [], True))
+        self.assertEqual((breaks(History([]), []), granted(History([]), []), is_granted(History([]), [], [])),
+                         ([], [], True))
         everything = [("ann", (FIRST, LAST))]
         self.assertEqual((breaks(plain(), everything), granted(plain(), everything)), ([ANN, DROP], []))
         self.assertEqual(breaks(plain(), [("bob", (FIRST, LAST))]), [BOB])
@@ -127,8 +130,10 @@ class BreaksTest(Case):
 
     def test_errors(self):
         calls = [breaks, granted, fewest_bars, lambda history, bars: is_granted(history, bars, None),
-                 lambda history, bars: same_bars(history, bars, None), lambda history, bars: parting_deed(history, bars, None),
-                 lambda history, bars: same_bars(history, [], bars), lambda history, bars: parting_deed(history, [], bars)]
+                 lambda history, bars: same_bars(history, bars, None),
+                 lambda history, bars: parting_deed(history, bars, None),
+                 lambda history, bars: same_bars(history, [], bars),
+                 lambda history, bars: parting_deed(history, [], bars)]
         for call in calls:
             self.refuse_each(InvalidHistory, NO_HISTORIES, lambda value: call(value, None))
             self.refuse_each(InvalidList, NO_LISTS + [(("ann", (FIRST, LAST)),)], lambda value: call(plain(), value))
@@ -371,7 +376,8 @@ class DeskTest(Case):
         self.refuse_each(InvalidName, NO_NAMES, lambda value: desk.bar(value, None))
         self.refuse_each(InvalidMark, no_selections(), lambda value: desk.bar("ann", value))
         self.refuse_each(InvalidNumber, NO_NUMBERS + [-1, 2], desk.lift)
-        wrong = NO_DEEDS + [PLAIN[0], ("put", ANN, None, "ab"), ("drop", BOB, [A]), ("put", (2, "cy"), (2, "bob", 0), "x"),
+        wrong = NO_DEEDS + [PLAIN[0], ("put", ANN, None, "ab"), ("drop", BOB, [A]),
+                            ("put", (2, "cy"), (2, "bob", 0), "x"),
                             ("put", (9, "cy"), (8, "cy", 0), "x"), ("put", (9, "cy"), (1, "ann", 2), "x"),
                             ("put", (9, "cy"), (3, "ann", 0), "x"), ("drop", (1, "cy"), [A]), ("drop", (9, "zoe"), [B])]
         self.refuse_each(InvalidItem, wrong, desk.take)

@@ -300,7 +300,8 @@ CALLS = [
     ("outlines", "steeper", OUTLINES),
     ("outlines", "how_many_outlines", OUTLINES),
     ("outlines", "outline_at", OUTLINES + [NUMBER]),
-    ("outlines", "unlike_outline", [plain("one", [("in", 1)], "InvalidList"), plain("other", [("in", 2)], "InvalidList")]),
+    ("outlines", "unlike_outline", [plain("one", [("in", 1)], "InvalidList"),
+                                    plain("other", [("in", 2)], "InvalidList")]),
     ("brackets", "closes", [BRACKETS, TEXT]),
     ("brackets", "open_state", [HISTORY, BRACKETS]),
     ("brackets", "closing", [HISTORY, BRACKETS, state("state", *TOP)]),
@@ -324,7 +325,8 @@ CALLS = [
     ("authors", "by_hands", [HISTORY, state("state", ANN, BOB)]),
     ("authors", "without", [HISTORY, state("state", *TOP), plain("hand", "bob", "InvalidName")]),
     ("authors", "alone", [HISTORY, plain("hands", ["zoe", "ann"], "InvalidList")]),
-    ("authors", "brought", [HISTORY, plain("hands", ["bob", "ann"], "InvalidList"), plain("text", "ax", "InvalidText")]),
+    ("authors", "brought", [HISTORY, plain("hands", ["bob", "ann"], "InvalidList"),
+                            plain("text", "ax", "InvalidText")]),
     ("authors", "fewest_hands", [HISTORY, plain("text", "ax", "InvalidText")]),
     ("authors", "turned_by", [HISTORY, plain("hand", "ann", "InvalidName"), SIGN]),
     ("rights", "breaks", [HISTORY, plain("bars", BARS, "InvalidList")]),
@@ -391,8 +393,8 @@ METHODS = [
     (desk, "back", []),
 ]
 # What they tell goes by what was done, so that a second call of one object can tell something else.
-DOING = {"put", "drop", "write", "rub", "to", "undo", "redo", "keep", "ordered", "replaced", "pressed", "receive", "mark",
-         "up", "down", "bar", "lift", "take", "back"}
+DOING = {"put", "drop", "write", "rub", "to", "undo", "redo", "keep", "ordered", "replaced", "pressed", "receive",
+         "mark", "up", "down", "bar", "lift", "take", "back"}
 
 
 def shown(value):

@@ -81,7 +81,8 @@ class SlipsTest(Case):
     def test_edges(self):
         self.assertEqual((slips("", ""), slips("", "abcdefghij"), slips("abcdefghij", "")), (0, 10, 10))
         self.assertEqual((slips("abcdefghij", "abcdefghij"), slips("a" * 10, "b" * 10)), (0, 10))
-        self.assertEqual((slips("ab", "ba"), slips("aab", "aba"), slips("abab", "baba"), slips("abcd", "badc")), (1, 1, 2, 2))
+        self.assertEqual((slips("ab", "ba"), slips("aab", "aba"), slips("abab", "baba"), slips("abcd", "badc")),
+                         (1, 1, 2, 2))
         # What was turned round is not cut once more.
         self.assertEqual((slips("ca", "abc"), slips("ab", "bca"), slips("aa", "aa")), (3, 3, 0))
 
@@ -153,7 +154,8 @@ class MendingTest(Case):
         chance = Random(3)
         for _ in range(400):
             book, most = random_book(chance, chance.randint(1, 4)), chance.randint(0, 3)
-            words = ["".join(chance.choice("abc") for _ in range(chance.randint(1, 6))) for _ in range(chance.randint(0, 4))]
+            words = ["".join(chance.choice("abc") for _ in range(chance.randint(1, 6)))
+                     for _ in range(chance.randint(0, 4))]
             text = "".join(word + chance.choice([" ", "\n", "  "]) for word in words)[chance.randint(0, 1):]
             change = mending(book, text, most)
             self.assertEqual(change, self.naive(book, text, most))

@@ -34,8 +34,8 @@ def numbers_of(change):
 
 
 def naive_rubbing(one, other):
-    return sorted((low, high, least, most) for low, high, _ in stretches_of(one) for least, most, _ in stretches_of(other)
-                  if max(low, least) < min(high, most))
+    return sorted((low, high, least, most) for low, high, _ in stretches_of(one)
+                  for least, most, _ in stretches_of(other) if max(low, least) < min(high, most))
 
 
 def naive_both(one, other):
@@ -91,7 +91,8 @@ class BothTest(Case):
 
     def test_edges(self):
         nothing, keeping = Change(0, []), Change(3, [0, 1, 2])
-        self.assertEqual((both(nothing, nothing), over(nothing, nothing), rubbing(nothing, nothing)), (nothing, nothing, []))
+        self.assertEqual((both(nothing, nothing), over(nothing, nothing), rubbing(nothing, nothing)),
+                         (nothing, nothing, []))
         # Texts without a sign have but one gap.
         self.assertEqual(rubbing(Change(0, ["x"]), Change(0, ["y", "z"])), [(-1, 0, -1, 0)])
         self.assertEqual(both(Change(0, ["x"]), nothing), Change(0, ["x"]))
@@ -152,7 +153,8 @@ class BothTest(Case):
         some = Change(2, [0, "a"])
         for call in (both, over, rubbing):
             self.refuse_each(InvalidChange, NO_CHANGES, lambda value: call(value, None))
-            self.refuse_each(InvalidChange, NO_CHANGES + [Change(1, []), Change(3, [])], lambda value: call(some, value))
+            self.refuse_each(InvalidChange, NO_CHANGES + [Change(1, []), Change(3, [])],
+                             lambda value: call(some, value))
 
     def test_results_are_new(self):
         one, other = Change(3, [0, "x", 1, 2]), Change(3, [0, 1, "y"])

@@ -12,7 +12,8 @@ from tests.cases import Case
 from tests.makers import NO_LISTS, NO_NUMBERS, NO_TEXTS, plain
 
 PAIR = ("across", [(1, "a"), (1, "b")])
-DEEP = ("across", [(1, ("down", [(1, ("across", [(1, ("down", [(1, "a"), (2, "b")])), (1, "c")])), (1, "d")])), (1, "e")])
+DEEP = ("across", [(1, ("down", [(1, ("across", [(1, ("down", [(1, "a"), (2, "b")])), (1, "c")])), (1, "d")])),
+                   (1, "e")])
 NO_NAMES = ["", "A", "a b", "abcdefghi", "\u00e4", "a\n"]
 
 
@@ -25,10 +26,13 @@ def no_layouts():
     names = "abcdefghi"
     nine = ("across", [(1, ("down", [(1, name) for name in names[k:k + 3]])) for k in (0, 3, 6)])
     found = NO_NAMES + [
-        None, True, 0, [], (), {}, ("across",), ("across", []), ("across", [(1, "a")]), ("across", ((1, "a"), (1, "b"))),
+        None, True, 0, [], (), {}, ("across",), ("across", []), ("across", [(1, "a")]),
+        ("across", ((1, "a"), (1, "b"))),
         ["across", [(1, "a"), (1, "b")]], ("Across", [(1, "a"), (1, "b")]), ("up", [(1, "a"), (1, "b")]),
-        ("across", [(1, name) for name in "abcde"]), ("across", [(1, "a"), (1, "b")], 1), (["across"], [(1, "a"), (1, "b")]),
-        ("across", "ab"), ("across", [(1, "a"), "b"]), ("across", [(1, "a"), (1, "a")]), ("across", [(1, "a"), ("1", "b")]),
+        ("across", [(1, name) for name in "abcde"]), ("across", [(1, "a"), (1, "b")], 1),
+        (["across"], [(1, "a"), (1, "b")]),
+        ("across", "ab"), ("across", [(1, "a"), "b"]), ("across", [(1, "a"), (1, "a")]),
+        ("across", [(1, "a"), ("1", "b")]),
         ("across", [(0, "a"), (1, "b")]), ("across", [(10, "a"), (1, "b")]), ("across", [(True, "a"), (1, "b")]),
         ("across", [(1, "a"), (1,)]), ("across", [(1, "a"), [1, "b"]]), ("across", [(1, "a"), (1, "b", 1)]),
         ("across", [(None, "a"), (1, "b")]), nine, part(DEEP), part(part(part(part(PAIR)))), plain(),
@@ -135,7 +139,8 @@ class RoomsTest(Case):
     def test_edges(self):
         self.assertEqual(rooms("a", 3, 0), [("a", 0, 0, 3, 0)])
         self.assertEqual(rooms("across", 1, 1), [("across", 0, 0, 1, 1)])
-        self.assertEqual(rooms(("down", [(1, "down"), (1, "across")]), 1, 1), [("down", 0, 0, 1, 1), ("across", 0, 1, 1, 0)])
+        self.assertEqual(rooms(("down", [(1, "down"), (1, "across")]), 1, 1),
+                         [("down", 0, 0, 1, 1), ("across", 0, 1, 1, 0)])
         self.assertEqual(rooms(PAIR, 0, 0), [("a", 0, 0, 0, 0), ("b", 0, 0, 0, 0)])
         # The first of equal ones takes the next column.
         self.assertEqual(rooms(PAIR, 3, 1), [("a", 0, 0, 2, 1), ("b", 2, 0, 1, 1)])
@@ -169,7 +174,8 @@ class LeastRoomTest(Case):
         found = []
         for at in (3, 4):
             size = 0
-            while not all(row[at] >= wish[at - 2] for row in rooms(layout, size, size) for wish in wishes if wish[0] == row[0]):
+            while not all(row[at] >= wish[at - 2] for row in rooms(layout, size, size) for wish in wishes
+                          if wish[0] == row[0]):
                 size += 1
             found.append(size)
         return tuple(found)
@@ -212,7 +218,8 @@ class LeastRoomTest(Case):
     def test_errors(self):
         self.refuse_each(InvalidList, NO_LISTS + [(("a", 1, 1),)], lambda value: least_room(PAIR, value))
         wrong = [None, True, "a", [], (), ("a",), ("a", 1), ("a", 1, 1, 1), ["a", 1, 1], ("c", 1, 1), ("", 1, 1),
-                 (None, 1, 1), (["a"], 1, 1), ("a", -1, 1), ("a", 1, -1), ("a", True, 1), ("a", 1, False), ("a", "1", 1),
+                 (None, 1, 1), (["a"], 1, 1), ("a", -1, 1), ("a", 1, -1), ("a", True, 1), ("a", 1, False),
+                 ("a", "1", 1),
                  ("a", 1, None), ("b", 1, 1), {}, ("ab", 1, 1)]
         for value in wrong:
             self.refuse(InvalidItem, value, least_room, PAIR, [("b", 1, 1), value, None])

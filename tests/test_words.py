@@ -14,7 +14,8 @@ from tests.test_changes import NO_CHANGES, random_change, rows_of
 
 SHORTS = [("a", "x"), ("ab", "xy"), ("b", "y"), ("ba", "yy")]
 NO_SHORTS = [
-    None, True, 0, "ab", [], (), ("a",), ("a", "x", "y"), ["a", "x"], ("", "x"), ("abcde", "x"), ("A", "x"), ("a b", "x"),
+    None, True, 0, "ab", [], (), ("a",), ("a", "x", "y"), ["a", "x"], ("", "x"), ("abcde", "x"), ("A", "x"),
+    ("a b", "x"),
     ("a\n", "x"), ("a", ""), ("a", "xxxxxxx"), ("a", "X"), ("a", None), (None, "x"), (["a"], "x"), ("a", ["x"]), {},
 ]
 
@@ -33,7 +34,7 @@ def naive_staying(text, row):
 def longest_common(one, other):
     """The length of the longest row that two rows of terms have in common, by trying all of the one."""
     for many in range(min(len(one), len(other)), -1, -1):
-        if {tuple(chosen) for chosen in combinations(one, many)} & {tuple(chosen) for chosen in combinations(other, many)}:
+        if set(combinations(one, many)) & set(combinations(other, many)):
             return many
     return None
 
@@ -87,7 +88,8 @@ class TermsTest(Case):
     def test_keeping(self):
         chance, most = Random(2), 0
         for _ in range(400):
-            text, other = ["".join(chance.choice(["a ", "b ", "ab", " ", "\n", "c\n"]) for _ in range(chance.randint(0, 10)))
+            text, other = ["".join(chance.choice(["a ", "b ", "ab", " ", "\n", "c\n"])
+                                   for _ in range(chance.randint(0, 10)))
                            for _ in range(2)]
             most = max(most, self.check(text, other))
         self.assertGreater(most, 3)
@@ -146,7 +148,8 @@ def least_doubles(shorts, most, letters="ab"):
 
 def random_shorts(chance):
     """Shorts, about half of them such that each means what its letters mean, so that all rows of a text agree."""
-    words = sorted({"".join(chance.choice("ab") for _ in range(chance.randint(1, 4))) for _ in range(chance.randint(1, 6))})
+    words = sorted({"".join(chance.choice("ab") for _ in range(chance.randint(1, 4)))
+                    for _ in range(chance.randint(1, 6))})
     chance.shuffle(words)
     if chance.random() < 0.5:
         letters = {"a": chance.choice(["x", "y", ""]), "b": chance.choice(["x", "y"])}
@@ -191,7 +194,8 @@ class ShortsTest(Case):
 
     def test_edges(self):
         self.assertEqual((two_rows([("a", "x")]), two_meanings([("a", "x")])), (None, None))
-        self.assertEqual((two_rows([("abcd", "x"), ("abc", "x")]), two_meanings([("abcd", "x"), ("abc", "x")])), (None, None))
+        self.assertEqual((two_rows([("abcd", "x"), ("abc", "x")]), two_meanings([("abcd", "x"), ("abc", "x")])),
+                         (None, None))
         self.assertEqual(two_rows([("a", "x"), ("aa", "xx")])[0], "aa")
         self.assertIsNone(two_meanings([("a", "x"), ("aa", "xx")]))
         self.assertEqual(two_meanings([("a", "x"), ("aa", "x")])[0], "aa")
